@@ -1,0 +1,1 @@
+"""Fetchwalks: how often a program asks its store, for all data."""
