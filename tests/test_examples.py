@@ -1,0 +1,57 @@
+"""The examples of the document, as they stand there."""
+
+import doctest
+import unittest
+
+STAGE_1 = """
+>>> from fetchwalks.schemas import Schema
+>>> from fetchwalks.stores import Store
+>>> shop = Schema(["order", "customer", "shop"], {"buyer": ("order", "customer", "orders", False), "place": ("order", "shop", None, False)})
+>>> [shop.links(), shop.target_of("orders"), shop.back_of("place"), shop.links_from("customer")]
+[['buyer', 'orders', 'place'], 'order', None, ['orders']]
+>>> store = Store(shop)
+>>> store["customer", 1] = {}
+>>> store["order", 1] = {"buyer": 1, "place": None}
+>>> store["order", 2] = {"buyer": 1, "place": None}
+>>> [len(store), store.members("orders", 1), store["order", 2], ("shop", 1) in store]
+[3, [1, 2], {'buyer': 1, 'place': None}, False]
+"""
+
+STAGE_2 = """
+>>> from fetchwalks.runs import touched, touches
+>>> from fetchwalks.walks import Walk
+>>> walk = Walk(shop, [("find", "o", "order", "many", (("go", "o", "buyer", "c", (("for", "c", "orders", "p", (("go", "p", "place", "s", ()),)),)),))])
+>>> [walk.spots(), walk.route((0, 0, 0, 0)), walk.loops(), walk.owner_of((0, 0, 0))]
+[[(0,), (0, 0), (0, 0, 0), (0, 0, 0, 0)], ('o', 'buyer', 'orders', 'place'), [(0, 0, 0)], (0, 0)]
+>>> [list(touches(walk, store, {"o": [2]})), touched(walk, store, {"o": []})]
+[[((0,), 2), ((0, 0), 1), ((0, 0, 0), 1), ((0, 0, 0), 2)], []]
+"""
+
+STAGE_6 = """
+>>> from fetchwalks.walkpairs import is_within, needless, parting
+>>> twice = walk + Walk(shop, [("find", "o", "order", "many", (("go", "o", "place", "t", ()),))])
+>>> [is_within(walk, twice), is_within(twice, walk), needless(twice)]
+[True, False, []]
+"""
+
+# What the document says in words about the walks of its last example.
+PARTED = """
+>>> parted, roots, thing = parting(walk, twice)
+>>> [parted.rows(), roots, thing]
+[[('order', 1, {'buyer': None, 'place': 1}), ('shop', 1, {})], {'o': [1]}, ('object', 'shop', 1)]
+"""
+
+
+class Examples(unittest.TestCase):
+    def test_all_in_their_sequence(self):
+        names = {}
+        for number, text in enumerate([STAGE_1, STAGE_2, STAGE_6, PARTED]):
+            test = doctest.DocTestParser().get_doctest(text, names, f"example {number}", None, 0)
+            told = []
+            result = doctest.DocTestRunner().run(test, out=told.append, clear_globs=False)
+            self.assertEqual((result.failed, result.attempted > 0), (0, True), "".join(told))
+            names = test.globs
+
+
+if __name__ == "__main__":
+    unittest.main()
