@@ -10,8 +10,12 @@ def is_integer(value):
     return isinstance(value, int) and not isinstance(value, bool)
 
 
+def is_count(value):
+    return is_integer(value) and value >= 0
+
+
 def is_id(value):
-    return is_integer(value) and 1 <= value <= GREATEST_ID
+    return isinstance(value, int) and 1 <= value <= GREATEST_ID and not isinstance(value, bool)
 
 
 def is_sequence(value):
@@ -19,11 +23,28 @@ def is_sequence(value):
 
 
 def is_name(value):
-    if not isinstance(value, str) or not 1 <= len(value) <= LONGEST_NAME:
+    if not isinstance(value, str) or len(value) > LONGEST_NAME:
         return False
-    return all([letter in LETTERS for letter in value])
+    # Of the signs of ASCII only the letters from a to z pass both other tests.
+    return value.isascii() and value.isalpha() and value.islower()
 
 
 def is_path(value):
     """Whether the value is a tuple of integers, and so can be a key."""
-    return isinstance(value, tuple) and all([is_integer(position) for position in value])
+    if not isinstance(value, tuple):
+        return False
+    for position in value:
+        # Nearly all are plain integers, which this tells at once.
+        if type(position) is not int and not is_integer(position):
+            return False
+    return True
+
+
+def are_words(value):
+    """Whether the value is a tuple of strings, and so can be a key."""
+    if not isinstance(value, tuple):
+        return False
+    for word in value:
+        if not isinstance(word, str):
+            return False
+    return True

@@ -9,26 +9,34 @@ from fetchwalks.walks import check_walk
 
 def touches(walk, store, roots):
     check_run(walk, store, roots)
-    for word, spot, number in run_events(walk, store, roots):
+    for word, step, number in run_events(walk, store, roots):
         if word == "touch":
-            yield spot, number
+            yield step.path, number
 
 
 def loops_of(walk, store, roots):
     check_run(walk, store, roots)
-    for word, loop, number in run_events(walk, store, roots):
+    for word, step, number in run_events(walk, store, roots):
         if word == "loop":
-            yield loop, number
+            yield step.path, number
 
 
 def touched(walk, store, roots):
-    rows = list(touches(walk, store, roots))
-    return sorted({(walk.kind_of(spot), number) for spot, number in rows})
+    check_run(walk, store, roots)
+    found = set()
+    for word, step, number in run_events(walk, store, roots):
+        if word == "touch":
+            found.add((step.kind, number))
+    return sorted(found)
 
 
 def looped_lists(walk, store, roots):
-    rows = list(loops_of(walk, store, roots))
-    return sorted({(walk.statement(loop)[2], number) for loop, number in rows})
+    check_run(walk, store, roots)
+    found = set()
+    for word, step, number in run_events(walk, store, roots):
+        if word == "loop":
+            found.add((step.name, number))
+    return sorted(found)
 
 
 def check_run(walk, store, roots):
@@ -59,32 +67,35 @@ def are_numbers(store, kind, value):
 
 
 def run_events(walk, store, roots):
-    """Yields ("touch", spot, number) and ("loop", loop, number of the owner), as the run goes."""
-    for position, find in enumerate(walk.written_finds()):
-        _, name, _, _, body = find
-        path = (position,)
-        for number in roots[name]:
-            numbers = {name: number}
-            yield "touch", path, number
-            yield from body_events(store, body, path, numbers)
+    """Yields ("find", step, None), ("touch", step, number) and ("loop", step, number of the owner), as the run goes.
 
-
-def body_events(store, body, path, numbers):
-    for position, step in enumerate(body):
-        here = path + (position,)
-        yield from step_events(store, step, here, numbers)
-
-
-def step_events(store, step, here, numbers):
-    word, x, name = step[:3]
-    owner, body = numbers[x], step[-1]
-    if word == "if":
-        if store.is_true(name, owner):
-            yield from body_events(store, body, here, numbers)
-    else:
-        if word == "for":
-            yield "loop", here, owner
-        for end in store.ends(name, owner):
-            inner = {**numbers, step[3]: end}
-            yield "touch", here, end
-            yield from body_events(store, body, here, inner)
+    The steps are those of the walk's program. A find comes ahead of its roots, a loop ahead of its members.
+    """
+    program = walk.program
+    # The objects at the steps, and what the finds and loops that are going on have still to go through.
+    numbers = [None] * len(program)
+    going = []
+    at = 0
+    while at < len(program) or len(going) > 0:
+        if len(going) > 0 and at == program[going[-1][0]].past:
+            place, ends, turn = going.pop()
+            if turn < len(ends):
+                numbers[place] = ends[turn]
+                going.append((place, ends, turn + 1))
+                yield "touch", program[place], ends[turn]
+                at = place + 1
+            continue
+        step = program[at]
+        owner = None if step.owner is None else numbers[step.owner]
+        if step.word == "if":
+            at = at + 1 if store.is_true(step.name, step.owner_kind, owner) else step.past
+        elif step.word == "go":
+            numbers[at] = store.target(step.field, step.owner_kind, owner)
+            if numbers[at] is not None:
+                yield "touch", step, numbers[at]
+            at = step.past if numbers[at] is None else at + 1
+        else:
+            yield "find" if step.word == "find" else "loop", step, owner
+            ends = roots[step.name] if step.word == "find" else store.leading_to(step.field, owner)
+            going.append((at, ends, 0))
+            at = step.past

@@ -18,6 +18,8 @@ class Schema:
         self._fields = {name: fields[name] for name in sorted(fields)}
         self._flags = {name: flags[name] for name in sorted(flags)}
         self._links = link_table(self._fields)
+        self._shapes = shape_table(self._kinds, self._links, self._flags)
+        self._followers = None
 
     def kinds(self):
         return list(self._kinds)
@@ -48,21 +50,39 @@ class Schema:
 
     def links_from(self, kind):
         check_kind(self, kind)
-        return [link for link in self._links if self._links[link][0] == kind]
+        return list(self._shapes[kind][2])
 
     def flags_of(self, kind):
         check_kind(self, kind)
-        return [flag for flag in self._flags if self._flags[flag] == kind]
+        return list(self._shapes[kind][1])
 
-    def fields_of(self, kind):
-        """The sorted list of the fields that lead from the kind."""
-        return [link for link in self.links_from(kind) if link in self._fields]
-
-    def kind_of_flag(self, flag):
-        return self._flags[flag]
+    def has_kind(self, value):
+        return isinstance(value, str) and value in self._shapes
 
     def has_link(self, value):
         return isinstance(value, str) and value in self._links
+
+    @property
+    def link_rows(self):
+        """From each link, sorted, to (kind, target, link back, whether it is a list, whether it is single)."""
+        return self._links
+
+    @property
+    def flag_kinds(self):
+        """From each flag, sorted, to its kind."""
+        return self._flags
+
+    @property
+    def shapes(self):
+        """From each kind to the tuple of the sorted lists of its fields, its flags, its links, and its row's names."""
+        return self._shapes
+
+    @property
+    def followers(self):
+        """From each link to the sorted list of the links that can follow it."""
+        if self._followers is None:
+            self._followers = follower_table(self._links)
+        return self._followers
 
     def _link_row(self, link):
         if not self.has_link(link):
@@ -84,6 +104,28 @@ def link_table(fields):
         if back is not None:
             rows[back] = (target, kind, name, True, single)
     return {link: rows[link] for link in sorted(rows)}
+
+
+def shape_table(kinds, links, flags):
+    """From each kind to the tuple of the sorted lists of its fields, its flags, its links, and its row's names."""
+    shapes = {}
+    for kind in kinds:
+        own_links = [link for link in links if links[link][0] == kind]
+        own_fields = [link for link in own_links if not links[link][3]]
+        own_flags = [flag for flag in flags if flags[flag] == kind]
+        shapes[kind] = (own_fields, own_flags, own_links, sorted(own_fields + own_flags))
+    return shapes
+
+
+def follower_table(links):
+    """From each link to the sorted list of the links that can follow it."""
+    table = {}
+    for link in links:
+        _, target, back, is_list, single = links[link]
+        # Neither a list nor a single field is followed by the link that leads back along it.
+        barred = back if is_list or single else None
+        table[link] = [other for other in links if links[other][0] == target and other != barred]
+    return table
 
 
 def check_kinds(kinds):
@@ -137,8 +179,13 @@ def check_flags(kinds, fields, flags):
 
 
 def check_kind(schema, kind):
-    if not is_one_of(kind, schema.kinds()):
+    if not schema.has_kind(kind):
         raise UnknownKind(kind)
+
+
+def check_link(schema, link):
+    if not schema.has_link(link):
+        raise UnknownLink(link)
 
 
 def check_schema(schema):

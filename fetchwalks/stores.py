@@ -12,8 +12,9 @@ class Store:
     def __init__(self, schema):
         check_schema(schema)
         self._schema = schema
+        # Neither the rows nor the lists of members are ever changed, only replaced: copies share them.
         self._rows = {}
-        # From a field and a target to the IDs of the objects whose field leads there: runs ask for them often.
+        # From a field and a target to the sorted list of the IDs of the objects whose field leads there.
         self._leading = {}
 
     @property
@@ -25,7 +26,7 @@ class Store:
         check_kind(self._schema, kind)
         if not is_id(number):
             raise InvalidId(number)
-        check_row(self._schema, kind, worth)
+        check_row(self._schema.shapes[kind], worth)
         self._take({(kind, number): worth})
 
     def __getitem__(self, at):
@@ -40,15 +41,17 @@ class Store:
     def __iadd__(self, other):
         if not is_sequence(other):
             raise InvalidRows(None)
+        shapes = self._schema.shapes
         fresh = {}
         for position, element in enumerate(other):
-            if not is_element(self._schema, element):
+            if not is_element(shapes, element):
                 raise InvalidRows(position)
             kind, number, row = element
+            at = (kind, number)
             # The last row of an object counts, at its own position.
-            if (kind, number) in fresh:
-                del fresh[kind, number]
-            fresh[kind, number] = row
+            if at in fresh:
+                del fresh[at]
+            fresh[at] = row
         self._take(fresh)
         return self
 
@@ -71,7 +74,7 @@ class Store:
             raise UnknownLink(link)
         if not self._has(schema.kind_of(link), number):
             raise UnknownObject(schema.kind_of(link), number)
-        return sorted(self._leading.get((schema.back_of(link), number), {}))
+        return list(self._leading.get((schema.back_of(link), number), ()))
 
     def rows(self):
         return [(kind, number, dict(self._rows[kind, number])) for kind, number in sorted(self._rows)]
@@ -79,42 +82,54 @@ class Store:
     def copy(self):
         twin = Store(self._schema)
         twin._rows = {at: self._rows[at] for at in self._rows}
-        twin._leading = {at: dict(self._leading[at]) for at in self._leading}
+        twin._leading = {end: self._leading[end] for end in self._leading}
         return twin
 
-    def is_true(self, flag, number):
+    def is_true(self, flag, kind, number):
         """Whether the flag of an object of the store is true."""
-        return self._rows[self._schema.kind_of_flag(flag), number][flag]
+        return self._rows[kind, number][flag]
 
-    def ends(self, link, number):
-        """The IDs to which a link leads from an object of the store: of its members, or of its target, if any."""
-        if self._schema.is_list(link):
-            return self.members(link, number)
-        target = self._rows[self._schema.kind_of(link), number][link]
-        return [] if target is None else [target]
+    def target(self, field, kind, number):
+        """The ID to which the field of an object of the store leads, or None."""
+        return self._rows[kind, number][field]
+
+    def leading_to(self, field, number):
+        """The IDs, ascending, of the objects whose field leads to this one."""
+        return list(self._leading.get((field, number), ()))
+
+    def crowded(self, link, most):
+        """The IDs of the objects that have more members than this by a list."""
+        back = self._schema.back_of(link)
+        return [end for field, end in self._leading if field == back and len(self._leading[field, end]) > most]
 
     def _has(self, kind, number):
         return isinstance(kind, str) and is_integer(number) and (kind, number) in self._rows
 
     def _take(self, fresh):
-        added = [at for at in fresh if at not in self._rows]
-        if len(self._rows) + len(added) > MOST_OBJECTS:
+        rows, shapes = self._rows, self._schema.shapes
+        added = [at for at in fresh if at not in rows]
+        if len(rows) + len(added) > MOST_OBJECTS:
             raise TooMany("objects", MOST_OBJECTS)
-        self._check_targets(fresh)
-        for kind, number in fresh:
-            self._write(kind, number, fresh[kind, number])
+        linked = [at for at in fresh if len(shapes[at[0]][0]) > 0]
+        self._check_targets(fresh, linked)
+        self._lead(fresh, linked)
+        for at in fresh:
+            row = fresh[at]
+            rows[at] = {name: row[name] for name in shapes[at[0]][3]}
 
-    def _check_targets(self, fresh):
-        leading = leading_table(self._schema, fresh)
-        for kind, number in fresh:
+    def _check_targets(self, fresh, linked):
+        links = self._schema.link_rows
+        leading = None
+        for kind, number in linked:
             row = fresh[kind, number]
-            targets = [(field, row[field]) for field in self._schema.fields_of(kind) if row[field] is not None]
+            targets = [(field, row[field]) for field in self._schema.shapes[kind][0] if row[field] is not None]
             for field, target in targets:
-                end = (self._schema.target_of(field), target)
+                end = (links[field][1], target)
                 if end not in self._rows and end not in fresh:
                     raise RowRefused(kind, number) from UnknownTarget(field, target)
             for field, target in targets:
-                if self._schema.is_single(field):
+                if links[field][4]:
+                    leading = single_ends(self._schema, fresh) if leading is None else leading
                     others = self._others(field, target, number, fresh, leading)
                     if len(others) > 0:
                         raise RowRefused(kind, number) from TargetTaken(field, target, min(others))
@@ -122,65 +137,77 @@ class Store:
     def _others(self, field, target, number, fresh, leading):
         """The IDs of the objects, but for this one, whose field leads to the target with the fresh rows."""
         kind = self._schema.kind_of(field)
-        kept = [old for old in self._leading.get((field, target), {}) if (kind, old) not in fresh]
+        kept = [old for old in self._leading.get((field, target), ()) if (kind, old) not in fresh]
         return [other for other in kept + leading[field, target] if other != number]
 
-    def _write(self, kind, number, row):
-        fields = self._schema.fields_of(kind)
-        if (kind, number) in self._rows:
-            old = self._rows[kind, number]
-            for field in fields:
-                if old[field] is not None:
-                    del self._leading[field, old[field]][number]
-        for field in fields:
-            if row[field] is not None:
-                self._leading.setdefault((field, row[field]), {})[number] = True
-        self._rows[kind, number] = {name: row[name] for name in row_names(self._schema, kind)}
+    def _lead(self, fresh, linked):
+        """Brings the lists of members up to date with the fresh rows of objects that have fields."""
+        changed = {}
+        for at in linked:
+            kind, number = at
+            new, old = fresh[at], self._rows.get(at)
+            for field in self._schema.shapes[kind][0]:
+                if old is not None and old[field] is not None:
+                    changed.setdefault((field, old[field]), {})[number] = False
+                if new[field] is not None:
+                    changed.setdefault((field, new[field]), {})[number] = True
+        for end in changed:
+            moved = changed[end]
+            stay = [number for number in self._leading.get(end, ()) if number not in moved]
+            self._leading[end] = sorted(stay + [number for number in moved if moved[number]])
 
 
-def leading_table(schema, rows):
-    """From a field and a target to the list of the IDs of those of the rows that lead there."""
+def single_ends(schema, rows):
+    """From a single field and a target to the list of the IDs of those of the rows that lead there."""
     table = {}
     for kind, number in rows:
         row = rows[kind, number]
-        for field in schema.fields_of(kind):
-            table.setdefault((field, row[field]), []).append(number)
+        for field in schema.shapes[kind][0]:
+            if schema.is_single(field):
+                table.setdefault((field, row[field]), []).append(number)
     return table
 
 
-def row_names(schema, kind):
-    return sorted(schema.fields_of(kind) + schema.flags_of(kind))
-
-
 def has_names(row, names):
-    return isinstance(row, dict) and len(row) == len(names) and all([name in row for name in names])
+    if not isinstance(row, dict) or len(row) != len(names):
+        return False
+    for name in names:
+        if name not in row:
+            return False
+    return True
 
 
-def is_worth(schema, name, value):
-    """Whether the value can stand in a row for this field or flag."""
-    if schema.has_link(name):
-        return value is None or is_id(value)
-    return isinstance(value, bool)
+def is_target(value):
+    return value is None or is_id(value)
 
 
-def check_row(schema, kind, row):
-    names = row_names(schema, kind)
+def check_row(shape, row):
+    fields, _, _, names = shape
     if not has_names(row, names):
         raise InvalidRow(None)
     for name in names:
-        if not is_worth(schema, name, row[name]):
+        right = is_target(row[name]) if name in fields else isinstance(row[name], bool)
+        if not right:
             raise InvalidRow(name)
 
 
-def is_element(schema, value):
+def is_element(shapes, value):
     """Whether the value is a tuple of a kind, an ID and a row that is valid but for its targets."""
     if not isinstance(value, tuple) or len(value) != 3:
         return False
     kind, number, row = value
-    if not isinstance(kind, str) or kind not in schema.kinds() or not is_id(number):
+    if not isinstance(kind, str) or kind not in shapes or not is_id(number):
         return False
-    names = row_names(schema, kind)
-    return has_names(row, names) and all([is_worth(schema, name, row[name]) for name in names])
+    fields, flags, _, names = shapes[kind]
+    if not has_names(row, names):
+        return False
+    for name in fields:
+        if not is_target(row[name]):
+            return False
+    for name in flags:
+        if not isinstance(row[name], bool):
+            return False
+    return True
 
 
 def check_store(store):

@@ -1,59 +1,15 @@
-"""Bodies of walks: how great they are, written out, and what stands at their paths.
+"""Bodies of walks: how they are written out, and what stands at their paths.
 
 Nothing here changes what it is passed: the operators of walks use it.
 """
 
 from fetchwalks.checks import LETTERS
-from fetchwalks.errors import TooMany
-
-MOST_STATEMENTS = 300
-MOST_SPOTS = 120
-MOST_DEEP = 12
-MOST_LOOPS = 4
 
 
-def check_greatness(finds, blocks):
-    # Blocks that call blocks can be far too long to be written out, so this is reckoned ahead of it.
-    sizes = {}
-    for _, name, _, _, body in blocks:
-        sizes[name] = body_size(body, sizes)
-    statements, spots, depth, loops = joined_size([body_size(find[-1], sizes) for find in finds])
-    if statements > MOST_STATEMENTS:
-        raise TooMany("statements", MOST_STATEMENTS)
-    if spots + len(finds) > MOST_SPOTS:
-        raise TooMany("spots", MOST_SPOTS)
-    if depth > MOST_DEEP:
-        raise TooMany("depth", MOST_DEEP)
-    if loops > MOST_LOOPS:
-        raise TooMany("loops", MOST_LOOPS)
-
-
-def joined_size(sizes):
-    """The size of bodies that stand side by side."""
-    statements = sum([size[0] for size in sizes])
-    spots = sum([size[1] for size in sizes])
-    depth = max([size[2] for size in sizes], default=0)
-    loops = max([size[3] for size in sizes], default=0)
-    return (statements, spots, depth, loops)
-
-
-def body_size(body, sizes):
-    """The numbers of statements, of spots, of statements within one another, and of loops among these."""
-    return joined_size([step_size(step, sizes) for step in body])
-
-
-def step_size(step, sizes):
-    word = step[0]
-    if word == "call":
-        return sizes[step[1]]
-    statements, spots, depth, loops = body_size(step[-1], sizes)
-    own_spots = 0 if word == "if" else 1
-    own_loops = 1 if word == "for" else 0
-    return (statements + 1, spots + own_spots, depth + 1, loops + own_loops)
-
-
-def plain_finds(finds, blocks):
+def written_finds(finds, blocks):
     """The finds, written out."""
+    if len(blocks) == 0:
+        return finds
     table = {name: (variable, body) for _, name, _, variable, body in blocks}
     rows = []
     for find in finds:
@@ -80,7 +36,9 @@ def plain_step(step, names, sight, table, called):
         return (word, names[x], flag, plain_body(body, names, sight, table, called))
     word, x, link, y, body = step
     name = fresh_name(sight) if called else y
-    inner = plain_body(body, {**names, y: name}, sight + (name,), table, called)
+    inner = ()
+    if len(body) > 0:
+        inner = plain_body(body, {**names, y: name}, sight + (name,), table, called)
     return (word, names[x], link, name, inner)
 
 
@@ -91,29 +49,62 @@ def fresh_name(sight):
 
 def path_table(schema, finds):
     """From each path, sorted, to (statement without body, spot of its x, kind of its variable, route)."""
-    rows = []
-    for position, find in enumerate(finds):
-        _, name, kind, _, body = find
-        path = (position,)
-        rows.append((path, find[:-1], None, kind, (name,)))
-        rows.extend(body_rows(schema, body, path, {name: (path, (name,))}))
-    return {path: (head, owner, kind, route) for path, head, owner, kind, route in rows}
-
-
-def body_rows(schema, body, path, seen):
-    """The rows of path_table for a body; seen tells the spots and routes of the variables in sight."""
-    rows = []
-    for position, step in enumerate(body):
-        here = path + (position,)
-        owner, route = seen[step[1]]
-        if step[0] == "if":
-            rows.append((here, step[:-1], owner, None, None))
-            rows.extend(body_rows(schema, step[-1], here, seen))
+    links = schema.link_rows
+    table = {}
+    # What stands last comes next: the statements of a body are put here from the last one on.
+    waiting = [((position,), finds[position], {}) for position in range(len(finds) - 1, -1, -1)]
+    while len(waiting) > 0:
+        path, step, seen = waiting.pop()
+        word, body = step[0], step[-1]
+        if word == "find":
+            table[path] = (step[:-1], None, step[2], (step[1],))
+            inner = {step[1]: path}
+        elif word == "if":
+            table[path] = (step[:-1], seen[step[1]], None, None)
+            inner = seen
         else:
-            longer = route + (step[2],)
-            rows.append((here, step[:-1], owner, schema.target_of(step[2]), longer))
-            rows.extend(body_rows(schema, step[-1], here, {**seen, step[3]: (here, longer)}))
-    return rows
+            owner, link = seen[step[1]], step[2]
+            table[path] = (step[:-1], owner, links[link][1], table[owner][3] + (link,))
+            inner = {**seen, step[3]: path} if len(body) > 0 else seen
+        for position in range(len(body) - 1, -1, -1):
+            waiting.append((path + (position,), body[position], inner))
+    return table
+
+
+class Step:
+    """A find or a statement as a run needs it: where it stands, about which step's object it is, and what comes then.
+
+    The links of a for are its list, and the field by which its members are found.
+    """
+
+    def __init__(self, word, path, owner, name, field, kinds, past):
+        self.word = word
+        self.path = path
+        self.owner = owner
+        self.name = name
+        self.field = field
+        self.owner_kind, self.kind = kinds
+        self.past = past
+
+
+def program_of(links, paths):
+    """The list of the steps of a run, by paths; owner and past are positions in it, past the one behind the body."""
+    places = {path: place for place, path in enumerate(paths)}
+    steps = []
+    later = []
+    for path in list(paths)[::-1]:
+        head, owner, kind, _ = paths[path]
+        # Behind a body comes the next path that is not longer.
+        while len(later) > 0 and len(later[-1]) > len(path):
+            later.pop()
+        past = places[later[-1]] if len(later) > 0 else len(places)
+        later.append(path)
+        word = head[0]
+        name = head[1] if word == "find" else head[2]
+        field = links[name][2] if word == "for" else name
+        owner_kind = None if owner is None else paths[owner][2]
+        steps.append(Step(word, path, places.get(owner), name, field, (owner_kind, kind), past))
+    return steps[::-1]
 
 
 def body_without(body, path):
@@ -124,3 +115,18 @@ def body_without(body, path):
     step = body[position]
     rest = step[:-1] + (body_without(step[-1], path[1:]),)
     return body[:position] + (rest,) + body[position + 1:]
+
+
+def finds_without(finds, gone):
+    """The finds, written out, without the statements at these paths."""
+    left_out = {path: True for path in gone}
+    return [find[:-1] + (body_left(find[-1], (position,), left_out),) for position, find in enumerate(finds)]
+
+
+def body_left(body, path, left_out):
+    rows = []
+    for position, step in enumerate(body):
+        here = path + (position,)
+        if here not in left_out:
+            rows.append(step[:-1] + (body_left(step[-1], here, left_out),))
+    return tuple(rows)

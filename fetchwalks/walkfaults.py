@@ -1,78 +1,126 @@
-"""What is wrong with the finds and blocks that a walk is to be made of."""
+"""What is wrong with the finds and blocks that a walk is to be made of, and how great they are, written out.
+
+A size is a tuple of four numbers: of statements, of spots, of statements within one another, and of loops among these.
+Nothing here changes what it is passed: the operators of walks use it.
+"""
 
 from fetchwalks.checks import is_name, is_sequence
+from fetchwalks.errors import InvalidWalk, TooMany
 
 MOST_FINDS = 4
 MOST_BLOCKS = 6
+MOST_STATEMENTS = 300
+MOST_SPOTS = 120
+MOST_DEEP = 12
+MOST_LOOPS = 4
 
 # The length of each tuple, and how many names stand behind its first word.
 FORMS = {"block": (5, 3), "find": (5, 2), "go": (5, 3), "for": (5, 3), "if": (4, 2), "call": (3, 2)}
 STATEMENTS = ("go", "for", "if", "call")
 FIND_WORDS = ("one", "many")
 
-
-def walk_fault(schema, finds, blocks):
-    """The tuple (problem, place) for what is wrong first, or None."""
-    fault = blocks_fault(schema, blocks)
-    if fault is None:
-        fault = finds_fault(schema, finds, blocks)
-    return fault
+# The sizes of statements with empty bodies.
+SMALLEST = {"go": (1, 1, 1, 0), "for": (1, 1, 1, 1), "if": (1, 0, 1, 0)}
 
 
-def blocks_fault(schema, blocks):
+def checked_sizes(schema, finds, blocks):
+    """The list of the sizes of the bodies of the finds; InvalidWalk tells what is wrong first."""
     if not is_sequence(blocks) or len(blocks) > MOST_BLOCKS:
-        return ("form", (0,))
-    kinds = {}
+        raise InvalidWalk("form", (0,))
+    # From the name of each block to its kind and its size.
+    known = {}
     for position, block in enumerate(blocks):
-        fault = head_fault(schema, block, (0, position), kinds, kinds)
-        if fault is not None:
-            return fault
-        kinds[block[1]] = block[2]
-    return None
-
-
-def finds_fault(schema, finds, blocks):
+        size = head_size(schema, block, (0, position), known, known)
+        known[block[1]] = (block[2], size)
     if not is_sequence(finds) or not 1 <= len(finds) <= MOST_FINDS:
-        return ("form", (1,))
-    kinds = {block[1]: block[2] for block in blocks}
+        raise InvalidWalk("form", (1,))
+    sizes = []
     earlier = {}
     for position, find in enumerate(finds):
-        fault = head_fault(schema, find, (1, position), earlier, kinds)
-        if fault is not None:
-            return fault
-        earlier[find[1]] = find[2]
-    return None
+        sizes.append(head_size(schema, find, (1, position), earlier, known))
+        earlier[find[1]] = True
+    return sizes
 
 
-def head_fault(schema, row, place, earlier, kinds):
-    """Like walk_fault, for a block or a find; earlier has the names ahead of it, kinds tells those of blocks."""
+def head_size(schema, row, place, earlier, blocks):
+    """The size of the body of a block or a find; earlier has the names of those ahead of it."""
     word = "find" if place[0] == 1 else "block"
     problem = head_problem(schema, row, word, earlier)
     if problem is not None:
-        return (problem, place)
+        raise InvalidWalk(problem, place)
     variable = row[1] if word == "find" else row[3]
-    return body_fault(schema, row[4], place, {variable: row[2]}, kinds)
+    return body_size(schema, row[4], place, {variable: row[2]}, blocks)
 
 
-def body_fault(schema, body, place, sight, kinds):
-    """Like walk_fault, for a tuple of statements; sight tells the kinds of variables, kinds those of blocks."""
+def body_size(schema, body, place, sight, blocks):
+    """The size of a tuple of statements; sight tells the kinds of variables, blocks the kinds and sizes of blocks."""
+    links, flags = schema.link_rows, schema.flag_kinds
+    sizes = []
     for position, step in enumerate(body):
-        here = place + (position,)
-        problem = step_problem(schema, step, sight, kinds)
-        if problem is not None:
-            return (problem, here)
-        if step[0] != "call":
-            fault = body_fault(schema, step[-1], here, inner_sight(schema, step, sight), kinds)
-            if fault is not None:
-                return fault
-    return None
+        # Most statements are right; what is wrong with the others is looked at in the sequence of the problems.
+        if not is_right(links, flags, step, sight):
+            problem = step_problem(links, flags, step, sight, blocks)
+            if problem is not None:
+                raise InvalidWalk(problem, place + (position,))
+        word, inner = step[0], step[-1]
+        if word == "call":
+            sizes.append(blocks[step[1]][1])
+        elif len(inner) == 0:
+            sizes.append(SMALLEST[word])
+        else:
+            seen = sight if word == "if" else {**sight, step[3]: links[step[2]][1]}
+            size = body_size(schema, inner, place + (position,), seen, blocks)
+            sizes.append(size_around(word, size))
+    return joined_size(sizes)
 
 
-def inner_sight(schema, step, sight):
-    if step[0] == "if":
-        return sight
-    _, _, link, variable, _ = step
-    return {**sight, variable: schema.target_of(link)}
+def size_around(word, size):
+    """The size of a statement whose body has this size."""
+    return tuple([one + own for one, own in zip(size, SMALLEST[word])])
+
+
+def joined_size(sizes):
+    """The size of bodies that stand side by side."""
+    if len(sizes) == 1:
+        return sizes[0]
+    statements = sum([size[0] for size in sizes])
+    spots = sum([size[1] for size in sizes])
+    depth = max([size[2] for size in sizes], default=0)
+    loops = max([size[3] for size in sizes], default=0)
+    return (statements, spots, depth, loops)
+
+
+def check_greatness(sizes):
+    """The limits of a walk with finds of these sizes."""
+    statements, spots, depth, loops = joined_size(sizes)
+    if statements > MOST_STATEMENTS:
+        raise TooMany("statements", MOST_STATEMENTS)
+    if spots + len(sizes) > MOST_SPOTS:
+        raise TooMany("spots", MOST_SPOTS)
+    if depth > MOST_DEEP:
+        raise TooMany("depth", MOST_DEEP)
+    if loops > MOST_LOOPS:
+        raise TooMany("loops", MOST_LOOPS)
+
+
+def is_right(links, flags, step, sight):
+    """Whether the value is a statement, but for a call, with which nothing is wrong."""
+    if not isinstance(step, tuple):
+        return False
+    if len(step) == 4:
+        word, x, flag, body = step
+        if word != "if" or not isinstance(x, str) or x not in sight or not isinstance(body, tuple):
+            return False
+        return isinstance(flag, str) and flags.get(flag) == sight[x]
+    if len(step) == 5:
+        word, x, link, y, body = step
+        if not isinstance(x, str) or x not in sight or not isinstance(link, str) or link not in links:
+            return False
+        kind, _, _, is_list, _ = links[link]
+        if kind != sight[x] or word != ("for" if is_list else "go"):
+            return False
+        return is_name(y) and y not in sight and isinstance(body, tuple)
+    return False
 
 
 def has_form(value, words):
@@ -91,7 +139,7 @@ def head_problem(schema, row, word, earlier):
         return "form"
     if word == "find" and (not isinstance(row[3], str) or row[3] not in FIND_WORDS):
         return "form"
-    if row[2] not in schema.kinds():
+    if not schema.has_kind(row[2]):
         return "kind"
     if row[1] in earlier:
         return "block"
@@ -104,29 +152,29 @@ def body_problem(body):
     return None
 
 
-def step_problem(schema, step, sight, kinds):
+def step_problem(links, flags, step, sight, blocks):
     if not has_form(step, STATEMENTS):
         return "form"
     if step[0] == "call":
-        return call_problem(step, sight, kinds)
+        return call_problem(step, sight, blocks)
     word, x, name = step[:3]
     if x not in sight:
         return "unseen"
     if word == "if":
-        if name not in schema.flags_of(sight[x]):
+        if name not in flags or flags[name] != sight[x]:
             return "flag"
         return body_problem(step[-1])
-    if name not in schema.links_from(sight[x]) or schema.is_list(name) != (word == "for"):
+    if name not in links or links[name][0] != sight[x] or links[name][3] != (word == "for"):
         return "link"
     if step[3] in sight:
         return "taken"
     return body_problem(step[-1])
 
 
-def call_problem(step, sight, kinds):
+def call_problem(step, sight, blocks):
     _, name, x = step
     if x not in sight:
         return "unseen"
-    if name not in kinds or kinds[name] != sight[x]:
+    if name not in blocks or blocks[name][0] != sight[x]:
         return "block"
     return None

@@ -2,11 +2,12 @@
 
 from fetchwalks.checks import is_integer, is_path
 from fetchwalks.errors import InvalidRoots
-from fetchwalks.minimal import minimal_for_aim
+from fetchwalks.minimal import minimal_for
 from fetchwalks.runs import check_roots, looped_lists, touched
-from fetchwalks.sketches import aims_of, all_covers, could_cover, first_cover
+from fetchwalks.sketches import Sketch, covers_aim, fit_of
 from fetchwalks.stores import Store
-from fetchwalks.walks import check_comparable, check_walk
+from fetchwalks.walkbodies import finds_without
+from fetchwalks.walks import Walk, check_comparable, check_walk
 
 
 def is_within(one, other, *, lists=True):
@@ -29,10 +30,10 @@ def parting(one, other, *, lists=True):
     for walk, second in ((one, other), (other, one)):
         aim = first_uncovered(walk, second, lists)
         if aim is not None:
-            store, roots, things = minimal_for_aim(walk, aim)
-            kind, number = things[aim.goal]
-            name = kind if aim.word == "object" else aim.name
-            return (store, roots, (aim.word, name, number))
+            path = aim.found_at[0][:len(aim.steps)]
+            store, roots, things = minimal_for(walk, path)
+            _, number = things[path[:aim.goal + 1]]
+            return (store, roots, (aim.word, aim.name, number))
     return None
 
 
@@ -69,38 +70,39 @@ def comes_to(walk, store, roots, thing):
 
 def maps(one, other):
     check_pair(one, other)
-    others = aims_of(other, True)
+    others = all_aims(other, True)
     table = {}
-    for aim in aims_of(one, True):
-        cover = first_cover(one.schema, aim, others)
-        if cover is None:
+    for aim in all_aims(one, True):
+        sketch = Sketch(one.schema, aim.steps)
+        second = first_cover(sketch, aim, others)
+        if second is None:
             return None
-        second, fitted = cover
-        table[aim.word, aim.spot] = (second.spot, spots_for(aim.sketch(one.schema), fitted))
-    return table
+        start = second.found_at[0]
+        depths = mapped_depths(sketch, fit_of(sketch, aim, second))
+        for spot in aim.found_at:
+            mapped = {start[:depth + 1]: spot[:depths[depth] + 1] for depth in depths}
+            table[aim.word, spot] = (start, mapped)
+    return {key: table[key] for key in sorted(table)}
 
 
-def spots_for(sketch, fitted):
-    """The map that gives, in the place of each object, the first spot that has it."""
-    first = {}
-    for spot in sketch.things:
-        first.setdefault(sketch.things[spot], spot)
-    return {spot: first[fitted[spot]] for spot in fitted}
+def mapped_depths(sketch, fitted):
+    """For each step of what was fitted into the sketch the first of the sketch's steps that has its object."""
+    return {depth: sketch.things.index(fitted[depth]) for depth in fitted}
 
 
 def are_maps(one, other, value):
     check_pair(one, other)
-    aims = aims_of(one, True)
-    if not isinstance(value, dict) or len(value) != len(aims):
+    aims = all_aims(one, True)
+    if not isinstance(value, dict) or len(value) != sum([len(aim.found_at) for aim in aims]):
         return False
     if not all([is_map_key(key) for key in value]):
         return False
-    others = {(aim.word, aim.spot): aim for aim in aims_of(other, True)}
+    others = {(aim.word, spot): aim for aim in all_aims(other, True) for spot in aim.found_at}
     for aim in aims:
-        if (aim.word, aim.spot) not in value:
-            return False
-        if not is_cover(one.schema, aim, others, value[aim.word, aim.spot]):
-            return False
+        sketch = Sketch(one.schema, aim.steps)
+        for spot in aim.found_at:
+            if (aim.word, spot) not in value or not is_cover(sketch, aim, spot, others, value[aim.word, spot]):
+                return False
     return True
 
 
@@ -108,61 +110,69 @@ def is_map_key(value):
     return isinstance(value, tuple) and len(value) == 2 and isinstance(value[0], str) and is_path(value[1])
 
 
-def is_cover(schema, aim, others, value):
-    """Whether the value is a tuple of a spot of the other walk and a map for the aim and this spot."""
+def is_cover(sketch, aim, spot, others, value):
+    """Whether the value is a tuple of a spot of the other walk and a map for the aim's spot and this one."""
     if not isinstance(value, tuple) or len(value) != 2:
         return False
-    spot, mapped = value
-    if not is_path(spot) or (aim.word, spot) not in others:
+    start, mapped = value
+    if not is_path(start) or (aim.word, start) not in others:
         return False
-    other = others[aim.word, spot]
-    sketch = aim.sketch(schema)
-    return could_cover(aim, other) and is_spot_map(sketch, other, mapped) and is_map(sketch, aim, other, mapped)
-
-
-def is_spot_map(sketch, other, value):
-    """Whether the value is a dict from all spots ahead on the other aim's way to spots of the sketch."""
-    ahead = other.spots_ahead()
-    if not isinstance(value, dict) or len(value) != len(ahead) or not all([is_path(key) for key in value]):
+    other = others[aim.word, start]
+    if not aim.could_meet(other):
         return False
-    if not all([spot in value and is_path(value[spot]) for spot in ahead]):
-        return False
-    return all([value[spot] in sketch.things for spot in ahead])
+    things = mapped_things(sketch, spot, other, start, mapped)
+    return things is not None and is_fit(sketch, aim, other, things)
 
 
-def is_map(sketch, aim, other, mapped):
-    things = {spot: sketch.things[mapped[spot]] for spot in mapped}
-    for here, head, owner in other.steps:
-        if head[0] == "find":
-            right = mapped[here] == here
-        elif head[0] == "if":
-            right = things[owner] in sketch.marked(head[2])
-        else:
-            right = things[here] in sketch.ends(things[owner], head[2])
-        if not right:
+def mapped_things(sketch, spot, other, start, value):
+    """The objects of the other aim's steps if the value is a dict from all spots ahead on the way to start to spots
+    ahead on the way to the spot, and the find is mapped to itself, otherwise None.
+    """
+    if not isinstance(value, dict) or len(value) != len(other.depths) or not all([is_path(key) for key in value]):
+        return None
+    things = {}
+    for depth in other.depths:
+        end = value.get(start[:depth + 1])
+        if not is_path(end) or not 1 <= len(end) <= len(sketch.things) or end != spot[:len(end)]:
+            return None
+        if sketch.things[len(end) - 1] is None or (depth == 0 and len(end) > 1):
+            return None
+        things[depth] = sketch.things[len(end) - 1]
+    return things
+
+
+def is_fit(sketch, aim, other, things):
+    """Whether the other aim comes to the same in the sketch of the aim, its steps having these objects."""
+    for depth, (word, name, owner) in enumerate(other.steps):
+        if word == "if":
+            if things[owner] not in sketch.marked.get(name, ()):
+                return False
+        elif depth > 0 and things[depth] not in sketch.ends(things[owner], name):
             return False
     return things[other.goal] == sketch.things[aim.goal]
 
 
 def needless(walk):
     check_walk(walk)
-    rows = cover_rows(walk)
-    return [path for path in statement_paths(walk) if is_spared(path, rows)]
+    covering = cover_table(walk)
+    needed = {}
+    for aim in covering:
+        # A statement is needed if all that covers some aim lies in it, and so all between the first and the last one.
+        first = min([other.found_at[0] for other in covering[aim]])
+        last = max([other.found_at[-1] for other in covering[aim]])
+        length = 1
+        while first[:length + 1] == last[:length + 1] and length < len(first):
+            length += 1
+            needed[first[:length]] = True
+    return [path for path in walk.paths() if len(path) > 1 and path not in needed]
 
 
 def lean(walk):
     check_walk(walk)
-    rows = cover_rows(walk)
-    gone = []
-    for path in statement_paths(walk):
-        if not any([is_under(path, earlier) for earlier in gone]) and is_spared(path, rows):
-            gone.append(path)
-            rows = rows_without(rows, path)
-    rest = walk.written_out()
-    # From the last one on, so that the paths ahead stay as they are.
-    for path in gone[::-1]:
-        rest = rest.without(path)
-    return rest
+    gone = spared_paths(walk)
+    if len(gone) == 0:
+        return walk.written_out()
+    return Walk(walk.schema, finds_without(walk.plain_finds, gone))
 
 
 def is_lean(walk):
@@ -170,42 +180,73 @@ def is_lean(walk):
     return walk == walk.written_out() and len(needless(walk)) == 0
 
 
-def statement_paths(walk):
-    return [path for path in walk.paths() if len(path) > 1]
+def cover_table(walk):
+    """From each aim of a walk to the list of its aims that come to the same, itself among them."""
+    aims = all_aims(walk, True)
+    table = {}
+    for aim in aims:
+        sketch = Sketch(walk.schema, aim.steps)
+        table[aim] = [other for other in aims if covers_aim(sketch, aim, other)]
+    return table
 
 
-def is_under(path, upper):
-    """Whether the path is the upper one, or lies in its body."""
-    return path[:len(upper)] == upper
+def spared_paths(walk):
+    """The paths of statements that can be left out all together, each one the first that can be."""
+    covering = cover_table(walk)
+    aims_at = {path: [] for path in walk.paths()}
+    for aim in covering:
+        for spot in aim.found_at:
+            aims_at[spot].append(aim)
+    order = walk.paths()
+    # The aims that have a spot ahead which stays.
+    staying = {}
+    gone = []
+    position = 0
+    while position < len(order):
+        past = walk.program[position].past
+        inside = [aim for path in order[position:past] for aim in aims_at[path]]
+        behind = order[past] if past < len(order) else None
+        if len(order[position]) > 1 and are_spared(inside, covering, staying, behind):
+            gone.append(order[position])
+            position = past
+        else:
+            for aim in aims_at[order[position]]:
+                staying[aim] = True
+            position += 1
+    return gone
 
 
-def cover_rows(walk):
-    """The tuples (spot, spots that cover it) for all that a walk touches and loops."""
-    aims = aims_of(walk, True)
-    return [(aim.spot, [other.spot for other in all_covers(walk.schema, aim, aims)]) for aim in aims]
-
-
-def rows_without(rows, path):
-    left = []
-    for spot, found in rows:
-        if not is_under(spot, path):
-            left.append((spot, [other for other in found if not is_under(other, path)]))
-    return left
-
-
-def is_spared(path, rows):
-    """Whether all that the statement does is done without it, too."""
-    for spot, found in rows:
-        if is_under(spot, path) and all([is_under(other, path) for other in found]):
+def are_spared(inside, covering, staying, behind):
+    """Whether all aims are covered by what stays ahead, or by what stands from the path behind on."""
+    for aim in inside:
+        found = False
+        for other in covering[aim]:
+            if other in staying or (behind is not None and other.found_at[-1] >= behind):
+                found = True
+        if not found:
             return False
     return True
 
 
+def all_aims(walk, lists):
+    """The aims for objects and, if lists, for lists, these ahead."""
+    loops, objects = walk.aims
+    return loops + objects if lists else list(objects)
+
+
+def first_cover(sketch, aim, others):
+    """The first of the others that comes to the same in the sketch of the aim, or None."""
+    for other in others:
+        if covers_aim(sketch, aim, other):
+            return other
+    return None
+
+
 def first_uncovered(one, other, lists):
     """The first aim of one to which the other one does not come in its minimal store, or None."""
-    others = aims_of(other, lists)
-    for aim in aims_of(one, lists):
-        if first_cover(one.schema, aim, others) is None:
+    others = all_aims(other, lists)
+    for aim in all_aims(one, lists):
+        if first_cover(Sketch(one.schema, aim.steps), aim, others) is None:
             return aim
     return None
 

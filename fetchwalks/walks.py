@@ -1,41 +1,77 @@
 """Walks: finds, steps along fields, loops through lists, and tests."""
 
 from fetchwalks.checks import is_path
-from fetchwalks.errors import InvalidWalk, NameTaken, NoWalk, OtherFinds, TooMany, UnknownPath, UnknownSpot
+from fetchwalks.errors import NameTaken, NoWalk, OtherFinds, TooMany, UnknownPath, UnknownSpot
 from fetchwalks.schemas import check_same_schema, check_schema
-from fetchwalks.walkbodies import body_without, check_greatness, path_table, plain_finds
-from fetchwalks.walkfaults import MOST_FINDS, walk_fault
+from fetchwalks.sketches import aims_of
+from fetchwalks.walkbodies import body_without, path_table, program_of, written_finds
+from fetchwalks.walkfaults import MOST_FINDS, check_greatness, checked_sizes, joined_size
 
 
 class Walk:
     def __init__(self, schema, finds, blocks=()):
         check_schema(schema)
-        fault = walk_fault(schema, finds, blocks)
-        if fault is not None:
-            raise InvalidWalk(fault[0], fault[1])
-        check_greatness(finds, blocks)
+        self._sizes = checked_sizes(schema, finds, blocks)
+        check_greatness(self._sizes)
         self._schema = schema
         self._finds = tuple(finds)
         self._blocks = tuple(blocks)
-        self._plain = plain_finds(finds, blocks)
-        self._paths = path_table(schema, self._plain)
-        self._spots = [path for path in self._paths if self._paths[path][0][0] != "if"]
+        # Worked out when it is asked for: many walks are only put together with others.
+        self._plain_finds = None
+        self._path_rows = None
+        self._program = None
+        self._aims = None
 
     @property
     def schema(self):
         return self._schema
 
+    @property
+    def plain_finds(self):
+        """The tuple of the finds with their bodies, written out."""
+        if self._plain_finds is None:
+            self._plain_finds = written_finds(self._finds, self._blocks)
+        return self._plain_finds
+
+    @property
+    def path_rows(self):
+        """From each path, sorted, to (statement without body, spot of its x, kind of its variable, route)."""
+        if self._path_rows is None:
+            self._path_rows = path_table(self._schema, self.plain_finds)
+        return self._path_rows
+
+    @property
+    def program(self):
+        """The list of the rows by which it is run."""
+        if self._program is None:
+            self._program = program_of(self._schema.link_rows, self.path_rows)
+        return self._program
+
+    @property
+    def aims(self):
+        """The tuple of the lists of what it comes to: of its aims for lists, and for objects."""
+        if self._aims is None:
+            self._aims = aims_of(self.path_rows)
+        return self._aims
+
     def finds(self):
         return [find[1:4] for find in self._finds]
 
+    def kind_of_find(self, name):
+        """The kind of a find, or None for a name that no find has."""
+        kinds = [find[2] for find in self._finds if find[1] == name]
+        return kinds[0] if len(kinds) > 0 else None
+
     def written_out(self):
-        return Walk(self._schema, self._plain)
+        return right_walk(self._schema, self.plain_finds, self._sizes)
 
     def spots(self):
-        return list(self._spots)
+        rows = self.path_rows
+        return [path for path in rows if rows[path][3] is not None]
 
     def loops(self):
-        return [path for path in self._spots if self._paths[path][0][0] == "for"]
+        rows = self.path_rows
+        return [path for path in rows if rows[path][0][0] == "for"]
 
     def kind_of(self, spot):
         return self._spot_row(spot)[2]
@@ -49,29 +85,24 @@ class Walk:
     def statement(self, path):
         if not self._has_path(path):
             raise UnknownPath(path)
-        return self._paths[path][0]
+        return self.path_rows[path][0]
 
     def without(self, path):
         if not self._has_path(path) or len(path) == 1:
             raise UnknownPath(path)
-        return Walk(self._schema, body_without(self._plain, path))
+        return Walk(self._schema, body_without(self.plain_finds, path))
 
     def paths(self):
         """The sorted list of all paths: of the spots and of the ifs."""
-        return list(self._paths)
+        return list(self.path_rows)
 
     def steps_to(self, path):
-        """The tuples (path, statement without its body, spot of its x) on the way to a path, from its find on."""
-        rows = []
+        """The steps that lie within one another on the way to a path, with its own."""
+        steps = []
         for length in range(1, len(path) + 1):
-            here = path[:length]
-            head, owner, _, _ = self._paths[here]
-            rows.append((here, head, owner))
-        return rows
-
-    def written_finds(self):
-        """The list of the finds with their bodies, written out."""
-        return list(self._plain)
+            head, owner, _, _ = self.path_rows[path[:length]]
+            steps.append((head[0], head[2], None if owner is None else len(owner) - 1))
+        return tuple(steps)
 
     def __or__(self, other):
         check_walk(other)
@@ -80,22 +111,23 @@ class Walk:
         both = [find[0] for find in self.finds() if find[0] in names]
         if len(both) > 0:
             raise NameTaken(min(both))
-        finds = self._plain + other._plain
+        finds = self.plain_finds + other.plain_finds
         if len(finds) > MOST_FINDS:
             raise TooMany("finds", MOST_FINDS)
-        return Walk(self._schema, finds)
+        return right_walk(self._schema, finds, self._sizes + other._sizes)
 
     def __add__(self, other):
         check_walk(other)
         check_comparable(self, other)
-        finds = [one[:-1] + (one[-1] + two[-1],) for one, two in zip(self._plain, other._plain)]
-        return Walk(self._schema, finds)
+        finds = [one[:-1] + (one[-1] + two[-1],) for one, two in zip(self.plain_finds, other.plain_finds)]
+        sizes = [joined_size([one, two]) for one, two in zip(self._sizes, other._sizes)]
+        return right_walk(self._schema, finds, sizes)
 
     def __len__(self):
-        return len(self._spots)
+        return len(self.spots())
 
     def __contains__(self, x):
-        return self._has_path(x) and self._paths[x][0][0] != "if"
+        return self._has_path(x) and self.path_rows[x][3] is not None
 
     def __eq__(self, other):
         if not isinstance(other, Walk) or self._schema != other._schema:
@@ -103,12 +135,21 @@ class Walk:
         return self._finds == other._finds and self._blocks == other._blocks
 
     def _has_path(self, value):
-        return is_path(value) and value in self._paths
+        return is_path(value) and value in self.path_rows
 
     def _spot_row(self, spot):
-        if not self._has_path(spot) or self._paths[spot][0][0] == "if":
+        if not self._has_path(spot) or self.path_rows[spot][3] is None:
             raise UnknownSpot(spot)
-        return self._paths[spot]
+        return self.path_rows[spot]
+
+
+def right_walk(schema, finds, sizes):
+    """The walk of finds that are right, written out and of these sizes; only its greatness is looked at."""
+    check_greatness(sizes)
+    made = Walk(schema, [find[:-1] + ((),) for find in finds])
+    made._finds = tuple(finds)
+    made._sizes = sizes
+    return made
 
 
 def check_walk(walk):

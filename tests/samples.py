@@ -53,3 +53,32 @@ def rich_store():
         ("b", 2, row_b()),
     ]
     return store
+
+
+def layered_schema():
+    """Kinds one behind another: by the fields that are not p or q, 19 places are behind one of kind a."""
+    fields = {"p": ("a", "a", None, False), "q": ("a", "a", None, False), "f": ("a", "b", "m", True)}
+    fields.update({name: ("b", "c", None, False) for name in "gh"})
+    fields.update({name: ("c", "d", None, False) for name in "ij"})
+    fields.update({name: ("d", "e", None, False) for name in "kln"})
+    return Schema(["a", "b", "c", "d", "e"], fields)
+
+
+def layered_words(word):
+    """Words for a plan of the schema above that makes all these places kept ones."""
+    return {name: word for name in "fghijkln"}
+
+
+def tree_body(many):
+    """Steps by p and q from x to so many different places, itself among them."""
+    ways = [""]
+    while len(ways) < many:
+        way = ways[(len(ways) - 1) // 2]
+        ways.append(way + ("p" if len(ways) % 2 else "q"))
+
+    def body(way):
+        x = "vwyzabc"[len(way) - 1] if way else "x"
+        rows = [("go", x, letter, "vwyzabc"[len(way)], body(way + letter)) for letter in "pq" if way + letter in ways]
+        return tuple(rows)
+
+    return body("")
