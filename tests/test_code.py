@@ -13,12 +13,35 @@ FUNCTIONS = {
         "touches": "walk, store, roots", "loops_of": "walk, store, roots", "touched": "walk, store, roots",
         "looped_lists": "walk, store, roots",
     },
+    "plans": {
+        "tried_words": "plan, words, ask", "can_follow": "schema, one, other", "first_ring": "schema, links",
+    },
+    "sessions": {"questions": "store, plan, walk, roots"},
+    "words": {
+        "is_route": "walk, value", "is_place": "walk, value", "kind_at": "walk, route", "route_text": "route",
+        "read_route": "walk, text", "leads": "walk, place, link", "reductions": "walk, route",
+    },
+    "places": {
+        "places_at": "walk, spot", "touched_places": "walk", "kept_places": "walk, plan", "looped_places": "walk",
+        "place_table": "walk", "is_place_table": "walk, value", "why_place": "walk, place",
+        "shows_place": "walk, place, value", "prefixes": "walk, place",
+    },
+    "numbers": {
+        "weight": "walk, place", "answer_classes": "walk, plan", "most": "walk, plan", "most_kept": "walk, plan",
+        "most_by_link": "walk, plan", "first_growing": "walk, plan",
+    },
     "minimal": {"minimal_store": "walk, spot", "minimal_for_loop": "walk, loop"},
     "walkpairs": {
         "is_within": "one, other, *, lists=True", "are_alike": "one, other, *, lists=True", "covers": "one, other",
         "parting": "one, other, *, lists=True", "is_parting": "one, other, value, *, lists=True", "maps": "one, other",
         "are_maps": "one, other, value", "needless": "walk", "lean": "walk", "is_lean": "walk",
     },
+}
+
+# What the four sorts of questions, and what they derive from, have.
+QUESTION = {
+    "label": None, "link_name": None, "find_name": None, "asked_number": None, "brought": None, "brought_lists": None,
+    "behind": None, "__eq__": "self, other", "__repr__": "self",
 }
 
 CLASSES = {
@@ -39,9 +62,47 @@ CLASSES = {
         "statement": "self, path", "without": "self, path", "__or__": None, "__add__": None, "__len__": "self",
         "__contains__": None, "__eq__": "self, other",
     },
+    ("plans", "Plan"): {
+        "__init__": "self, schema", "__setitem__": None, "__getitem__": None, "__ior__": None, "__contains__": None,
+        "__len__": "self", "words": "self", "copy": "self", "__eq__": "self, other", "__repr__": "self", "of": None,
+        "trial": "self",
+    },
+    ("sessions", "Session"): {
+        "__init__": "self, store, plan=None", "run": "self, walk, roots", "walked": "self, walk, roots", "log": "self",
+        "keeps": "self, kind, number", "keeps_list": "self, link, number", "objects": "self", "lists": "self",
+        "__len__": "self", "by_label": "self", "by_link": "self", "take_plan": "self, plan", "copy": "self",
+    },
+    ("sessions", "Question"): QUESTION, ("sessions", "Late"): QUESTION, ("sessions", "FindQuestion"): QUESTION,
+    ("sessions", "AheadQuestion"): QUESTION, ("sessions", "ObjectQuestion"): QUESTION,
+    ("sessions", "ListQuestion"): QUESTION,
+    ("places", "Places"): {
+        "__init__": "self, walk, rows=()", "__or__": None, "__and__": None, "__sub__": None, "is_part_of": "self, other",
+        "__eq__": "self, other", "__contains__": None, "__len__": "self", "__bool__": "self", "rows": "self",
+        "of_find": "self, name", "ending": "self, link", "below": "self, place",
+    },
+    ("sizes", "Sizes"): {
+        "__init__": "self, walk", "__setitem__": None, "__getitem__": None, "names": "self", "copy": "self",
+        "__eq__": "self, other", "of": None, "fault": "self, store, roots",
+    },
+    ("sums", "Sum"): {
+        "__init__": "self, number=0", "size": None, "__add__": None, "__radd__": None, "__sub__": None, "__rsub__": None,
+        "__mul__": None, "__rmul__": None, "__neg__": "self", "__pow__": None, "__call__": "self, sizes",
+        "products": "self", "shifted": "self", "at_most": "self, other", "__eq__": "self, other", "__bool__": "self",
+        "__repr__": "self",
+    },
+    ("numbers", "Answers"): {"__eq__": "self, other"},
 }
 
-PROPERTIES = [("stores", "Store", "schema"), ("walks", "Walk", "schema")]
+PROPERTIES = [
+    ("stores", "Store", "schema"), ("walks", "Walk", "schema"), ("plans", "Plan", "schema"), ("sessions", "Session", "plan"),
+    ("sessions", "Session", "store"), ("places", "Places", "is_closed"), ("sums", "Sum", "degree"),
+    ("sums", "Sum", "constant"), ("numbers", "Answers", "label"), ("numbers", "Answers", "at_place"),
+    ("numbers", "Answers", "link_name"), ("numbers", "Answers", "times"), ("numbers", "Answers", "new"),
+    ("numbers", "Answers", "behind"),
+]
+
+# What may be imported from elsewhere.
+LIBRARY = {"math": ["comb"]}
 
 
 def parameters(function):
@@ -57,9 +118,15 @@ class Interface(unittest.TestCase):
                 self.assertEqual((function.__module__, parameters(function)), (module.__name__, wanted))
 
     def test_generators(self):
-        module = importlib.import_module("fetchwalks.runs")
-        self.assertTrue(inspect.isgeneratorfunction(module.touches))
-        self.assertTrue(inspect.isgeneratorfunction(module.loops_of))
+        runs, places, sessions = [importlib.import_module(f"fetchwalks.{file}") for file in ("runs", "places", "sessions")]
+        for function in (runs.touches, runs.loops_of, places.prefixes, sessions.Session.walked):
+            self.assertTrue(inspect.isgeneratorfunction(function))
+
+    def test_methods_of_classes(self):
+        plans, sizes, sums = [importlib.import_module(f"fetchwalks.{file}") for file in ("plans", "sizes", "sums")]
+        self.assertEqual(parameters(plans.Plan.of), "schema, **words")
+        self.assertEqual(parameters(sizes.Sizes.of), "walk, *rows")
+        self.assertEqual(parameters(sums.Sum.size), "label, name")
 
     def test_methods_stand_in_their_classes(self):
         for (file, name), rows in CLASSES.items():
@@ -105,7 +172,9 @@ class Files(unittest.TestCase):
             for node in ast.walk(ast.parse(path.read_text(encoding="utf-8"))):
                 self.assertNotIsInstance(node, ast.Import)
                 if isinstance(node, ast.ImportFrom):
-                    self.assertTrue(node.module.startswith("fetchwalks."), path.name)
+                    names = [alias.name for alias in node.names]
+                    own = node.module.startswith("fetchwalks.")
+                    self.assertTrue(own or names == LIBRARY.get(node.module), path.name)
 
 
 if __name__ == "__main__":

@@ -27,6 +27,40 @@ STAGE_2 = """
 [[((0,), 2), ((0, 0), 1), ((0, 0, 0), 1), ((0, 0, 0), 2)], []]
 """
 
+STAGE_3 = """
+>>> from fetchwalks.plans import Plan, first_ring
+>>> from fetchwalks.sessions import Session, questions
+>>> early = Plan.of(shop, buyer="along")
+>>> [len(questions(store, Plan(shop), walk, {"o": [1, 2]})), len(questions(store, early, walk, {"o": [1, 2]}))]
+[3, 2]
+>>> [first_ring(shop, ["buyer", "orders"]), [question.label for question in questions(store, early, walk, {"o": [2]})]]
+[None, ['find', 'list']]
+"""
+
+STAGE_4 = """
+>>> from fetchwalks.places import looped_places, touched_places, why_place
+>>> from fetchwalks.words import reductions, route_text
+>>> touched_places(walk).rows()
+[('o',), ('o', 'buyer'), ('o', 'buyer', 'orders'), ('o', 'buyer', 'orders', 'place'), ('o', 'place')]
+>>> [looped_places(walk), reductions(walk, ("o", "buyer", "orders", "buyer")), route_text(("o", "place"))]
+[[(('o', 'buyer'), 'orders')], [('o', 'buyer')], 'o.place']
+>>> why_place(walk, ("o", "place"))
+((0, 0, 0, 0), ['same'])
+"""
+
+# Those lines of the example that need no later file.
+STAGE_5 = """
+>>> from fetchwalks.numbers import most, most_kept
+>>> from fetchwalks.sizes import Sizes
+>>> late, sizes = Plan(shop), Sizes.of(walk, ("find", "o", 3), ("list", "orders", 4))
+>>> [most(walk, late).products(), most(walk, late)(sizes), most(walk, early)(sizes), most_kept(walk, late)(sizes)]
+[{(): 1, (('find', 'o', 1),): 2, (('find', 'o', 1), ('list', 'orders', 1)): 1}, 19, 16, 27]
+>>> from fetchwalks.sums import Sum
+>>> n, m = Sum.size("find", "o"), Sum.size("list", "orders")
+>>> (n * m + 1)(sizes)
+13
+"""
+
 STAGE_6 = """
 >>> from fetchwalks.walkpairs import is_within, needless, parting
 >>> twice = walk + Walk(shop, [("find", "o", "order", "many", (("go", "o", "place", "t", ()),))])
@@ -45,7 +79,7 @@ PARTED = """
 class Examples(unittest.TestCase):
     def test_all_in_their_sequence(self):
         names = {}
-        for number, text in enumerate([STAGE_1, STAGE_2, STAGE_6, PARTED]):
+        for number, text in enumerate([STAGE_1, STAGE_2, STAGE_3, STAGE_4, STAGE_5, STAGE_6, PARTED]):
             test = doctest.DocTestParser().get_doctest(text, names, f"example {number}", None, 0)
             told = []
             result = doctest.DocTestRunner().run(test, out=told.append, clear_globs=False)

@@ -1,0 +1,144 @@
+"""Classes of answers as they are found: what is asked, which places are new, and what they weigh.
+
+A weight is told by its factors, a sorted tuple of (label, name, power of the size, power of the size less 1).
+"""
+
+from math import comb
+
+from fetchwalks.errors import TooMany
+from fetchwalks.places import kept_in, looped_in, reduced_routes, touched_in
+from fetchwalks.plans import links_by_kind, links_with
+from fetchwalks.words import ends_of
+
+MOST_CLASSES = 2000
+
+
+class AnswerRow:
+    """A class of answers: fresh has its new places by their kinds, after is the position of the class before."""
+
+    def __init__(self, label, place, link, factors, fresh, after):
+        self.word = label
+        self.place = place
+        self.link = link
+        self.factors = factors
+        self.fresh = fresh
+        self.after = after
+
+
+class Ways:
+    """How a plan leads from place to place of a walk."""
+
+    def __init__(self, walk, plan):
+        self.linked = walk.schema.link_rows
+        self.find_kinds = {name: kind for name, kind, _ in walk.finds()}
+        self.not_late = plan.early
+        self.ahead = links_with(plan, ("ahead",))
+        self.along = links_by_kind(plan, ("along",))
+
+    def kind_at_end(self, place):
+        return self.find_kinds[place[0]] if len(place) == 1 else self.linked[place[-1]][1]
+
+    def longer(self, place, link):
+        """The places to which a link leads from this one that are longer."""
+        return [end for end in ends_of(self.linked, place, link) if len(end) > len(place)]
+
+    def with_along(self, places):
+        """The places with those that come along, by their kinds."""
+        table = {}
+        waiting = list(places)
+        while len(waiting) > 0:
+            place = waiting.pop()
+            kind = self.kind_at_end(place)
+            table.setdefault(kind, []).append(place)
+            for link in self.along[kind]:
+                waiting.extend(self.longer(place, link))
+        return table
+
+
+def factors_of(walk, place):
+    """The factors of the weight of a place."""
+    links = walk.schema.link_rows
+    powers = {("find", name): (1, 0) for name, _, word in walk.finds() if name == place[0] and word == "many"}
+    for position in range(1, len(place)):
+        link = place[position]
+        _, _, back, is_list, single = links[link]
+        if is_list and not single:
+            whole, less = powers.get(("list", link), (0, 0))
+            # Behind its own field a list leads to the other members.
+            turns = position > 1 and place[position - 1] == back
+            powers["list", link] = (whole, less + 1) if turns else (whole + 1, less)
+    return tuple([at + powers[at] for at in sorted(powers)])
+
+
+def class_rows(walk, plan):
+    """The list of the classes of answers of a walk and a plan of one schema."""
+    ways = Ways(walk, plan)
+    reduced = reduced_routes(walk)
+    touched = touched_in(reduced)
+    # Only so many kept places are gone through.
+    kept_in(walk, plan, touched)
+    rows = first_rows(walk, ways, touched, looped_in(walk, reduced))
+    position = 0
+    while position < len(rows):
+        rows.extend(rows_behind(ways, rows[position], position))
+        if len(rows) > MOST_CLASSES:
+            raise TooMany("classes", MOST_CLASSES)
+        position += 1
+    return rows
+
+
+def first_rows(walk, ways, touched, looped):
+    """The classes that are not ahead."""
+    rows = []
+    for name, _, _ in walk.finds():
+        place = (name,)
+        rows.append(AnswerRow("find", place, None, (), ways.with_along([place]), None))
+    for place in touched:
+        if len(place) > 1 and place[-1] not in ways.not_late and not ways.linked[place[-1]][3]:
+            rows.append(AnswerRow("object", place, place[-1], factors_of(walk, place), ways.with_along([place]), None))
+    for place, link in looped:
+        if link not in ways.not_late:
+            fresh = ways.with_along(ways.longer(place, link))
+            rows.append(AnswerRow("list", place, link, factors_of(walk, place), fresh, None))
+    return rows
+
+
+def rows_behind(ways, row, position):
+    """The ahead classes behind a class, which has this position."""
+    rows = []
+    for link in ways.ahead:
+        starts = row.fresh.get(ways.linked[link][0], [])
+        ends = []
+        for place in starts:
+            ends.extend(ways.longer(place, link))
+        # A list is missed always, also if it leads only back.
+        if len(ends) > 0 or (len(starts) > 0 and ways.linked[link][3]):
+            rows.append(AnswerRow("ahead", None, link, row.factors, ways.with_along(ends), position))
+    return rows
+
+
+def weighed(counts):
+    """The terms of the sum of the weights with these factors, each so many times."""
+    weights = {(): {(): 1}}
+    total = {}
+    for factors in counts:
+        for length in range(1, len(factors) + 1):
+            if factors[:length] not in weights:
+                weights[factors[:length]] = times_factor(weights[factors[:length - 1]], factors[length - 1])
+        terms = weights[factors]
+        for product in terms:
+            total[product] = total.get(product, 0) + counts[factors] * terms[product]
+    return {product: total[product] for product in total if total[product] != 0}
+
+
+def times_factor(terms, factor):
+    """The terms, whose size names are all less than the factor's, times the factor."""
+    label, name, whole, less = factor
+    total = {}
+    for low in range(less + 1):
+        power = whole + less - low
+        sign = 1 if low & 1 == 0 else -1
+        own = ((label, name, power),) if power > 0 else ()
+        for product in terms:
+            total[product + own] = sign * comb(less, low) * terms[product]
+    return total
