@@ -6,7 +6,7 @@ A weight is told by its factors, a sorted tuple of (label, name, power of the si
 from math import comb
 
 from fetchwalks.errors import TooMany
-from fetchwalks.places import kept_in, looped_in, reduced_routes, touched_in
+from fetchwalks.places import kept_now, looped_now, touched_now
 from fetchwalks.plans import links_by_kind, links_with
 from fetchwalks.words import ends_of
 
@@ -55,29 +55,74 @@ class Ways:
         return table
 
 
-def factors_of(walk, place):
-    """The factors of the weight of a place."""
-    links = walk.schema.link_rows
-    powers = {("find", name): (1, 0) for name, _, word in walk.finds() if name == place[0] and word == "many"}
-    for position in range(1, len(place)):
-        link = place[position]
-        _, _, back, is_list, single = links[link]
-        if is_list and not single:
-            whole, less = powers.get(("list", link), (0, 0))
-            # Behind its own field a list leads to the other members.
-            turns = position > 1 and place[position - 1] == back
-            powers["list", link] = (whole, less + 1) if turns else (whole + 1, less)
+def first_factors(walk):
+    """From the name of each find to the factors of the weight of its place."""
+    return {name: (("find", name, 1, 0),) if word == "many" else () for name, _, word in walk.finds()}
+
+
+def factors_behind(links, factors, before, link):
+    """The factors of a place with one link more, before being the last one of its links, or None."""
+    _, _, back, is_list, single = links[link]
+    if not is_list or single:
+        return factors
+    powers = {(label, name): (whole, less) for label, name, whole, less in factors}
+    whole, less = powers.get(("list", link), (0, 0))
+    # Behind its own field a list leads to the other members.
+    powers["list", link] = (whole, less + 1) if before == back else (whole + 1, less)
     return tuple([at + powers[at] for at in sorted(powers)])
 
 
-def class_rows(walk, plan):
+def factors_of(walk, place):
+    """The factors of the weight of a place."""
+    links, before = walk.schema.link_rows, None
+    factors = first_factors(walk)[place[0]]
+    for link in place[1:]:
+        factors = factors_behind(links, factors, before, link)
+        before = link
+    return factors
+
+
+def factor_table(walk, places, known):
+    """From each place to its factors, which known tells of some of them; the places ahead on its way come ahead."""
+    links, first = walk.schema.link_rows, first_factors(walk)
+    table = {}
+    for place in places:
+        if place in known:
+            table[place] = known[place]
+        elif len(place) == 1:
+            table[place] = first[place[0]]
+        else:
+            before = place[-2] if len(place) > 2 else None
+            table[place] = factors_behind(links, table[place[:-1]], before, place[-1])
+    return table
+
+
+def touched_factors(walk):
+    """From each touched place to its factors."""
+    known = walk.memory.known
+    if "factors" not in known:
+        known["factors"] = factor_table(walk, touched_now(walk), {})
+    return known["factors"]
+
+
+def kept_factors(walk, plan):
+    """From each kept place to its factors."""
+    return factor_table(walk, kept_now(walk, plan), touched_factors(walk))
+
+
+def rows_now(walk, plan):
     """The list of the classes of answers of a walk and a plan of one schema."""
+    known = walk.memory.of_plan(plan)
+    if "rows" not in known:
+        known["rows"] = class_rows(walk, plan)
+    return known["rows"]
+
+
+def class_rows(walk, plan):
     ways = Ways(walk, plan)
-    reduced = reduced_routes(walk)
-    touched = touched_in(reduced)
     # Only so many kept places are gone through.
-    kept_in(walk, plan, touched)
-    rows = first_rows(walk, ways, touched, looped_in(walk, reduced))
+    kept_now(walk, plan)
+    rows = first_rows(walk, ways)
     position = 0
     while position < len(rows):
         rows.extend(rows_behind(ways, rows[position], position))
@@ -87,19 +132,20 @@ def class_rows(walk, plan):
     return rows
 
 
-def first_rows(walk, ways, touched, looped):
+def first_rows(walk, ways):
     """The classes that are not ahead."""
     rows = []
     for name, _, _ in walk.finds():
         place = (name,)
         rows.append(AnswerRow("find", place, None, (), ways.with_along([place]), None))
-    for place in touched:
+    factors = touched_factors(walk)
+    for place in factors:
         if len(place) > 1 and place[-1] not in ways.not_late and not ways.linked[place[-1]][3]:
-            rows.append(AnswerRow("object", place, place[-1], factors_of(walk, place), ways.with_along([place]), None))
-    for place, link in looped:
+            rows.append(AnswerRow("object", place, place[-1], factors[place], ways.with_along([place]), None))
+    for place, link in looped_now(walk):
         if link not in ways.not_late:
             fresh = ways.with_along(ways.longer(place, link))
-            rows.append(AnswerRow("list", place, link, factors_of(walk, place), fresh, None))
+            rows.append(AnswerRow("list", place, link, factors[place], fresh, None))
     return rows
 
 

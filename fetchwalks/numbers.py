@@ -1,7 +1,7 @@
 """Numbers: how many questions a walk asks at most by a plan, and how many objects are kept then."""
 
-from fetchwalks.classes import class_rows, factors_of, weighed
-from fetchwalks.places import kept_places, right_places
+from fetchwalks.classes import factors_of, kept_factors, rows_now, weighed
+from fetchwalks.places import right_places
 from fetchwalks.plans import check_plan
 from fetchwalks.schemas import check_same_schema
 from fetchwalks.sums import sum_of
@@ -72,8 +72,10 @@ def most(walk, plan):
 
 
 def most_kept(walk, plan):
-    places = kept_places(walk, plan).rows()
-    return weight_sum([factors_of(walk, place) for place in places])
+    check_walk(walk)
+    check_plan(plan)
+    check_same_schema(walk.schema, plan.schema)
+    return weight_sum(list(kept_factors(walk, plan).values()))
 
 
 def most_by_link(walk, plan):
@@ -92,7 +94,7 @@ def checked_rows(walk, plan):
     check_walk(walk)
     check_plan(plan)
     check_same_schema(walk.schema, plan.schema)
-    return class_rows(walk, plan)
+    return rows_now(walk, plan)
 
 
 def weight_sum(weights):

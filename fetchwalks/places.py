@@ -85,6 +85,13 @@ def right_places(walk, rows):
     return made
 
 
+def ready_places(walk, table):
+    """The Places of what place_keys told of places of the walk."""
+    made = Places(walk)
+    made._table = table
+    return made
+
+
 def place_keys(rows):
     """The different ones of the rows, sorted, as keys of a dict."""
     different = {row: True for row in rows}
@@ -105,29 +112,29 @@ def places_at(walk, spot):
     check_walk(walk)
     if spot not in walk:
         raise UnknownSpot(spot)
-    return right_places(walk, reduced_routes(walk)[walk.route(spot)])
+    return right_places(walk, reduced_now(walk)[walk.route(spot)])
 
 
 def touched_places(walk):
     check_walk(walk)
-    return right_places(walk, touched_in(reduced_routes(walk)))
+    return ready_places(walk, touched_now(walk))
 
 
 def kept_places(walk, plan):
     check_walk(walk)
     check_plan(plan)
     check_same_schema(walk.schema, plan.schema)
-    return right_places(walk, kept_in(walk, plan, touched_in(reduced_routes(walk))))
+    return ready_places(walk, kept_now(walk, plan))
 
 
 def looped_places(walk):
     check_walk(walk)
-    return looped_in(walk, reduced_routes(walk))
+    return list(looped_now(walk))
 
 
 def place_table(walk):
     check_walk(walk)
-    reduced = reduced_routes(walk)
+    reduced = reduced_now(walk)
     return {spot: list(reduced[walk.route(spot)]) for spot in walk.spots()}
 
 
@@ -147,7 +154,7 @@ def is_place_table(walk, value):
 def why_place(walk, place):
     check_walk(walk)
     check_place(walk, place)
-    reduced = reduced_routes(walk)
+    reduced = reduced_now(walk)
     for spot in walk.spots():
         route = walk.route(spot)
         if place in reduced[route]:
@@ -204,6 +211,39 @@ def prefixes(walk, place):
         yield place[:length]
 
 
+def reduced_now(walk):
+    """From the routes of all spots to the sorted lists of their reductions."""
+    known = walk.memory.known
+    if "reduced" not in known:
+        known["reduced"] = reduced_routes(walk)
+    return known["reduced"]
+
+
+def touched_now(walk):
+    """The touched places, sorted, as keys of a dict."""
+    known = walk.memory.known
+    if "touched" not in known:
+        reduced = reduced_now(walk)
+        known["touched"] = place_keys([place for route in reduced for place in reduced[route]])
+    return known["touched"]
+
+
+def looped_now(walk):
+    """The sorted list of the looped tuples (place, list)."""
+    known = walk.memory.known
+    if "looped" not in known:
+        known["looped"] = looped_in(walk, reduced_now(walk))
+    return known["looped"]
+
+
+def kept_now(walk, plan):
+    """The kept places of a walk and a plan of one schema, sorted, as keys of a dict."""
+    known = walk.memory.of_plan(plan)
+    if "kept" not in known:
+        known["kept"] = place_keys(kept_in(walk, plan, touched_now(walk)))
+    return known["kept"]
+
+
 def reduced_routes(walk):
     """From the routes of all spots to the sorted lists of their reductions."""
     links = walk.schema.link_rows
@@ -218,15 +258,6 @@ def reduced_routes(walk):
     return table
 
 
-def touched_in(reduced):
-    """The sorted list of the places in the reductions of routes."""
-    found = set()
-    for route in reduced:
-        for place in reduced[route]:
-            found.add(place)
-    return sorted(found)
-
-
 def looped_in(walk, reduced):
     """The sorted list of the looped tuples (place, list) of a walk with these reductions."""
     found = set()
@@ -238,7 +269,7 @@ def looped_in(walk, reduced):
 
 
 def kept_in(walk, plan, touched):
-    """The sorted list of the kept places of a walk with these touched ones."""
+    """The list of the kept places of a walk with these touched ones."""
     links = walk.schema.link_rows
     early = links_by_kind(plan, ("along", "ahead"))
     kinds = {name: kind for name, kind, _ in walk.finds()}
@@ -254,4 +285,4 @@ def kept_in(walk, plan, touched):
                     waiting.append(end)
         if len(kept) > MOST_PLACES:
             raise TooMany("places", MOST_PLACES)
-    return sorted(kept)
+    return list(kept)

@@ -30,6 +30,11 @@ class Plan:
         """The words that are not late, by links, sorted."""
         return self._early
 
+    @property
+    def word_key(self):
+        """The same words as a tuple, which can be a key."""
+        return tuple(self._early.items())
+
     def __setitem__(self, at, worth):
         check_link(self._schema, at)
         if not isinstance(worth, str) or worth not in Plan.WORDS:

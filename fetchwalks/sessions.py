@@ -311,10 +311,15 @@ def questions(store, plan, walk, roots):
     check_roots(walk, store, roots)
     check_same_schema(store.schema, plan.schema)
     check_same_schema(store.schema, walk.schema)
+    return [question_of(told) for told in keeping_behind(store, plan, walk, roots).asked]
+
+
+def keeping_behind(store, plan, walk, roots):
+    """What is kept and was asked behind one run in a new session."""
     keeping = Keeping(store, plan)
     for word, step, number in run_events(walk, store, roots):
         ask_for(keeping, word, step, number, roots)
-    return [question_of(told) for told in keeping.asked]
+    return keeping
 
 
 def ask_for(keeping, word, step, number, roots):

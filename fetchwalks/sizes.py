@@ -1,7 +1,7 @@
 """Sizes: how many roots finds have at most, and how many members lists have at most."""
 
 from fetchwalks.checks import is_integer
-from fetchwalks.errors import InvalidSize, InvalidSizeName
+from fetchwalks.errors import InvalidSize, InvalidSizeName, InvalidSizes
 from fetchwalks.runs import check_roots
 from fetchwalks.schemas import check_same_schema
 from fetchwalks.stores import check_store
@@ -27,6 +27,10 @@ class Sizes:
         return sizes
 
     @property
+    def schema(self):
+        return self._walk.schema
+
+    @property
     def numbers(self):
         """The sizes by their names, sorted."""
         return self._numbers
@@ -50,6 +54,9 @@ class Sizes:
         if not isinstance(other, Sizes) or self._walk.schema != other._walk.schema:
             return False
         return self._walk.finds() == other._walk.finds() and self._numbers == other._numbers
+
+    def finds(self):
+        return self._walk.finds()
 
     def names(self):
         return list(self._numbers)
@@ -77,6 +84,27 @@ class Sizes:
     def _check_name(self, label, name):
         if not isinstance(label, str) or not isinstance(name, str) or (label, name) not in self._numbers:
             raise InvalidSizeName((label, name))
+
+
+def check_sizes(sizes):
+    if not isinstance(sizes, Sizes):
+        raise InvalidSizes(sizes)
+
+
+def size_at(links, numbers, place):
+    """How many objects there are at a place with each one of the place without its last link, by these sizes."""
+    if len(place) == 1:
+        return numbers.get(("find", place[0]), 1)
+    return size_behind(links, numbers, place[-2] if len(place) > 2 else None, place[-1])
+
+
+def size_behind(links, numbers, before, link):
+    """How many objects a link adds to each place whose last link is before, which it can follow."""
+    _, _, back, is_list, single = links[link]
+    if not is_list or single:
+        return 1
+    # Behind its own field a list leads to the other members.
+    return numbers["list", link] - 1 if before == back else numbers["list", link]
 
 
 def size_names(walk):

@@ -17,6 +17,8 @@ class Sum:
         if not is_integer(number):
             raise InvalidNumber(number)
         self._terms = number_terms(number)
+        self._positive = None
+        self._leads = None
 
     @staticmethod
     def size(label, name):
@@ -80,6 +82,20 @@ class Sum:
         if len(names_in(self._terms)) > 0:
             return None
         return self._terms.get((), 0)
+
+    @property
+    def is_positive(self):
+        """Whether it has, in powers of the sizes less their least, positive coefficients alone, and is not 0."""
+        if self._positive is None:
+            self._positive = are_positive(self._terms)
+        return self._positive
+
+    @property
+    def leading_products(self):
+        """The sorted list of its products of which no other one is a multiple; it is never changed."""
+        if self._leads is None:
+            self._leads = leading_in(self._terms)
+        return self._leads
 
     def at_most(self, other):
         if not isinstance(other, Sum):
@@ -167,6 +183,43 @@ def shifted_by(terms, label, name):
             total[longer] = total.get(longer, 0) + comb(power, low) * worth
             worth = worth * LEAST[label]
     return without_zeros(total)
+
+
+def are_positive(terms):
+    if len(terms) == 0:
+        return False
+    # Written so, terms above 0 stay above 0.
+    if all([terms[product] > 0 for product in terms]):
+        return True
+    shifted = shifted_terms(terms)
+    return all([shifted[product] > 0 for product in shifted])
+
+
+def leading_in(terms):
+    """The sorted list of the products of which no other product of the terms is a multiple."""
+    degrees = [(sum([power for _, _, power in product]), product) for product in terms]
+    found = []
+    for degree, product in sorted(degrees, reverse=True):
+        if not has_multiple(found, degree, product):
+            found.append((degree, {(label, name): power for label, name, power in product}, product))
+    return sorted([product for _, _, product in found])
+
+
+def has_multiple(found, degree, product):
+    """Whether one of the tuples (degree, powers, product) is that of a multiple of this product."""
+    for other, powers, _ in found:
+        # A multiple has a greater degree.
+        if other > degree and is_multiple(powers, product):
+            return True
+    return False
+
+
+def is_multiple(powers, product):
+    """Whether a product with these powers is a multiple of another one."""
+    for label, name, power in product:
+        if powers.get((label, name), 0) < power:
+            return False
+    return True
 
 
 def names_in(terms):

@@ -2,6 +2,7 @@
 
 from fetchwalks.checks import is_path
 from fetchwalks.errors import NameTaken, NoWalk, OtherFinds, TooMany, UnknownPath, UnknownSpot
+from fetchwalks.memory import Memory
 from fetchwalks.schemas import check_same_schema, check_schema
 from fetchwalks.sketches import aims_of
 from fetchwalks.walkbodies import body_without, path_table, program_of, written_finds
@@ -21,10 +22,15 @@ class Walk:
         self._path_rows = None
         self._program = None
         self._aims = None
+        self._memory = Memory()
 
     @property
     def schema(self):
         return self._schema
+
+    @property
+    def memory(self):
+        return self._memory
 
     @property
     def plain_finds(self):

@@ -30,11 +30,20 @@ FUNCTIONS = {
         "weight": "walk, place", "answer_classes": "walk, plan", "most": "walk, plan", "most_kept": "walk, plan",
         "most_by_link": "walk, plan", "first_growing": "walk, plan",
     },
+    "free": {"free_store": "walk, plan, sizes", "asked_and_kept": "walk, plan, store, roots"},
     "minimal": {"minimal_store": "walk, spot", "minimal_for_loop": "walk, loop"},
     "walkpairs": {
         "is_within": "one, other, *, lists=True", "are_alike": "one, other, *, lists=True", "covers": "one, other",
         "parting": "one, other, *, lists=True", "is_parting": "one, other, value, *, lists=True", "maps": "one, other",
         "are_maps": "one, other, value", "needless": "walk", "lean": "walk", "is_lean": "walk",
+    },
+    "early": {
+        "must": "walk", "is_bounded": "walk, plan", "bound": "walk, plan", "bounded_plan": "walk", "used_links": "walk",
+        "unbeaten": "walk, sizes",
+    },
+    "growth": {
+        "leading": "total", "grows_no_faster": "one, other", "shares": "one, other", "are_shares": "one, other, value",
+        "direction": "one, other", "is_direction": "one, other, value",
     },
 }
 
@@ -102,7 +111,7 @@ PROPERTIES = [
 ]
 
 # What may be imported from elsewhere.
-LIBRARY = {"math": ["comb"]}
+LIBRARY = {"math": ("comb", "gcd", "lcm")}
 
 
 def parameters(function):
@@ -174,7 +183,7 @@ class Files(unittest.TestCase):
                 if isinstance(node, ast.ImportFrom):
                     names = [alias.name for alias in node.names]
                     own = node.module.startswith("fetchwalks.")
-                    self.assertTrue(own or names == LIBRARY.get(node.module), path.name)
+                    self.assertTrue(own or set(names) <= set(LIBRARY.get(node.module, ())), path.name)
 
 
 if __name__ == "__main__":

@@ -48,17 +48,15 @@ STAGE_4 = """
 ((0, 0, 0, 0), ['same'])
 """
 
-# Those lines of the example that need no later file.
 STAGE_5 = """
+>>> from fetchwalks.free import asked_and_kept, free_store
 >>> from fetchwalks.numbers import most, most_kept
 >>> from fetchwalks.sizes import Sizes
 >>> late, sizes = Plan(shop), Sizes.of(walk, ("find", "o", 3), ("list", "orders", 4))
 >>> [most(walk, late).products(), most(walk, late)(sizes), most(walk, early)(sizes), most_kept(walk, late)(sizes)]
 [{(): 1, (('find', 'o', 1),): 2, (('find', 'o', 1), ('list', 'orders', 1)): 1}, 19, 16, 27]
->>> from fetchwalks.sums import Sum
->>> n, m = Sum.size("find", "o"), Sum.size("list", "orders")
->>> (n * m + 1)(sizes)
-13
+>>> asked_and_kept(walk, late, *free_store(walk, late, sizes))
+(19, 27)
 """
 
 STAGE_6 = """
@@ -76,10 +74,22 @@ PARTED = """
 """
 
 
+STAGE_7 = """
+>>> from fetchwalks.early import bound, bounded_plan, must
+>>> from fetchwalks.growth import grows_no_faster
+>>> from fetchwalks.sums import Sum
+>>> [must(walk), bounded_plan(walk).words()["place"], bound(walk, bounded_plan(walk))]
+[['buyer', 'orders', 'place'], 'along', 1]
+>>> n, m = Sum.size("find", "o"), Sum.size("list", "orders")
+>>> [grows_no_faster(n * m, n * n + m ** 2), grows_no_faster(n * m, n + m), (n * m + 1)(sizes)]
+[True, False, 13]
+"""
+
+
 class Examples(unittest.TestCase):
     def test_all_in_their_sequence(self):
         names = {}
-        for number, text in enumerate([STAGE_1, STAGE_2, STAGE_3, STAGE_4, STAGE_5, STAGE_6, PARTED]):
+        for number, text in enumerate([STAGE_1, STAGE_2, STAGE_3, STAGE_4, STAGE_5, STAGE_6, PARTED, STAGE_7]):
             test = doctest.DocTestParser().get_doctest(text, names, f"example {number}", None, 0)
             told = []
             result = doctest.DocTestRunner().run(test, out=told.append, clear_globs=False)

@@ -1,0 +1,21 @@
+"""What was worked out about a walk, so that it need not be worked out again.
+
+What is kept here is never changed: whoever tells it tells a copy, or an object that does not change.
+"""
+
+MOST_PLANS = 20
+
+
+class Memory:
+    def __init__(self):
+        self.known = {}
+        self._by_words = {}
+
+    def of_plan(self, plan):
+        """The dict of what is known about the walk by a plan with these words."""
+        key = plan.word_key
+        if key not in self._by_words:
+            if len(self._by_words) >= MOST_PLANS:
+                self._by_words = {}
+            self._by_words[key] = {}
+        return self._by_words[key]
