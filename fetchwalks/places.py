@@ -182,15 +182,13 @@ def shows_place(walk, place, value):
     if not isinstance(value, tuple) or len(value) != 2:
         return False
     spot, choices = value
-    if spot not in walk or not is_sequence(choices):
-        return False
-    if not all([isinstance(choice, str) and choice in CHOICES for choice in choices]):
-        return False
-    return end_by_choices(walk.schema.link_rows, walk.route(spot), choices) == place
+    return spot in walk and end_by_choices(walk.schema.link_rows, walk.route(spot), choices) == place
 
 
 def end_by_choices(links, route, choices):
-    """The place to which one comes along a route by these choices, or None if they are too few or too many."""
+    """The place to which one comes along a route by these choices; None for any value that is no list of as many."""
+    if not is_sequence(choices) or not all([isinstance(choice, str) and choice in CHOICES for choice in choices]):
+        return None
     place, used = route[:1], 0
     for link in route[1:]:
         ends = ends_of(links, place, link)

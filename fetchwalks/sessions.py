@@ -265,9 +265,9 @@ class Session:
         return list(self.walked(walk, roots))
 
     def walked(self, walk, roots):
-        keeping, store = self._keeping, self._keeping.source
-        check_run(walk, store, roots)
-        for word, step, number in run_events(walk, store, roots):
+        keeping = self._keeping
+        check_run(walk, keeping.source, roots)
+        for word, step, number in run_events(walk, self._view(), roots):
             ask_for(keeping, word, step, number, roots)
             if word == "touch":
                 yield step.path, number
@@ -302,6 +302,10 @@ class Session:
         twin = Session(self._keeping.source)
         twin._keeping = self._keeping.copy()
         return twin
+
+    def _view(self):
+        """What runs go by."""
+        return self._keeping.source
 
 
 def questions(store, plan, walk, roots):

@@ -102,6 +102,12 @@ class Store:
         back = self._schema.back_of(link)
         return [end for field, end in self._leading if field == back and len(self._leading[field, end]) > most]
 
+    def rewrite(self, fresh):
+        """Takes over other rows of objects of the store, which are right."""
+        self._lead(fresh, list(fresh))
+        for at in fresh:
+            self._rows[at] = fresh[at]
+
     def _has(self, kind, number):
         return isinstance(kind, str) and is_integer(number) and (kind, number) in self._rows
 

@@ -27,28 +27,39 @@ def covers(one, other):
 
 def parting(one, other, *, lists=True):
     check_pair(one, other)
-    for walk, second in ((one, other), (other, one)):
-        aim = first_uncovered(walk, second, lists)
-        if aim is not None:
-            path = aim.found_at[0][:len(aim.steps)]
-            store, roots, things = minimal_for(walk, path)
-            _, number = things[path[:aim.goal + 1]]
-            return (store, roots, (aim.word, aim.name, number))
-    return None
+    found = parting_from(one, other, lists)
+    return parting_from(other, one, lists) if found is None else found
+
+
+def parting_from(one, other, lists):
+    """The tuple (store, roots, thing) of what one comes to and the other one does not, or None."""
+    aim = first_uncovered(one, other, lists)
+    if aim is None:
+        return None
+    path = aim.found_at[0][:len(aim.steps)]
+    store, roots, things = minimal_for(one, path)
+    _, number = things[path[:aim.goal + 1]]
+    return (store, roots, (aim.word, aim.name, number))
 
 
 def is_parting(one, other, value, *, lists=True):
     check_pair(one, other)
+    sides = sides_of(one, other, value, lists)
+    return sides is not None and sides[0] != sides[1]
+
+
+def sides_of(one, other, value, lists):
+    """Whether one, and whether the other one, comes to the thing of such a tuple; None for any other value."""
     if not isinstance(value, tuple) or len(value) != 3:
-        return False
+        return None
     store, roots, thing = value
     if not isinstance(store, Store) or store.schema != one.schema or not is_thing(thing, lists):
-        return False
+        return None
     try:
         check_roots(one, store, roots)
     except InvalidRoots:
-        return False
-    return comes_to(one, store, roots, thing) != comes_to(other, store, roots, thing)
+        return None
+    return (comes_to(one, store, roots, thing), comes_to(other, store, roots, thing))
 
 
 def is_thing(value, lists):

@@ -33,6 +33,16 @@ class Walk:
         return self._memory
 
     @property
+    def find_rows(self):
+        """The tuple of the finds as they were passed."""
+        return self._finds
+
+    @property
+    def block_rows(self):
+        """The tuple of the blocks as they were passed."""
+        return self._blocks
+
+    @property
     def plain_finds(self):
         """The tuple of the finds with their bodies, written out."""
         if self._plain_finds is None:

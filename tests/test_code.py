@@ -45,6 +45,12 @@ FUNCTIONS = {
         "leading": "total", "grows_no_faster": "one, other", "shares": "one, other", "are_shares": "one, other, value",
         "direction": "one, other", "is_direction": "one, other, value",
     },
+    "changes": {"tried_changes": "editor, changes, ask"},
+    "texts": {
+        "schema_text": "schema", "walk_text": "walk", "plan_text": "plan", "read_schema": "text", "read_walk": "schema, text",
+        "read_plan": "schema, text",
+    },
+    "judge": {"is_claim": "value", "certificate_of": "claim", "is_certificate": "claim, value"},
 }
 
 # What the four sorts of questions, and what they derive from, have.
@@ -100,6 +106,15 @@ CLASSES = {
         "__repr__": "self",
     },
     ("numbers", "Answers"): {"__eq__": "self, other"},
+    ("changes", "Editor"): {
+        "__init__": "self, store, plan=None", "change": "self, kind, number, name, value", "__iadd__": None,
+        "shown": "self, kind, number", "members_shown": "self, link, number", "changed": "self", "undo": "self", "save": "self",
+        "trial": "self", "copy": "self",
+    },
+    ("desk", "Desk"): {
+        "do": "self, command", "do_all": "self, *commands", "undo": "self", "names": "self", "named": "self, name", "log": "self",
+        "__len__": "self", "__contains__": None,
+    },
 }
 
 PROPERTIES = [

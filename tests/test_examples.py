@@ -86,10 +86,40 @@ STAGE_7 = """
 """
 
 
+STAGE_8 = """
+>>> from fetchwalks.changes import Editor
+>>> editor = Editor(store)
+>>> done = editor.run(walk, {"o": [1, 2]})
+>>> editor.change("order", 2, "buyer", None)
+>>> [editor.members_shown("orders", 1), editor.shown("order", 2)["buyer"], editor.changed(), editor.store.members("orders", 1)]
+[[1], None, [('order', 2, 'buyer')], [1, 2]]
+>>> [editor.run(walk, {"o": [2]}), len(editor), editor.save(), editor.store.members("orders", 1), editor.changed()]
+[[((0,), 2)], 4, None, [1], []]
+"""
+
+STAGE_9 = """
+>>> from fetchwalks.desk import Desk
+>>> desk = Desk()
+>>> desk.do_all("schema s kind a | kind b | field f a b list g", "walk w s find x a many |   go x f y", "plan p s", "places w", "most w p find/x=5 list/g=2")
+['done', 'done', 'done', 'x x.f', '6']
+"""
+
+# What the document tells in words ahead of the first stage: m is the most of a customer.
+OVERVIEW = """
+>>> most(walk, Plan.of(shop, place="along")) == 1 + 2 * n
+True
+>>> most(walk, Plan.of(shop, buyer="along", place="along")) == 1 + n
+True
+>>> from fetchwalks.numbers import most_by_link
+>>> most_by_link(walk, late)["place"] == n + n * (m - 1)
+True
+"""
+
+
 class Examples(unittest.TestCase):
     def test_all_in_their_sequence(self):
         names = {}
-        for number, text in enumerate([STAGE_1, STAGE_2, STAGE_3, STAGE_4, STAGE_5, STAGE_6, PARTED, STAGE_7]):
+        for number, text in enumerate([STAGE_1, STAGE_2, STAGE_3, STAGE_4, STAGE_5, STAGE_6, PARTED, STAGE_7, STAGE_8, STAGE_9, OVERVIEW]):
             test = doctest.DocTestParser().get_doctest(text, names, f"example {number}", None, 0)
             told = []
             result = doctest.DocTestRunner().run(test, out=told.append, clear_globs=False)
