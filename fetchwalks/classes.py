@@ -6,7 +6,7 @@ A weight is told by its factors, a sorted tuple of (label, name, power of the si
 from math import comb
 
 from fetchwalks.errors import TooMany
-from fetchwalks.places import kept_now, looped_now, touched_now
+from fetchwalks.places import kept_now, looped_now, place_keys, touched_now
 from fetchwalks.plans import links_by_kind, links_with
 from fetchwalks.words import ends_of
 
@@ -23,6 +23,14 @@ class AnswerRow:
         self.factors = factors
         self.fresh = fresh
         self.after = after
+        self._keys_kept = None
+
+    @property
+    def new_keys(self):
+        """The new places, sorted, as keys of a dict."""
+        if self._keys_kept is None:
+            self._keys_kept = place_keys([place for kind in self.fresh for place in self.fresh[kind]])
+        return self._keys_kept
 
 
 class Ways:
@@ -163,17 +171,24 @@ def rows_behind(ways, row, position):
     return rows
 
 
-def weighed(counts):
-    """The terms of the sum of the weights with these factors, each so many times."""
-    weights = {(): {(): 1}}
+def weight_terms(walk, factors):
+    """The terms of a weight with these factors."""
+    weights = walk.memory.weights
+    if factors not in weights:
+        weights[factors] = times_factor(weight_terms(walk, factors[:-1]), factors[-1]) if len(factors) > 0 else {(): 1}
+    return weights[factors]
+
+
+def total_terms(walk, rows):
+    """The terms of the sum of weights, which are told by a list of their factors."""
+    counts = {}
+    for factors in rows:
+        counts[factors] = counts.get(factors, 0) + 1
     total = {}
     for factors in counts:
-        for length in range(1, len(factors) + 1):
-            if factors[:length] not in weights:
-                weights[factors[:length]] = times_factor(weights[factors[:length - 1]], factors[length - 1])
-        terms = weights[factors]
+        many, terms = counts[factors], weight_terms(walk, factors)
         for product in terms:
-            total[product] = total.get(product, 0) + counts[factors] * terms[product]
+            total[product] = total.get(product, 0) + many * terms[product]
     return {product: total[product] for product in total if total[product] != 0}
 
 

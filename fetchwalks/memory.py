@@ -9,6 +9,8 @@ MOST_PLANS = 20
 class Memory:
     def __init__(self):
         self.known = {}
+        # From the factors of weights to their terms.
+        self.weights = {}
         self._by_words = {}
 
     def of_plan(self, plan):

@@ -1,7 +1,8 @@
 """Numbers: how many questions a walk asks at most by a plan, and how many objects are kept then."""
 
-from fetchwalks.classes import factors_of, kept_factors, rows_now, weighed
-from fetchwalks.places import right_places
+from fetchwalks.checks import are_words
+from fetchwalks.classes import factors_of, kept_factors, rows_now, total_terms, touched_factors, weight_terms
+from fetchwalks.places import ready_places
 from fetchwalks.plans import check_plan
 from fetchwalks.schemas import check_same_schema
 from fetchwalks.sums import sum_of
@@ -15,6 +16,7 @@ class Answers:
     def __init__(self, walk, row, before):
         self._walk = walk
         self._row = row
+        self._terms = weight_terms(walk, row.factors)
         self._before = before
 
     @property
@@ -31,15 +33,11 @@ class Answers:
 
     @property
     def times(self):
-        return weight_sum([self._row.factors])
+        return sum_of(self._terms)
 
     @property
     def new(self):
-        fresh = self._row.fresh
-        places = []
-        for kind in fresh:
-            places.extend(fresh[kind])
-        return right_places(self._walk, places)
+        return ready_places(self._walk, self._row.new_keys)
 
     @property
     def behind(self):
@@ -55,51 +53,70 @@ class Answers:
 
 def weight(walk, place):
     check_walk(walk)
-    check_place(walk, place)
-    return weight_sum([factors_of(walk, place)])
+    # Nearly always touched places are asked for, and these are right.
+    factors = touched_factors(walk).get(place) if are_words(place) else None
+    if factors is None:
+        check_place(walk, place)
+        factors = factors_of(walk, place)
+    return sum_of(weight_terms(walk, factors))
 
 
 def answer_classes(walk, plan):
+    check_planned(walk, plan)
     made = []
-    for row in checked_rows(walk, plan):
-        before = None if row.after is None else made[row.after]
-        made.append(Answers(walk, row, before))
+    for row in rows_now(walk, plan):
+        made.append(Answers(walk, row, None if row.after is None else made[row.after]))
     return made
 
 
 def most(walk, plan):
-    return weight_sum([row.factors for row in checked_rows(walk, plan)])
+    check_planned(walk, plan)
+    known = walk.memory.of_plan(plan)
+    if "most" not in known:
+        known["most"] = total_terms(walk, [row.factors for row in rows_now(walk, plan)])
+    return sum_of(known["most"])
 
 
 def most_kept(walk, plan):
-    check_walk(walk)
-    check_plan(plan)
-    check_same_schema(walk.schema, plan.schema)
-    return weight_sum(list(kept_factors(walk, plan).values()))
+    check_planned(walk, plan)
+    known = walk.memory.of_plan(plan)
+    if "most kept" not in known:
+        known["most kept"] = total_terms(walk, list(kept_factors(walk, plan).values()))
+    return sum_of(known["most kept"])
 
 
 def most_by_link(walk, plan):
-    rows = checked_rows(walk, plan)
-    return {link: weight_sum([row.factors for row in rows if row.link == link]) for link in walk.schema.links()}
+    check_planned(walk, plan)
+    known = walk.memory.of_plan(plan)
+    if "by link" not in known:
+        known["by link"] = terms_by_link(walk, plan)
+    terms = known["by link"]
+    return {link: sum_of(terms[link]) for link in terms}
+
+
+def terms_by_link(walk, plan):
+    table = {link: [] for link in walk.schema.links()}
+    for row in rows_now(walk, plan):
+        if row.link is not None:
+            table[row.link].append(row.factors)
+    return {link: total_terms(walk, table[link]) for link in table}
 
 
 def first_growing(walk, plan):
-    for answers in answer_classes(walk, plan):
-        if answers.times.constant is None:
-            return answers
+    check_planned(walk, plan)
+    rows = rows_now(walk, plan)
+    for position, row in enumerate(rows):
+        if len(row.factors) > 0:
+            return answers_at(walk, rows, position)
     return None
 
 
-def checked_rows(walk, plan):
+def answers_at(walk, rows, position):
+    row = rows[position]
+    return Answers(walk, row, None if row.after is None else answers_at(walk, rows, row.after))
+
+
+def check_planned(walk, plan):
     check_walk(walk)
     check_plan(plan)
     check_same_schema(walk.schema, plan.schema)
-    return rows_now(walk, plan)
-
-
-def weight_sum(weights):
-    """The Sum of weights, which are told by their factors."""
-    counts = {}
-    for factors in weights:
-        counts[factors] = counts.get(factors, 0) + 1
-    return sum_of(weighed(counts))

@@ -244,15 +244,14 @@ def kept_now(walk, plan):
 
 def reduced_routes(walk):
     """From the routes of all spots to the sorted lists of their reductions."""
-    links = walk.schema.link_rows
+    links, rows = walk.schema.link_rows, walk.path_rows
     table = {}
-    for spot in walk.spots():
-        route = walk.route(spot)
-        if len(route) == 1:
-            table[route] = [route]
-        elif route not in table:
+    for path in rows:
+        route = rows[path][3]
+        # An if has no route.
+        if route is not None and route not in table:
             # The route of a spot's x comes ahead of that of the spot.
-            table[route] = sorted(next_places(links, table[route[:-1]], route[-1]))
+            table[route] = [route] if len(route) == 1 else sorted(next_places(links, table[route[:-1]], route[-1]))
     return table
 
 
