@@ -4,6 +4,7 @@ What is kept here is never changed: whoever tells it tells a copy, or an object 
 """
 
 MOST_PLANS = 20
+MOST_WALKS = 40
 
 
 class Memory:
@@ -12,6 +13,7 @@ class Memory:
         # From the factors of weights to their terms.
         self.weights = {}
         self._by_words = {}
+        self._by_walk = {}
 
     def of_plan(self, plan):
         """The dict of what is known about the walk by a plan with these words."""
@@ -21,3 +23,11 @@ class Memory:
                 self._by_words = {}
             self._by_words[key] = {}
         return self._by_words[key]
+
+    def of_walk(self, other):
+        """The dict of what is known about the walk beside the one with this other memory."""
+        if other not in self._by_walk:
+            if len(self._by_walk) >= MOST_WALKS:
+                self._by_walk = {}
+            self._by_walk[other] = {}
+        return self._by_walk[other]

@@ -45,7 +45,7 @@ def numbered(kinds):
 
 def sketch_row(schema, sketch, thing, objects):
     fields, flags, _, _ = schema.shapes[objects[thing][0]]
-    row = {flag: thing in sketch.marked.get(flag, ()) for flag in flags}
+    row = {flag: (sketch.marked.get(flag, 0) >> thing) & 1 == 1 for flag in flags}
     for field in fields:
         numbers = [objects[end][1] for end in sketch.ends(thing, field)]
         row[field] = numbers[0] if len(numbers) > 0 else None

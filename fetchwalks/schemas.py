@@ -20,6 +20,7 @@ class Schema:
         self._links = link_table(self._fields)
         self._shapes = shape_table(self._kinds, self._links, self._flags)
         self._followers = None
+        self._name_bits = None
 
     def kinds(self):
         return list(self._kinds)
@@ -84,6 +85,13 @@ class Schema:
             self._followers = follower_table(self._links)
         return self._followers
 
+    @property
+    def name_bits(self):
+        """From each link and flag to a bit of its own."""
+        if self._name_bits is None:
+            self._name_bits = bits_by_name(list(self._links) + list(self._flags))
+        return self._name_bits
+
     def _link_row(self, link):
         if not self.has_link(link):
             raise UnknownLink(link)
@@ -126,6 +134,10 @@ def follower_table(links):
         barred = back if is_list or single else None
         table[link] = [other for other in links if links[other][0] == target and other != barred]
     return table
+
+
+def bits_by_name(names):
+    return {name: 1 << at for at, name in enumerate(names)}
 
 
 def check_kinds(kinds):

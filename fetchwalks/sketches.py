@@ -2,6 +2,7 @@
 
 Steps that lie within one another are told as a tuple of (word, name, position of the step of x): of a find with its
 kind, of the others with the link or flag. So statements of different walks, and at different paths, have equal steps.
+Objects, and names of links and flags, are told by the bits of numbers where several are meant.
 """
 
 
@@ -9,121 +10,171 @@ class Sketch:
     """A minimal store whose objects are counted from 0 on, in the sequence in which they are made."""
 
     def __init__(self, schema, steps):
-        self._links = schema.link_rows
+        links = schema.link_rows
         self.made = []
         # The object at each step, None at an if.
         self.things = []
-        # From a link to the pairs of objects between which it leads.
-        self.pairs = {}
-        # From a flag to the objects for which it is true.
+        # From a link to the tuples (bit of an object, bit of one to which it leads from there).
+        self.arrows = {}
+        # From a flag to the bits of the objects for which it is true.
         self.marked = {}
+        # From an object and a link to the first object to which it leads.
+        firsts = {}
         for word, name, owner in steps:
             if word == "find":
-                self.things.append(self._make(name))
+                self.made.append(name)
+                self.things.append(0)
             elif word == "if":
-                self.marked.setdefault(name, []).append(self.things[owner])
+                self.marked[name] = self.marked.get(name, 0) | (1 << self.things[owner])
                 self.things.append(None)
             else:
-                self.things.append(self._end(self.things[owner], name))
+                self._go(self.things[owner], name, links[name], firsts)
 
     def ends(self, thing, link):
-        return [end for start, end in self.pairs.get(link, ()) if start == thing]
+        """The objects to which a link leads, in sequence."""
+        return [end.bit_length() - 1 for start, end in self.arrows.get(link, ()) if start == 1 << thing]
 
-    def _make(self, kind):
-        self.made.append(kind)
-        return len(self.made) - 1
-
-    def _end(self, thing, link):
-        _, target_kind, back, is_list, single = self._links[link]
-        ends = self.ends(thing, link)
-        # Only a list that is not single has room for one more.
-        if len(ends) > 0 and (not is_list or single):
-            return ends[0]
-        end = self._make(target_kind)
-        self.pairs.setdefault(link, []).append((thing, end))
+    def _go(self, thing, link, row, firsts):
+        """Makes a new object to which the link leads, unless it has no room for one more."""
+        _, target_kind, back, is_list, single = row
+        if (thing, link) in firsts and (not is_list or single):
+            self.things.append(firsts[thing, link])
+            return
+        end = len(self.made)
+        self.made.append(target_kind)
+        self.things.append(end)
+        self.arrows.setdefault(link, []).append((1 << thing, 1 << end))
+        firsts.setdefault((thing, link), end)
         if back is not None:
-            self.pairs.setdefault(back, []).append((end, thing))
-        return end
+            self.arrows.setdefault(back, []).append((1 << end, 1 << thing))
+            firsts.setdefault((end, back), thing)
 
 
 class Aim:
     """What a walk touches or loops in one way: an object of a kind, or a list, at one or more spots.
 
     The object of the step at goal is touched, or is the owner of the list. The depths are those of steps with objects.
+    Aims with one key have the same steps in the same find; those of one group may come to the same.
     """
 
-    def __init__(self, word, name, steps, goal, found_at):
+    def __init__(self, word, name, steps, goal, found_at, key, bits):
         self.word = word
         self.name = name
         self.steps = steps
         self.goal = goal
         self.found_at = found_at
+        self.key = key
+        self.group = (key[0], word, name)
         self.depths = [depth for depth, step in enumerate(steps) if step[0] != "if"]
+        # The bits of the links and flags by which the steps go, and of those that are then in the sketch.
+        self.needs, self.gives = bits
+        self._made_sketch = None
 
-    def could_meet(self, other):
-        """Whether both are of one sort, and lie in one find."""
-        return self.word == other.word and self.name == other.name and self.found_at[0][0] == other.found_at[0][0]
+    def sketch(self, schema):
+        if self._made_sketch is None:
+            self._made_sketch = Sketch(schema, self.steps)
+        return self._made_sketch
 
 
-def aims_of(paths):
-    """The tuple of the lists of a walk's aims for lists, and for objects, by their first spots.
+class AimTable:
+    """The aims of a walk for lists, and for objects, by their first spots; by their keys, groups and spots, too."""
 
-    The paths are those of the walk, with their rows.
-    """
-    # Equal steps have one number, by which those within them are told.
-    numbers = {}
-    steps = []
-    at = {}
-    spots = {}
-    for path in paths:
-        head, owner, _, _ = paths[path]
-        step = (head[0], head[2], None if owner is None else len(owner) - 1)
-        around = path[0] if owner is None else at[path[:-1]]
-        if (around, step) not in numbers:
-            numbers[around, step] = len(steps)
-            steps.append((step,) if owner is None else steps[around] + (step,))
-        at[path] = numbers[around, step]
-        spots.setdefault(at[path], []).append(path)
-    loops = []
-    objects = []
-    for number in spots:
-        path = spots[number][0]
-        word, name, owner = steps[number][-1]
-        if word == "for":
-            loops.append(Aim("list", name, steps[number][:-1], owner, spots[number]))
-        if word != "if":
-            objects.append(Aim("object", paths[path][2], steps[number], len(path) - 1, spots[number]))
-    return (loops, objects)
+    def __init__(self, walk):
+        self.loop_aims = []
+        self.object_aims = []
+        self.by_key = {}
+        self.groups = {}
+        self.at_spot = {}
+        # From each path to the tuple of the paths on the way to it, itself the last one.
+        self.ways = {}
+        paths, rows, bits = walk.path_rows, walk.schema.link_rows, walk.schema.name_bits
+        # Equal steps have one number, by which those within them are told.
+        numbers = {}
+        steps = []
+        needs_gives = []
+        at = {}
+        spots = {}
+        for path in paths:
+            head, owner, _, _ = paths[path]
+            step = (head[0], head[2], None if owner is None else len(owner) - 1)
+            around = path[0] if owner is None else at[path[:-1]]
+            if (around, step) not in numbers:
+                numbers[around, step] = len(steps)
+                steps.append((step,) if owner is None else steps[around] + (step,))
+                needs_gives.append((0, 0) if owner is None else bits_behind(rows, bits, needs_gives[around], step))
+            at[path] = numbers[around, step]
+            self.ways[path] = (path,) if owner is None else self.ways[path[:-1]] + (path,)
+            spots.setdefault(at[path], []).append(path)
+        for number in spots:
+            first = spots[number][0]
+            if steps[number][-1][0] == "for":
+                self._add_loop(steps[number], spots[number], needs_gives[at[first[:-1]]])
+            if steps[number][-1][0] != "if":
+                self._add_object(steps[number], spots[number], paths[first][2], needs_gives[number])
+
+    def every(self):
+        return self.loop_aims + self.object_aims
+
+    def _add_loop(self, steps, found_at, bits):
+        _, name, owner = steps[-1]
+        aim = Aim("list", name, steps[:-1], owner, found_at, (found_at[0][0], "list", steps), bits)
+        self.loop_aims.append(aim)
+        self._enter(aim)
+
+    def _add_object(self, steps, found_at, kind, bits):
+        aim = Aim("object", kind, steps, len(steps) - 1, found_at, (found_at[0][0], "object", steps), bits)
+        self.object_aims.append(aim)
+        self._enter(aim)
+
+    def _enter(self, aim):
+        self.by_key[aim.key] = aim
+        self.groups.setdefault(aim.group, []).append(aim)
+        for spot in aim.found_at:
+            self.at_spot[aim.word, spot] = aim
+
+
+def bits_behind(rows, bits, before, step):
+    """The tuple of the bits that steps need, and of those that they give, when one more stands behind them."""
+    needs, gives = before
+    name = step[1]
+    back = 0 if step[0] == "if" else bits.get(rows[name][2], 0)
+    return (needs | bits[name], gives | bits[name] | back)
 
 
 def chances_of(sketch, other, thing):
-    """For each step of another aim the objects at which all steps behind can be gone, or None if there are none.
+    """For each step of another aim the bits of the objects at which all steps behind can be gone, or None if not.
 
-    The other aim is to come to this object of the sketch. The objects are told by the bits of a number. Each variable
-    has one owner, so the steps can be judged one by one, the last one first.
+    The other aim is to come to this object of the sketch. Each variable has one owner, so the steps can be judged one
+    by one, the last one first.
     """
-    chances = [(1 << len(sketch.made)) - 1] * len(other.steps)
+    steps = other.steps
+    chances = [(1 << len(sketch.made)) - 1] * len(steps)
     chances[other.goal] = 1 << thing
-    for depth in range(len(other.steps) - 1, 0, -1):
-        word, name, owner = other.steps[depth]
+    for depth in range(len(steps) - 1, 0, -1):
+        word, name, owner = steps[depth]
         able = 0
         if word == "if":
-            for start in sketch.marked.get(name, ()):
-                able = able | (1 << start)
+            able = sketch.marked.get(name, 0)
         else:
-            for start, end in sketch.pairs.get(name, ()):
-                if (chances[depth] >> end) & 1 == 1:
-                    able = able | (1 << start)
-        chances[owner] = chances[owner] & able
-        if chances[owner] == 0:
+            wanted = chances[depth]
+            for start, end in sketch.arrows.get(name, ()):
+                if wanted & end != 0:
+                    able = able | start
+        able = able & chances[owner]
+        if able == 0:
             return None
+        chances[owner] = able
     # The find has the first object.
     return chances if chances[0] & 1 == 1 else None
 
 
-def covers_aim(sketch, aim, other):
-    """Whether the other aim comes to the same in the sketch of the aim."""
-    return aim.could_meet(other) and chances_of(sketch, other, sketch.things[aim.goal]) is not None
+def covers_aim(schema, aim, other):
+    """Whether the other aim, of the same group, comes to the same in the sketch of the aim."""
+    # Steps by what is not there lead nowhere.
+    if other.needs & ~aim.gives != 0:
+        return False
+    sketch = aim.sketch(schema)
+    return chances_of(sketch, other, sketch.things[aim.goal]) is not None
 
 
 def fit_of(sketch, aim, other):

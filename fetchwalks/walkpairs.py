@@ -4,7 +4,7 @@ from fetchwalks.checks import is_integer, is_path
 from fetchwalks.errors import InvalidRoots
 from fetchwalks.minimal import minimal_for
 from fetchwalks.runs import check_roots, looped_lists, touched
-from fetchwalks.sketches import Sketch, covers_aim, fit_of
+from fetchwalks.sketches import AimTable, covers_aim, fit_of
 from fetchwalks.stores import Store
 from fetchwalks.walkbodies import finds_without
 from fetchwalks.walks import Walk, check_comparable, check_walk
@@ -81,39 +81,37 @@ def comes_to(walk, store, roots, thing):
 
 def maps(one, other):
     check_pair(one, other)
-    others = all_aims(other, True)
+    if first_uncovered(one, other, True) is not None:
+        return None
+    aims, others = aims_now(one), aims_now(other)
     table = {}
-    for aim in all_aims(one, True):
-        sketch = Sketch(one.schema, aim.steps)
-        second = first_cover(sketch, aim, others)
-        if second is None:
-            return None
+    for aim in aims.every():
+        second = partner_of(one, other, aim)
         start = second.found_at[0]
-        depths = mapped_depths(sketch, fit_of(sketch, aim, second))
+        starts, depths = others.ways[start], mapped_depths(one.schema, aim, second)
         for spot in aim.found_at:
-            mapped = {start[:depth + 1]: spot[:depths[depth] + 1] for depth in depths}
-            table[aim.word, spot] = (start, mapped)
+            ends = aims.ways[spot]
+            table[aim.word, spot] = (start, {starts[depth]: ends[depths[depth]] for depth in depths})
     return {key: table[key] for key in sorted(table)}
 
 
-def mapped_depths(sketch, fitted):
-    """For each step of what was fitted into the sketch the first of the sketch's steps that has its object."""
+def mapped_depths(schema, aim, second):
+    """From each step with an object of a second aim, which covers the aim, to one of the aim's steps."""
+    if aim.key == second.key:
+        return {depth: depth for depth in aim.depths}
+    sketch = aim.sketch(schema)
+    fitted = fit_of(sketch, aim, second)
     return {depth: sketch.things.index(fitted[depth]) for depth in fitted}
 
 
 def are_maps(one, other, value):
     check_pair(one, other)
-    aims = all_aims(one, True)
-    if not isinstance(value, dict) or len(value) != sum([len(aim.found_at) for aim in aims]):
+    aims, others = aims_now(one), aims_now(other)
+    if not isinstance(value, dict) or len(value) != len(aims.at_spot):
         return False
-    if not all([is_map_key(key) for key in value]):
-        return False
-    others = {(aim.word, spot): aim for aim in all_aims(other, True) for spot in aim.found_at}
-    for aim in aims:
-        sketch = Sketch(one.schema, aim.steps)
-        for spot in aim.found_at:
-            if (aim.word, spot) not in value or not is_cover(sketch, aim, spot, others, value[aim.word, spot]):
-                return False
+    for key in value:
+        if not is_map_key(key) or key not in aims.at_spot or not is_cover(one.schema, aims, key, others, value[key]):
+            return False
     return True
 
 
@@ -121,42 +119,58 @@ def is_map_key(value):
     return isinstance(value, tuple) and len(value) == 2 and isinstance(value[0], str) and is_path(value[1])
 
 
-def is_cover(sketch, aim, spot, others, value):
-    """Whether the value is a tuple of a spot of the other walk and a map for the aim's spot and this one."""
+def is_cover(schema, aims, key, others, value):
+    """Whether the value is a tuple of a spot of the other walk and a map for this one and the key's."""
     if not isinstance(value, tuple) or len(value) != 2:
         return False
+    word, spot = key
     start, mapped = value
-    if not is_path(start) or (aim.word, start) not in others:
+    if not is_path(start) or (word, start) not in others.at_spot or not isinstance(mapped, dict):
         return False
-    other = others[aim.word, start]
-    if not aim.could_meet(other):
+    aim, other = aims.at_spot[key], others.at_spot[word, start]
+    if aim.key == other.key:
+        starts, ends = others.ways[start], aims.ways[spot]
+        # Most maps are such ones.
+        if mapped == {starts[depth]: ends[depth] for depth in aim.depths} and are_plain(mapped):
+            return True
+    elif aim.group != other.group:
         return False
-    things = mapped_things(sketch, spot, other, start, mapped)
-    return things is not None and is_fit(sketch, aim, other, things)
+    lengths = mapped_lengths(aim, spot, other, start, mapped)
+    return lengths is not None and is_fit(aim.sketch(schema), aim, other, lengths)
 
 
-def mapped_things(sketch, spot, other, start, value):
-    """The objects of the other aim's steps if the value is a dict from all spots ahead on the way to start to spots
-    ahead on the way to the spot, and the find is mapped to itself, otherwise None.
+def are_plain(mapped):
+    """Whether all numbers of the tuples in the dict are plain ones, not True or False."""
+    odd = [number for path in mapped for number in path + mapped[path] if type(number) is not int]
+    return len(odd) == 0
+
+
+def mapped_lengths(aim, spot, other, start, value):
+    """From the depths of the other aim's steps to the lengths of the spots to which they are mapped.
+
+    None unless the dict is one from all spots ahead on the way to start to spots ahead on the way to the spot, in which
+    the find is mapped to itself.
     """
-    if not isinstance(value, dict) or len(value) != len(other.depths) or not all([is_path(key) for key in value]):
+    if len(value) != len(other.depths):
         return None
-    things = {}
-    for depth in other.depths:
-        end = value.get(start[:depth + 1])
-        if not is_path(end) or not 1 <= len(end) <= len(sketch.things) or end != spot[:len(end)]:
+    lengths = {}
+    for key in value:
+        end = value[key]
+        if not is_path(key) or not is_path(end) or key != start[:len(key)] or end != spot[:len(end)]:
             return None
-        if sketch.things[len(end) - 1] is None or (depth == 0 and len(end) > 1):
+        depth = len(key) - 1
+        if depth not in other.depths or len(end) - 1 not in aim.depths or (depth == 0 and len(end) > 1):
             return None
-        things[depth] = sketch.things[len(end) - 1]
-    return things
+        lengths[depth] = len(end)
+    return lengths
 
 
-def is_fit(sketch, aim, other, things):
-    """Whether the other aim comes to the same in the sketch of the aim, its steps having these objects."""
+def is_fit(sketch, aim, other, lengths):
+    """Whether the other aim comes to the same in the sketch of the aim, its steps being mapped to these lengths."""
+    things = {depth: sketch.things[lengths[depth] - 1] for depth in lengths}
     for depth, (word, name, owner) in enumerate(other.steps):
         if word == "if":
-            if things[owner] not in sketch.marked.get(name, ()):
+            if (sketch.marked.get(name, 0) >> things[owner]) & 1 == 0:
                 return False
         elif depth > 0 and things[depth] not in sketch.ends(things[owner], name):
             return False
@@ -165,7 +179,20 @@ def is_fit(sketch, aim, other, things):
 
 def needless(walk):
     check_walk(walk)
-    covering = cover_table(walk)
+    return list(needless_now(walk))
+
+
+def needless_now(walk):
+    """The sorted list of the paths of the needless statements."""
+    known = walk.memory.known
+    if "needless" not in known:
+        needed = needed_paths(cover_table(walk))
+        known["needless"] = [path for path in walk.path_rows if len(path) > 1 and path not in needed]
+    return known["needless"]
+
+
+def needed_paths(covering):
+    """The paths of needed statements, as keys of a dict."""
     needed = {}
     for aim in covering:
         # A statement is needed if all that covers some aim lies in it, and so all between the first and the last one.
@@ -175,46 +202,53 @@ def needless(walk):
         while first[:length + 1] == last[:length + 1] and length < len(first):
             length += 1
             needed[first[:length]] = True
-    return [path for path in walk.paths() if len(path) > 1 and path not in needed]
+    return needed
 
 
 def lean(walk):
     check_walk(walk)
-    gone = spared_paths(walk)
-    if len(gone) == 0:
+    known = walk.memory.known
+    if "lean" not in known:
+        known["lean"] = lean_walk(walk)
+    return known["lean"]
+
+
+def lean_walk(walk):
+    if len(needless_now(walk)) == 0:
         return walk.written_out()
-    return Walk(walk.schema, finds_without(walk.plain_finds, gone))
+    return Walk(walk.schema, finds_without(walk.plain_finds, spared_paths(walk)))
 
 
 def is_lean(walk):
     check_walk(walk)
-    return walk == walk.written_out() and len(needless(walk)) == 0
+    return len(walk.block_rows) == 0 and len(needless_now(walk)) == 0
 
 
 def cover_table(walk):
     """From each aim of a walk to the list of its aims that come to the same, itself among them."""
-    aims = all_aims(walk, True)
-    table = {}
-    for aim in aims:
-        sketch = Sketch(walk.schema, aim.steps)
-        table[aim] = [other for other in aims if covers_aim(sketch, aim, other)]
-    return table
+    known = walk.memory.known
+    if "covering" not in known:
+        aims, schema = aims_now(walk), walk.schema
+        known["covering"] = {aim: [other for other in aims.groups[aim.group]
+                                   if aim.key == other.key or covers_aim(schema, aim, other)] for aim in aims.every()}
+    return known["covering"]
 
 
 def spared_paths(walk):
     """The paths of statements that can be left out all together, each one the first that can be."""
     covering = cover_table(walk)
-    aims_at = {path: [] for path in walk.paths()}
+    order = walk.paths()
+    aims_at = {path: [] for path in order}
     for aim in covering:
         for spot in aim.found_at:
             aims_at[spot].append(aim)
-    order = walk.paths()
+    pasts = places_past(order)
     # The aims that have a spot ahead which stays.
     staying = {}
     gone = []
     position = 0
     while position < len(order):
-        past = walk.program[position].past
+        past = pasts[position]
         inside = [aim for path in order[position:past] for aim in aims_at[path]]
         behind = order[past] if past < len(order) else None
         if len(order[position]) > 1 and are_spared(inside, covering, staying, behind):
@@ -225,6 +259,18 @@ def spared_paths(walk):
                 staying[aim] = True
             position += 1
     return gone
+
+
+def places_past(order):
+    """For each of the sorted paths the position of the first one behind it that does not lie within it."""
+    pasts = []
+    later = []
+    for position in range(len(order) - 1, -1, -1):
+        while len(later) > 0 and len(order[later[-1]]) > len(order[position]):
+            later.pop()
+        pasts.append(later[-1] if len(later) > 0 else len(order))
+        later.append(position)
+    return pasts[::-1]
 
 
 def are_spared(inside, covering, staying, behind):
@@ -239,27 +285,49 @@ def are_spared(inside, covering, staying, behind):
     return True
 
 
-def all_aims(walk, lists):
-    """The aims for objects and, if lists, for lists, these ahead."""
-    loops, objects = walk.aims
-    return loops + objects if lists else list(objects)
+def aims_now(walk):
+    known = walk.memory.known
+    if "aims" not in known:
+        known["aims"] = AimTable(walk)
+    return known["aims"]
 
 
-def first_cover(sketch, aim, others):
-    """The first of the others that comes to the same in the sketch of the aim, or None."""
+def partner_of(one, other, aim):
+    """An aim of the other walk that comes to the same in the sketch of the aim of one, or None."""
+    others = aims_now(other)
+    # The same steps always do.
+    if aim.key in others.by_key:
+        return others.by_key[aim.key]
+    partners = one.memory.of_walk(other.memory)
+    if aim not in partners:
+        partners[aim] = partner_among(one.schema, aim, others.groups.get(aim.group, ()))
+    return partners[aim]
+
+
+def partner_among(schema, aim, others):
     for other in others:
-        if covers_aim(sketch, aim, other):
+        if covers_aim(schema, aim, other):
             return other
     return None
 
 
 def first_uncovered(one, other, lists):
-    """The first aim of one to which the other one does not come in its minimal store, or None."""
-    others = all_aims(other, lists)
-    for aim in all_aims(one, lists):
-        if first_cover(Sketch(one.schema, aim.steps), aim, others) is None:
-            return aim
-    return None
+    """The first aim of one, lists first, to which the other one does not come in its minimal store, or None."""
+    found = first_alone(one, other, "list") if lists else None
+    return first_alone(one, other, "object") if found is None else found
+
+
+def first_alone(one, other, word):
+    """Likewise, of the aims for lists alone, or for objects."""
+    facts = one.memory.of_walk(other.memory)
+    if word not in facts:
+        facts[word] = None
+        aims = aims_now(one)
+        for aim in aims.loop_aims if word == "list" else aims.object_aims:
+            if partner_of(one, other, aim) is None:
+                facts[word] = aim
+                break
+    return facts[word]
 
 
 def check_pair(one, other):

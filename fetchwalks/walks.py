@@ -4,7 +4,6 @@ from fetchwalks.checks import is_path
 from fetchwalks.errors import NameTaken, NoWalk, OtherFinds, TooMany, UnknownPath, UnknownSpot
 from fetchwalks.memory import Memory
 from fetchwalks.schemas import check_same_schema, check_schema
-from fetchwalks.sketches import aims_of
 from fetchwalks.walkbodies import body_without, path_table, program_of, written_finds
 from fetchwalks.walkfaults import MOST_FINDS, check_greatness, checked_sizes, joined_size
 
@@ -21,7 +20,6 @@ class Walk:
         self._plain_finds = None
         self._path_rows = None
         self._program = None
-        self._aims = None
         self._memory = Memory()
 
     @property
@@ -62,13 +60,6 @@ class Walk:
         if self._program is None:
             self._program = program_of(self._schema.link_rows, self.path_rows)
         return self._program
-
-    @property
-    def aims(self):
-        """The tuple of the lists of what it comes to: of its aims for lists, and for objects."""
-        if self._aims is None:
-            self._aims = aims_of(self.path_rows)
-        return self._aims
 
     def finds(self):
         return [find[1:4] for find in self._finds]
