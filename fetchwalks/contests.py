@@ -89,14 +89,17 @@ class PivotTable:
         return best
 
     def _pivot(self, at, column):
-        pivot_line, old = self.lines[at], self.bottom
-        pivot = pivot_line[column]
-        for other, line in enumerate(self.lines):
-            if other != at:
-                times = line[column]
-                made = [(entry * pivot - times * below) // old for entry, below in zip(line, pivot_line)]
-                made[column] = -times
-                self.lines[other] = made
-        pivot_line[column] = old
+        pivot = self.lines[at][column]
+        self.lines = [self._line_behind(line, other == at, self.lines[at], column)
+                      for other, line in enumerate(self.lines)]
         self.bottom = pivot
         self.heads[at], self.columns[column] = self.columns[column], self.heads[at]
+
+    def _line_behind(self, line, is_own, pivot_line, column):
+        """What becomes of a line by a pivot, its own line being the pivot's."""
+        if is_own:
+            return line[:column] + [self.bottom] + line[column + 1:]
+        pivot, times = pivot_line[column], line[column]
+        made = [(entry * pivot - times * below) // self.bottom for entry, below in zip(line, pivot_line)]
+        made[column] = -times
+        return made

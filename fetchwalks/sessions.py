@@ -265,9 +265,9 @@ class Session:
         return list(self.walked(walk, roots))
 
     def walked(self, walk, roots):
-        keeping = self._keeping
+        keeping, view = self._keeping, self._view()
         check_run(walk, keeping.source, roots)
-        for word, step, number in run_events(walk, self._view(), roots):
+        for word, step, number in run_events(walk, view, roots):
             ask_for(keeping, word, step, number, roots)
             if word == "touch":
                 yield step.path, number

@@ -219,6 +219,14 @@ class Errors(DeskTest):
         self.refused(InvalidSize, {"value": 10 ** 30 + 1}, f"most deep late list/orders={10 ** 30 + 1}")
         self.refused(OtherFinds, {"one": [("o", "order", "many")], "other": [("p", "order", "many")]}, "within deep p")
 
+    def test_great_numbers(self):
+        great = 10 ** 499
+        self.refused(InvalidId, {"value": great}, f"row st order {great}")
+        self.refused(InvalidRow, {"name": "buyer"}, f"row st order 1 buyer={great} place=none")
+        self.refused(InvalidSize, {"value": great}, f"most deep late find/o={great}")
+        self.refused(InvalidRoots, {"find": "o"}, f"asks deep late st o={great}", f"asks deep late st o=1,{great}")
+        self.refused(InvalidCommand, {"value": f"row st order 0{great}"}, f"row st order 0{great}")
+
     def test_too_many(self):
         schema = layered_schema()
         plan = Plan.of(schema, **layered_words("along"))
