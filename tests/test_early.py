@@ -58,6 +58,19 @@ def tree(x, names, depth):
     return tuple([("go", x, field, names[0], tree(names[0], names[1:], depth - 1)) for field in ("pr" if depth else "")])
 
 
+def trimmed(x, names, many):
+    """Steps by p and r to so many places, the nearest ones."""
+    ways = [""]
+    while len(ways) <= many:
+        ways.append(ways[(len(ways) - 1) // 2] + "pr"[len(ways) % 2])
+
+    def body(way, y):
+        rows = [("go", y, field, names[len(way)], body(way + field, names[len(way)])) for field in "pr" if way + field in ways]
+        return tuple(rows)
+
+    return body("", x)
+
+
 def turned(x, names, body):
     """Steps by q and its list, behind which the body is done at two places."""
     return (("go", x, "q", names[0], (("for", names[0], "n", names[1], body),)),)
@@ -285,6 +298,23 @@ class Unbeaten(EarlyTest):
         told = unbeaten(walk, Sizes(walk))
         self.assertEqual(told, slow_unbeaten(walk, Sizes(walk)))
         self.assertNotIn(Plan.of(walk.schema, c="along", d="along", n="along", q="along"), [plan for _, _, plan in told])
+
+    def test_places_just_passed_and_just_not(self):
+        schema = turned_walk().schema
+        inner = ("go", "f", "p", "g", turned("g", "hi", trimmed("i", "jklmno", 7)))
+        outer = ("go", "w", "p", "v", turned("v", "ef", trimmed("f", "ghijkl", 63) + (inner,)))
+        body = turned("x", "yw", (outer,)) + (("go", "x", "c", "z", ()), ("go", "x", "d", "z", ())) + trimmed("x", "ab", 2)
+        early = Plan.of(schema, c="along", d="along", n="along", q="along")
+        for kind, many in (("e", 2000), ("a", 2003)):
+            finds = [("find", "x", "a", "one", body), ("find", "s", "e", "one", ()), ("find", "t", "e", "one", ()), ("find", "u", kind, "one", ())]
+            walk = Walk(schema, finds)
+            if many == 2000:
+                self.assertEqual(len(kept_places(walk, early)), many)
+            else:
+                self.raises(TooMany, {"what": "places", "limit": 2000}, kept_places, walk, early)
+            told = unbeaten(walk, Sizes(walk))
+            self.assertEqual(told, slow_unbeaten(walk, Sizes(walk)))
+            self.assertEqual(early in [plan for _, _, plan in told], many == 2000)
 
     def test_what_was_told_can_be_changed(self):
         walk = shop_walk(DEEP)

@@ -90,6 +90,13 @@ class Spots(unittest.TestCase):
         rows = [("a", 1, row_a(f=1, u=True)), ("b", 1, row_b())]
         self.check(walk, (0, 0, 0), rows, {"x": [1]}, {(0,): ("a", 1), (0, 0, 0): ("b", 1)})
 
+    def test_the_flag_of_one_object_alone(self):
+        body = ("for", "x", "k", "y", (("if", "y", "u", (("for", "y", "k", "z", (("if", "z", "v", ()), ("if", "z", "u", (("go", "z", "f", "w", ()),)))),)),))
+        store, roots, things = minimal_store(walk_of(find(body)), (0, 0, 0, 0, 1, 0))
+        self.assertEqual([store["a", number]["u"] for number in (1, 2, 3)], [False, True, True])
+        self.assertEqual([store["a", number]["v"] for number in (1, 2, 3)], [False, False, False])
+        self.assertEqual([roots, things[0, 0, 0, 0]], [{"x": [1]}, ("a", 3)])
+
     def test_what_stands_ahead_and_behind_makes_nothing(self):
         walk = walk_of(find(("if", "x", "u", ()), ("go", "x", "f", "y", (("if", "y", "w", ()), ("go", "y", "i", "z", ()), ("if", "x", "v", ())))))
         rows = [("a", 1, row_a(f=1)), ("a", 2, row_a()), ("b", 1, row_b(i=2))]

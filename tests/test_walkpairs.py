@@ -87,6 +87,15 @@ class Within(unittest.TestCase):
         other = body_of(("if", "x", "v", (("if", "x", "u", (GO,)),)))
         self.check(one, other, True, True)
 
+    def test_a_flag_of_another_variable(self):
+        inner = ("go", "y", "f", "z", ())
+        member = body_of(("for", "x", "k", "y", (("if", "y", "u", (inner,)),)))
+        owner = body_of(("for", "x", "k", "y", (("if", "x", "u", (inner,)),)))
+        self.check(member, owner, False, False)
+        both = body_of(("for", "x", "k", "y", (("if", "y", "u", (("if", "x", "u", (inner,)),)),)))
+        self.check(both, member, True, False)
+        self.check(both, owner, True, False)
+
     def test_an_owner_further_out(self):
         one = body_of(("for", "x", "k", "y", (GO[:3] + ("z", ()),)))
         self.check(one, body_of(LOOP, GO), True, False)
@@ -313,6 +322,46 @@ class Maps(unittest.TestCase):
         self.assertFalse(are_maps(one, one, value))
         value["object", (0, 0, 0)] = ((0,), {(0,): (0,)})
         self.assertTrue(are_maps(one, one, value))
+
+    def test_the_find_is_mapped_to_no_other_spot(self):
+        # The other walk's step would fit, if it could begin at the member.
+        one = body_of(("for", "x", "k", "y", (("go", "y", "f", "z", ()),)))
+        other = body_of(LOOP, GO)
+        value = maps(one, body_of(("for", "x", "k", "y", (("go", "y", "f", "z", ()),)), GO))
+        spot = ("object", (0, 0, 0))
+        self.assertEqual(value[spot][0], (0, 0, 0))
+        for start in ((0,), (0, 0)):
+            wrong = {**value, spot: ((0, 1), {(0,): start, (0, 1): (0, 0, 0)})}
+            self.assertFalse(are_maps(one, other, wrong))
+            self.assertFalse(are_maps(one, body_of(("for", "x", "k", "y", (("go", "y", "f", "z", ()),)), GO), wrong))
+
+    def test_variables_that_are_not_used_again(self):
+        # The step by f lies around the one by g, which does not need it; but it must be gone, too.
+        one = body_of(("go", "x", "g", "z", ()))
+        other = body_of(("go", "x", "f", "y", (("go", "x", "g", "z", ()),)))
+        find_alone = ((0,), {(0,): (0,)})
+        for middle in ((0,), (0, 0)):
+            wrong = {("object", (0,)): find_alone, ("object", (0, 0)): ((0, 0, 0), {(0,): (0,), (0, 0): middle, (0, 0, 0): (0, 0)})}
+            self.assertFalse(are_maps(one, other, wrong))
+
+    def test_flags_that_are_not_true(self):
+        one, other = body_of(GO), body_of(IF_GO)
+        wrong = {("object", (0,)): ((0,), {(0,): (0,)}), ("object", (0, 0)): ((0, 0, 0), {(0,): (0,), (0, 0, 0): (0, 0)})}
+        self.assertFalse(are_maps(one, other, wrong))
+        # Another flag, or that of another object.
+        loop = ("for", "x", "k", "y", (("if", "y", "u", (("go", "y", "f", "z", ()),)),))
+        owner = ("for", "x", "k", "y", (("if", "x", "u", (("go", "y", "f", "z", ()),)),))
+        for first, second in ((("if", "x", "v", (GO,)), IF_GO), (loop, owner), (owner, loop)):
+            one, both = body_of(first), body_of(first, second)
+            value = maps(one, both)
+            self.assertTrue(are_maps(one, both, value))
+            for key in value:
+                if len(key[1]) > 2:
+                    start, mapped = value[key]
+                    # The same way through the second statement.
+                    moved = {path[:1] + (1,) * len(path[1:2]) + path[2:]: mapped[path] for path in mapped}
+                    there = start[:1] + (1,) + start[2:]
+                    self.assertFalse(are_maps(one, both, {**value, key: (there, moved)}))
 
     def test_the_passed_dict_stays(self):
         before = copy.deepcopy(self.maps)
