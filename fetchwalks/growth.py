@@ -120,8 +120,8 @@ def direction(one, other):
         counts = pair.contest(product).counts
         if counts is not None:
             divisor = 0
-            for count in counts:
-                divisor = gcd(divisor, count)
+            for entry in counts:
+                divisor = gcd(divisor, entry)
             return (product, {at: count // divisor for at, count in zip(pair.size_list, counts)})
     return None
 

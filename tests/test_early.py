@@ -224,6 +224,11 @@ class Unbeaten(EarlyTest):
         self.assertEqual([plan.words() for _, _, plan in unbeaten(walk, sizes)], [
             {"buyer": "late", "orders": "along", "place": "along"}, {"buyer": "late", "orders": "along", "place": "late"}])
 
+    def test_a_find_with_the_name_of_a_field(self):
+        walk = Walk(shop_schema(), [("find", "buyer", "customer", "many", (("for", "buyer", "orders", "p", ()),))])
+        sizes = Sizes.of(walk, ("find", "buyer", 2), ("list", "orders", 3))
+        self.assertEqual(unbeaten(walk, sizes), [(1, 8, shop_plan(orders="along"))])
+
     def test_the_first_of_plans_with_the_same_numbers(self):
         # A find "one" makes late and ahead the same.
         walk = rich_walk(("go", "x", "f", "y", ()), ("go", "x", "h", "z", ()), word="one")

@@ -92,6 +92,12 @@ class Rows(FreeTest):
         self.assertEqual([row[2]["f"] for row in rows[:8]], [1, 1] + [None] * 6)
         self.assertEqual([row[2]["p"] for row in rows[:8]], [None] * 2 + [1] * 3 + [2] * 3)
 
+    def test_a_find_with_the_name_of_a_field(self):
+        # This list is not behind its own field, though the name ahead of it is the same.
+        walk = Walk(shop_schema(), [("find", "buyer", "customer", "many", (("for", "buyer", "orders", "p", ()),))])
+        rows, roots = made(walk, {}, ("find", "buyer", 2), ("list", "orders", 3))
+        self.assertEqual([roots, [row[2]["buyer"] for row in rows if row[0] == "order"]], [{"buyer": [1, 2]}, [1, 1, 1, 2, 2, 2]])
+
     def test_fields_that_lead_back_and_on(self):
         # The plan keeps places that the walk does not touch: these have fields, too.
         rows, _ = made(shop_walk(), {"buyer": "along", "orders": "ahead", "place": "ahead"}, ("list", "orders", 2))

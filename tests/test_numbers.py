@@ -71,8 +71,12 @@ class Weights(NumberTest):
             self.assertEqual(weight(rich_walk(), place), weights[place])
 
     def test_a_find_with_the_name_of_a_field(self):
-        walk = Walk(rich_schema(), [("find", "f", "b", "many", ())])
-        self.assertEqual(weight(walk, ("f", "l")), Sum.size("find", "f") * Sum.size("list", "l"))
+        for body in ((), (("for", "f", "l", "x", ()),)):
+            walk = Walk(rich_schema(), [("find", "f", "b", "many", body)])
+            found, members = Sum.size("find", "f"), Sum.size("list", "l")
+            self.assertEqual(weight(walk, ("f", "l")), found * members)
+            plan = Plan.of(rich_schema(), l="along")
+            self.assertEqual([most_kept(walk, plan), most(walk, plan)], [found * (members + 1), Sum(1)])
 
     def test_long_places(self):
         k = Sum.size("list", "k")
