@@ -4,7 +4,7 @@ from fetchwalks.checks import is_name
 from fetchwalks.errors import InvalidText, TooMany, WordRefused
 from fetchwalks.plans import Plan, check_plan
 from fetchwalks.schemas import MOST_FIELDS, MOST_FLAGS, MOST_KINDS, Schema, check_schema
-from fetchwalks.walkfaults import MOST_BLOCKS, MOST_FINDS, STATEMENTS, head_problem, step_problem
+from fetchwalks.walkfaults import MOST_BLOCKS, MOST_FINDS, head_problem, step_problem
 from fetchwalks.walks import Walk, check_walk
 
 

@@ -37,7 +37,8 @@ def numbers_of(walk, plan):
     told = [most(walk, plan).products(), {link: total.products() for link, total in most_by_link(walk, plan).items()}]
     told += [most_kept(walk, plan).products(), [answers_row(answers) for answers in answer_classes(walk, plan)]]
     growing = first_growing(walk, plan)
-    told += [growing and answers_row(growing), kept_places(walk, plan).rows(), touched_places(walk).rows(), looped_places(walk), place_table(walk)]
+    told += [growing and answers_row(growing), kept_places(walk, plan).rows(), touched_places(walk).rows(), looped_places(walk),
+             place_table(walk)]
     told += [[weight(walk, place).products() for place in touched_places(walk).rows()], must(walk), used_links(walk), bound(walk, plan)]
     return told
 
@@ -49,7 +50,8 @@ def answers_row(answers):
 
 def pair_of(one, other):
     """All that is told of two walks, but for what is OPEN, as plain values."""
-    told = [[is_within(one, other, lists=lists), are_alike(one, other, lists=lists), parting(one, other, lists=lists) is None] for lists in (True, False)]
+    told = [[is_within(one, other, lists=lists), are_alike(one, other, lists=lists),
+             parting(one, other, lists=lists) is None] for lists in (True, False)]
     told += [covers(one, other), maps(one, other) is None, needless(one), is_lean(one), needless(other)]
     return told
 
@@ -64,7 +66,8 @@ class AgainTest(unittest.TestCase):
 class Numbers(AgainTest):
     def test_the_plan_is_changed_in_between(self):
         walk, plan = shop_walk(DEEP), shop_plan()
-        for link, word in (("buyer", "along"), ("place", "ahead"), ("buyer", "late"), ("orders", "along"), ("place", "late"), ("orders", "late")):
+        for link, word in (("buyer", "along"), ("place", "ahead"), ("buyer", "late"), ("orders", "along"), ("place", "late"),
+                           ("orders", "late")):
             self.assertEqual(numbers_of(walk, plan), numbers_of(fresh(walk), plan.copy()))
             plan[link] = word
             self.assertEqual(numbers_of(walk, plan), numbers_of(fresh(walk), plan.copy()))
@@ -278,7 +281,8 @@ class Pairs(AgainTest):
         one = Walk(rich_schema(), [("find", "x", "a", "many", (bodies[0], bodies[20]))])
         for other in walks + walks[::-1]:
             field = other.statement((0, 0))[2]
-            self.assertEqual([is_within(other, one), is_within(one, other), maps(other, one) is None], [field in ("f", "g"), False, field not in ("f", "g")])
+            self.assertEqual([is_within(other, one), is_within(one, other), maps(other, one) is None],
+                             [field in ("f", "g"), False, field not in ("f", "g")])
 
     def test_walks_of_equal_schemas(self):
         twin = Schema(["shop", "customer", "order"], dict(reversed(shop_schema().fields().items())))
@@ -289,7 +293,8 @@ class Pairs(AgainTest):
 
     def test_errors_again(self):
         one, other = shop_walk(DEEP), shop_walk(FLAT, word="one")
-        for ask in (is_within, are_alike, covers, parting, maps, lambda first, second: are_maps(first, second, None), lambda first, second: is_parting(first, second, None)):
+        asks = [is_within, are_alike, covers, parting, maps, lambda first, second: are_maps(first, second, None)]
+        for ask in asks + [lambda first, second: is_parting(first, second, None)]:
             ask(one, one)
             for _ in range(2):
                 self.raises(NoWalk, {"value": 1}, ask, 1, None)

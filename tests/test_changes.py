@@ -12,7 +12,7 @@ from fetchwalks.schemas import Schema
 from fetchwalks.sessions import Session
 from fetchwalks.stores import Store
 from fetchwalks.walks import Walk
-from samples import ODD, rich_schema, rich_store, row_a, row_b, shop_schema
+from samples import ODD, rich_schema, rich_store, shop_schema
 
 
 def shop_store():
@@ -87,7 +87,8 @@ class Single(EditorTest):
     def test_errors_in_their_sequence(self):
         editor = shop_editor(roots=(1,))
         self.assertEqual(editor.objects(), [("customer", 1), ("order", 1), ("order", 2)])
-        for kind, number in [("order", 3), ("shop", 1), ("order", 9), ("orders", 1), (None, None), ("order", True), ("customer", "1"), (["order"], 1),
+        for kind, number in [("order", 3), ("shop", 1), ("order", 9), ("orders", 1), (None, None), ("order", True), ("customer", "1"),
+                             (["order"], 1),
                              ("order", [1]), ({}, {}), (1, "order"), ("buyer", 1), ("order", 0)]:
             self.raises(NotKept, {"kind": kind, "number": number}, editor.change, kind, number, None, object())
         for name in ODD + ["orders", "order", "Buyer", ("buyer",), ["buyer"], 1]:
@@ -105,7 +106,8 @@ class Single(EditorTest):
         editor = full_editor(rich_store())
         self.assertIsNone(editor.change(kind="a", number=1, name="u", value=False))
         editor.change("b", 2, "w", True)
-        self.assertEqual([editor.shown("a", 1)["u"], editor.shown("b", 2)["w"], editor.changed()], [False, True, [("a", 1, "u"), ("b", 2, "w")]])
+        self.assertEqual([editor.shown("a", 1)["u"], editor.shown("b", 2)["w"], editor.changed()],
+                         [False, True, [("a", 1, "u"), ("b", 2, "w")]])
         for value in [0, 1, None, "yes", [], (), {}, b"", object()]:
             self.raises(InvalidValue, {"value": value}, editor.change, "a", 1, "u", value)
         self.raises(UnknownLink, {"value": "w"}, editor.change, "a", 1, "w", True)
@@ -197,7 +199,8 @@ class Shown(EditorTest):
         editor.change("a", 1, "u", False)
         editor.change("a", 2, "u", True)
         editor.change("a", 2, "f", 2)
-        walk = Walk(rich_schema(), [("find", "x", "a", "many", (("if", "x", "u", (("go", "x", "f", "y", (("for", "y", "l", "z", ()),)),)),))])
+        walk = Walk(rich_schema(), [("find", "x", "a", "many", (("if", "x", "u",
+                                                                 (("go", "x", "f", "y", (("for", "y", "l", "z", ()),)),)),))])
         self.assertEqual(editor.run(walk, {"x": [1, 2]}), [((0,), 1), ((0,), 2), ((0, 0, 0), 2), ((0, 0, 0, 0), 2), ((0, 0, 0, 0), 3)])
         # All is kept, so that only the find is asked.
         self.assertEqual([question.label for question in editor.log()[many:]], ["find"])
@@ -249,9 +252,11 @@ class Lists(EditorTest):
     def test_refused(self):
         editor, good = shop_editor(roots=(1,)), ("order", 1, "buyer", None)
         for bad, error, attributes in [
-            (("order", 3, "buyer", 1), NotKept, {"kind": "order", "number": 3}), (("order", True, "x", 1), NotKept, {"kind": "order", "number": True}),
+            (("order", 3, "buyer", 1), NotKept, {"kind": "order", "number": 3}),
+            (("order", True, "x", 1), NotKept, {"kind": "order", "number": True}),
             (("order", 1, "orders", 1), UnknownLink, {"value": "orders"}), (("order", 1, "buyer", "x"), InvalidValue, {"value": "x"}),
-            (("order", 1, "buyer", 2), NotKept, {"kind": "customer", "number": 2}), ((None, None, None, None), NotKept, {"kind": None, "number": None}),
+            (("order", 1, "buyer", 2), NotKept, {"kind": "customer", "number": 2}),
+            ((None, None, None, None), NotKept, {"kind": None, "number": None}),
         ]:
             for changes, position in (([bad], 0), ([good, good, bad, ("x",) * 4], 2)):
                 self.cause(self.raises(ChangesRefused, {"position": position}, put, editor, changes), error, attributes)
@@ -466,7 +471,8 @@ class Trials(EditorTest):
             editor.run(shop_walk(LOOP), {"o": [3]})
             editor.change("order", 1, "buyer", 2)
         self.assertEqual([editor.changed(), len(editor)], [[], 6])
-        self.assertEqual([editor.keeps("customer", 2), editor.members_shown("orders", 2), editor.members_shown("orders", 1)], [True, [3], [1, 2]])
+        self.assertEqual([editor.keeps("customer", 2), editor.members_shown("orders", 2), editor.members_shown("orders", 1)],
+                         [True, [3], [1, 2]])
 
     def test_errors_within(self):
         editor = shop_editor()
@@ -525,7 +531,8 @@ class Trials(EditorTest):
         self.raises(NothingToUndo, {}, editor.undo)
         self.assertEqual(state(editor), before)
         # Trials can stand within one another.
-        inner = tried_changes(editor, changes, lambda held: tried_changes(held, [("order", 3, "buyer", None)], lambda one: one.members_shown("orders", 2)))
+        inner = tried_changes(editor, changes, lambda held: tried_changes(held, [("order", 3, "buyer", None)],
+                lambda one: one.members_shown("orders", 2)))
         self.assertEqual([inner, state(editor)], [[1, 4], before])
 
 
@@ -541,7 +548,8 @@ class Sessions(EditorTest):
         editor, session = shop_editor(), Session(shop_store())
         session.run(shop_walk(LOOP), {"o": [1, 2, 3, 4]})
         for ask in (Session.objects, Session.lists, Session.by_label, Session.by_link, len, lambda one: one.store, lambda one: one.plan,
-                    lambda one: [told(question) for question in one.log()], lambda one: (one.keeps("order", 1), one.keeps_list("orders", 3))):
+                    lambda one: [told(question) for question in one.log()],
+                    lambda one: (one.keeps("order", 1), one.keeps_list("orders", 3))):
             self.assertEqual(ask(editor), ask(session))
 
     def test_errors(self):

@@ -13,7 +13,6 @@ from fetchwalks.free import asked_and_kept
 from fetchwalks.numbers import most
 from fetchwalks.places import touched_places
 from fetchwalks.plans import Plan
-from fetchwalks.schemas import Schema
 from fetchwalks.stores import Store
 from fetchwalks.texts import plan_text, schema_text, walk_text
 from fetchwalks.walkpairs import is_within
@@ -72,33 +71,40 @@ class Commands(DeskTest):
         self.assertEqual(self.desk.named("st"), wanted)
 
     def test_asks(self):
-        for command, answer in [("asks deep late st o=1", "4"), ("asks deep late st o=1,2", "4"), ("asks deep late st o=none", "1"), ("asks deep early st o=2", "3"),
+        for command, answer in [("asks deep late st o=1", "4"), ("asks deep late st o=1,2", "4"), ("asks deep late st o=none", "1"),
+                                ("asks deep early st o=2", "3"),
                                 ("asks flat late st o=2,1", "1")]:
             self.assertEqual(self.desk.do(command), answer)
         self.desk.do("walk two shop find b customer one |   for b orders o | find a order many |   go a place s")
-        self.assertEqual([self.desk.do(f"asks two late st {roots}") for roots in ("a=1,2 b=1", "b=1 a=1,2", "b=none a=none", "b=none a=2")], ["4", "4", "2", "3"])
+        self.assertEqual([self.desk.do(f"asks two late st {roots}") for roots in ("a=1,2 b=1", "b=1 a=1,2", "b=none a=none",
+                "b=none a=2")], ["4", "4", "2", "3"])
         for roots in ("a=1,2 b=1,1", "b=2 a=1", "a=1"):
             self.refused(InvalidRoots, {"find": "b" if "b" in roots else None}, f"asks two late st {roots}")
-        self.refused(InvalidRoots, {"find": "o"}, "asks deep late st o=1,1", "asks deep late st o=0", "asks deep late st o=3", "asks deep late st o=1,3")
+        self.refused(InvalidRoots, {"find": "o"}, "asks deep late st o=1,1", "asks deep late st o=0", "asks deep late st o=3",
+                     "asks deep late st o=1,3")
         self.refused(InvalidRoots, {"find": None}, "asks deep late st x=1", "asks deep late st o=1 x=2", "asks deep late st x=none o=1")
 
     def test_most(self):
-        for sizes, answer in [("", "5"), (" find/o=3 list/orders=4", "19"), (" list/orders=4 find/o=3", "19"), (" find/o=3", "13"), (" list/orders=4", "7")]:
+        for sizes, answer in [("", "5"), (" find/o=3 list/orders=4", "19"), (" list/orders=4 find/o=3", "19"), (" find/o=3", "13"),
+                              (" list/orders=4", "7")]:
             self.assertEqual(self.desk.do(f"most deep late{sizes}"), answer)
         great = 10 ** 30
         self.assertEqual(self.desk.do(f"most deep late find/o={great} list/orders={great}"), str(1 + 2 * great + great * great))
 
     def test_must_within_places(self):
-        self.assertEqual([self.desk.do(command) for command in ("must deep", "must flat", "within flat deep", "within deep flat", "within deep deep", "places deep", "places flat")],
+        self.assertEqual([self.desk.do(command) for command in ("must deep", "must flat", "within flat deep", "within deep flat",
+                                                                "within deep deep", "places deep", "places flat")],
                          ["buyer orders place", "-", "yes", "no", "yes", "o o.buyer o.buyer.orders o.buyer.orders.place o.place", "o"])
 
     def test_rows_and_words(self):
         self.desk.do("schema flags kind a | field f a a | flag u a | flag v a")
         self.desk.do("store fs flags")
-        for command in ("row fs a 1 f=none u=yes v=no", "row fs a 2 v=yes f=1 u=no", "row fs a 1 u=no v=no f=2", "row fs a 3 f=3 u=yes v=yes"):
+        for command in ("row fs a 1 f=none u=yes v=no", "row fs a 2 v=yes f=1 u=no", "row fs a 1 u=no v=no f=2",
+                        "row fs a 3 f=3 u=yes v=yes"):
             self.assertEqual(self.desk.do(command), "done")
         self.assertEqual(self.desk.named("fs").rows(), [
-            ("a", 1, {"f": 2, "u": False, "v": False}), ("a", 2, {"f": 1, "u": False, "v": True}), ("a", 3, {"f": 3, "u": True, "v": True})])
+            ("a", 1, {"f": 2, "u": False, "v": False}), ("a", 2, {"f": 1, "u": False, "v": True}),
+            ("a", 3, {"f": 3, "u": True, "v": True})])
         for command in ("word late place along", "word late buyer ahead", "word late place late"):
             self.assertEqual(self.desk.do(command), "done")
         self.assertEqual(self.desk.named("late"), Plan.of(shop_schema(), buyer="ahead"))
@@ -107,7 +113,8 @@ class Commands(DeskTest):
         self.assertEqual(self.desk.do("drop shop"), "done")
         # What was made by its schema stays.
         self.assertEqual([self.desk.do("most flat late"), "shop" in self.desk], ["1", False])
-        self.refused(UnknownName, {"value": "shop"}, "drop shop", "store x shop", "walk x shop find o order many", "plan x shop buyer along")
+        self.refused(UnknownName, {"value": "shop"}, "drop shop", "store x shop", "walk x shop find o order many",
+                     "plan x shop buyer along")
         for name in ("st", "late", "flat"):
             self.desk.do(f"drop {name}")
         self.assertEqual(self.desk.do("schema st kind a"), "done")
@@ -115,12 +122,14 @@ class Commands(DeskTest):
 
     def test_a_name_stands_for_one_thing(self):
         for name in ("shop", "deep", "late", "st"):
-            self.refused(NameTaken, {"name": name}, f"schema {name} kind a", f"store {name} shop", f"plan {name} shop", f"walk {name} shop find o order one")
+            self.refused(NameTaken, {"name": name}, f"schema {name} kind a", f"store {name} shop", f"plan {name} shop",
+                         f"walk {name} shop find o order one")
 
     def test_names_that_are_words_of_commands(self):
         for name in ("schema", "walk", "plan", "store", "undo", "none", "yes", "find", "list"):
             self.desk.do(f"schema {name} kind {name} | field f {name} {name} list {name}")
-        self.desk.do_all("store row undo", "row row undo 1 f=none", "walk drop undo find none undo many |   for none undo x", "plan word undo", "word word f late")
+        self.desk.do_all("store row undo", "row row undo 1 f=none", "walk drop undo find none undo many |   for none undo x",
+                         "plan word undo", "word word f late")
         self.assertEqual(self.desk.do("asks drop word row none=1"), "2")
         self.assertEqual(self.desk.do("asks drop word row none=none"), "1")
         self.assertEqual(self.desk.do("most drop word list/undo=9 find/none=7"), "8")
@@ -128,30 +137,49 @@ class Commands(DeskTest):
 
 class Forms(DeskTest):
     def test_no_commands(self):
-        values = ODD + ["undo ", " undo", "undo x", "Undo", "UNDO", "undo\n", "\nundo", "und", "nothing", "", " ", "drop", "drop ", "drop a b", "drop A", " drop shop", "drop  shop",
+        values = ODD + ["undo ", " undo", "undo x", "Undo", "UNDO", "undo\n", "\nundo", "und", "nothing", "", " ", "drop", "drop ",
+                        "drop a b", "drop A", " drop shop", "drop  shop",
                         "drop abcdefghi", "drop shop ", b"undo", 5, ["undo"], ("undo",)]
-        values += ["schema", "schema s", "schema s ", "schema  s kind a", "schema S kind a", "schema s1 kind a", "Schema s kind a", "schema abcdefghi kind a", "schema s kind a\n",
+        values += ["schema", "schema s", "schema s ", "schema  s kind a", "schema S kind a", "schema s1 kind a", "Schema s kind a",
+                   "schema abcdefghi kind a", "schema s kind a\n",
                    "schema s kind a\nkind b", " schema s kind a"]
-        values += ["walk", "walk w", "walk w shop", "walk w shop ", "walk w  shop find o order one", "walk W shop find o order one", "walk w Shop find o order one", "walk w shop\nfind"]
+        values += ["walk", "walk w", "walk w shop", "walk w shop ", "walk w  shop find o order one", "walk W shop find o order one",
+                   "walk w Shop find o order one", "walk w shop\nfind"]
         values += ["plan", "plan p", "plan p ", "plan p shop ", "plan p  shop", "plan P shop", "plan p SHOP buyer along", " plan p shop"]
         values += ["store", "store s", "store s ", "store s shop ", "store s shop x", "store s  shop", "store S shop", "store s Shop"]
-        values += ["row", "row st", "row st ", "row st customer", "row st customer ", "row st customer 1 ", "row st customer 01", "row st customer 00", "row st customer -1", "row st customer +1",
-                   "row st customer x", "row st Customer 1", "row ST customer 1", "row st  customer 1", "row st customer  1", "row st customer 1  x=1", "row st order 1 buyer",
-                   "row st order 1 buyer=", "row st order 1 =1", "row st order 1 buyer=1=1", "row st order 1 buyer=01", "row st order 1 buyer=None", "row st order 1 buyer=-1",
-                   "row st order 1 Buyer=1", "row st order 1 buyer=1 buyer=1", "row st order 1 buyer=1 place=none buyer=2", "row st order 1 buyer=1 ", "row st order 1 buyer=1  place=1",
-                   "row st order 1 buyer= 1", "row st order 1 buyer =1", "row st order 1 buyer=YES", "row st order 1 buyer=true", "row st order 1 abcdefghi=1", "row st order 1.0 buyer=1",
+        values += ["row", "row st", "row st ", "row st customer", "row st customer ", "row st customer 1 ", "row st customer 01",
+                   "row st customer 00", "row st customer -1", "row st customer +1",
+                   "row st customer x", "row st Customer 1", "row ST customer 1", "row st  customer 1", "row st customer  1",
+                   "row st customer 1  x=1", "row st order 1 buyer",
+                   "row st order 1 buyer=", "row st order 1 =1", "row st order 1 buyer=1=1", "row st order 1 buyer=01",
+                   "row st order 1 buyer=None", "row st order 1 buyer=-1",
+                   "row st order 1 Buyer=1", "row st order 1 buyer=1 buyer=1", "row st order 1 buyer=1 place=none buyer=2",
+                   "row st order 1 buyer=1 ", "row st order 1 buyer=1  place=1",
+                   "row st order 1 buyer= 1", "row st order 1 buyer =1", "row st order 1 buyer=YES", "row st order 1 buyer=true",
+                   "row st order 1 abcdefghi=1", "row st order 1.0 buyer=1",
                    "row st order 1 buyer=1,2", "row st 1 order buyer=1", "row st order 1_0", "row st order"]
-        values += ["word", "word late", "word late buyer", "word late buyer ", "word late buyer along x", "word late buyer Along", "word late Buyer along", "word late  buyer along",
-                   "word late buyer  along", "word late buyer=along", "word Late buyer along", "word late buyer along ", "word late buyer\nalong", "word late abcdefghi late"]
-        values += ["asks", "asks deep late st", "asks deep late st ", "asks deep late o=1", "asks deep late st o", "asks deep late st o=", "asks deep late st o=1,", "asks deep late st o=,1",
-                   "asks deep late st o=1, 2", "asks deep late st o=01", "asks deep late st o=1 o=2", "asks deep late st o=none o=none", "asks deep late st o=None", "asks deep late st o=none,1",
-                   "asks deep late st O=1", "asks deep late st o=1 ", "asks deep late  st o=1", "asks deep late st  o=1", "asks deep late st o=-1", "asks deep late st o=1;2", "asks deep late st =1",
-                   "asks Deep late st o=1", "asks deep late st o=1=2", "asks deep late st o=1,,2", "asks deep late st abcdefghi=1", "asks deep late st o=x"]
-        values += ["most", "most deep", "most deep ", "most deep late ", "most deep late find/o", "most deep late find/o=", "most deep late o=1", "most deep late find/o=01", "most deep late find/o=-1",
-                   "most deep late find/o=1 find/o=1", "most deep late find/o=1 find/o=2", "most deep late Find/o=1", "most deep late finds/o=1", "most deep late find/O=1", "most deep late find/o=1 ",
-                   "most deep late  find/o=1", "most deep late find/o=1  list/orders=2", "most deep late find/o/x=1", "most deep late find=1", "most deep late /o=1", "most deep late find/=1",
-                   "most deep late find/o=1=1", "most deep late find/o=x", "most deep late object/o=1", "most Deep late", "most deep late find /o=1", "most deep late find/abcdefghi=1"]
-        values += ["must", "must ", "must deep ", "must deep flat", "must Deep", "must  deep", "within", "within deep", "within deep ", "within deep flat ", "within deep  flat", "within deep flat deep",
+        values += ["word", "word late", "word late buyer", "word late buyer ", "word late buyer along x", "word late buyer Along",
+                   "word late Buyer along", "word late  buyer along",
+                   "word late buyer  along", "word late buyer=along", "word Late buyer along", "word late buyer along ",
+                   "word late buyer\nalong", "word late abcdefghi late"]
+        values += ["asks", "asks deep late st", "asks deep late st ", "asks deep late o=1", "asks deep late st o", "asks deep late st o=",
+                   "asks deep late st o=1,", "asks deep late st o=,1",
+                   "asks deep late st o=1, 2", "asks deep late st o=01", "asks deep late st o=1 o=2", "asks deep late st o=none o=none",
+                   "asks deep late st o=None", "asks deep late st o=none,1",
+                   "asks deep late st O=1", "asks deep late st o=1 ", "asks deep late  st o=1", "asks deep late st  o=1",
+                   "asks deep late st o=-1", "asks deep late st o=1;2", "asks deep late st =1",
+                   "asks Deep late st o=1", "asks deep late st o=1=2", "asks deep late st o=1,,2", "asks deep late st abcdefghi=1",
+                   "asks deep late st o=x"]
+        values += ["most", "most deep", "most deep ", "most deep late ", "most deep late find/o", "most deep late find/o=",
+                   "most deep late o=1", "most deep late find/o=01", "most deep late find/o=-1",
+                   "most deep late find/o=1 find/o=1", "most deep late find/o=1 find/o=2", "most deep late Find/o=1",
+                   "most deep late finds/o=1", "most deep late find/O=1", "most deep late find/o=1 ",
+                   "most deep late  find/o=1", "most deep late find/o=1  list/orders=2", "most deep late find/o/x=1",
+                   "most deep late find=1", "most deep late /o=1", "most deep late find/=1",
+                   "most deep late find/o=1=1", "most deep late find/o=x", "most deep late object/o=1", "most Deep late",
+                   "most deep late find /o=1", "most deep late find/abcdefghi=1"]
+        values += ["must", "must ", "must deep ", "must deep flat", "must Deep", "must  deep", "within", "within deep", "within deep ",
+                   "within deep flat ", "within deep  flat", "within deep flat deep",
                    "within Deep flat", "places", "places ", "places deep ", "places deep flat", "places DEEP"]
         before = state(self.desk)
         for value in values:
@@ -166,7 +194,8 @@ class Forms(DeskTest):
 
     def test_any_string_is_a_text(self):
         # With what no text has, these are commands with wrong lines.
-        for text, line in [(" ", 1), (" kind a", 1), ("x", 1), ("kind a ", 1), ("kind a  | kind b", 1), ("kind a |  kind b", 2), ("kind a | ", 2), ("kind a |kind b", 1), ("kind a | kind b | ", 3),
+        for text, line in [(" ", 1), (" kind a", 1), ("x", 1), ("kind a ", 1), ("kind a  | kind b", 1), ("kind a |  kind b", 2),
+                           ("kind a | ", 2), ("kind a |kind b", 1), ("kind a | kind b | ", 3),
                            ("kind a | | kind b", 2), (" | kind a", 1), ("kind b | kind a", 2), ("|", 1), ("kind a|kind b", 1)]:
             self.refused(InvalidText, {"line": line}, f"schema x {text}")
         self.refused(InvalidText, {"line": 1}, "plan x shop  ", "plan x shop late", "walk x shop  find o order many", "walk x shop |")
@@ -177,12 +206,16 @@ class Forms(DeskTest):
 class Errors(DeskTest):
     def test_names_in_their_sequence(self):
         # A name in use comes first, then names from left to right, then texts and others.
-        self.refused(NameTaken, {"name": "deep"}, "schema deep x", "walk deep nothing x", "plan deep deep", "store deep late", "store deep x")
-        self.refused(UnknownName, {"value": "x"}, "walk w x x", "plan p x", "plan p x x", "store s x", "row x nothing 0", "word x x x", "drop x", "asks x late st x=1", "most x y find/z=1", "must x",
+        self.refused(NameTaken, {"name": "deep"}, "schema deep x", "walk deep nothing x", "plan deep deep", "store deep late",
+                     "store deep x")
+        self.refused(UnknownName, {"value": "x"}, "walk w x x", "plan p x", "plan p x x", "store s x", "row x nothing 0", "word x x x",
+                     "drop x", "asks x late st x=1", "most x y find/z=1", "must x",
                      "within x y", "within deep x", "places x", "asks deep x y o=1", "asks deep late x o=1", "most deep x find/z=0")
-        for name, others in (("shop", "row word asks most must within places"), ("deep", "row word schema"), ("late", "row asks must within places schema"), ("st", "word asks must within places schema")):
+        for name, others in (("shop", "row word asks most must within places"), ("deep", "row word schema"),
+                             ("late", "row asks must within places schema"), ("st", "word asks must within places schema")):
             for other in others.split():
-                command = {"row": f"row {name} order 1", "word": f"word {name} buyer late", "asks": f"asks {name} late st o=1", "most": f"most {name} late", "must": f"must {name}",
+                command = {"row": f"row {name} order 1", "word": f"word {name} buyer late", "asks": f"asks {name} late st o=1",
+                           "most": f"most {name} late", "must": f"must {name}",
                            "within": f"within {name} deep", "places": f"places {name}", "schema": f"store fresh {name}"}[other]
                 self.refused(UnknownName, {"value": name}, command)
         self.refused(UnknownName, {"value": "st"}, "asks deep st late o=1", "most deep st", "within deep st", "asks flat st st o=1")
@@ -192,8 +225,10 @@ class Errors(DeskTest):
         self.refused(UnknownKind, {"value": "orders"}, "row st orders 0 x=1")
         self.refused(InvalidId, {"value": 0}, "row st order 0 x=1")
         self.refused(InvalidId, {"value": 10 ** 9 + 1}, f"row st order {10 ** 9 + 1}")
-        self.refused(InvalidRow, {"name": None}, "row st order 1", "row st order 1 buyer=1", "row st order 1 buyer=1 place=1 x=1", "row st customer 1 x=none")
-        self.refused(InvalidRow, {"name": "buyer"}, "row st order 1 buyer=0 place=yes", "row st order 1 place=0 buyer=yes", f"row st order 1 place=1 buyer={10 ** 30}")
+        self.refused(InvalidRow, {"name": None}, "row st order 1", "row st order 1 buyer=1", "row st order 1 buyer=1 place=1 x=1",
+                     "row st customer 1 x=none")
+        self.refused(InvalidRow, {"name": "buyer"}, "row st order 1 buyer=0 place=yes", "row st order 1 place=0 buyer=yes",
+                     f"row st order 1 place=1 buyer={10 ** 30}")
         self.refused(RowRefused, {"kind": "order", "number": 3}, "row st order 3 buyer=9 place=none")
         cause = self.raises(RowRefused, {"kind": "order", "number": 3}, self.desk.do, "row st order 3 buyer=9 place=8")
         self.assertEqual((type(cause), vars(cause)), (UnknownTarget, {"field": "buyer", "number": 9}))
@@ -209,9 +244,11 @@ class Errors(DeskTest):
         self.refused(InvalidText, {"line": 1}, "plan other t f along")
 
     def test_of_questions(self):
-        self.desk.do_all("schema t kind order", "plan other t", "store empty t", "walk alone t find o order many", "walk p shop find p order many")
+        self.desk.do_all("schema t kind order", "plan other t", "store empty t", "walk alone t find o order many",
+                         "walk p shop find p order many")
         self.refused(InvalidRoots, {"find": "o"}, "asks deep other empty o=1", "asks alone late st o=7")
-        self.refused(OtherSchema, {}, "asks deep other st o=1", "asks deep late empty o=none", "asks alone late st o=1", "most deep other", "within deep alone")
+        self.refused(OtherSchema, {}, "asks deep other st o=1", "asks deep late empty o=none", "asks alone late st o=1",
+                     "most deep other", "within deep alone")
         self.refused(InvalidSizeName, {"value": ("find", "x")}, "most deep late find/x=0", "most deep other find/x=0 find/o=0")
         self.refused(InvalidSizeName, {"value": ("list", "buyer")}, "most deep late list/buyer=2")
         self.refused(InvalidSize, {"value": 0}, "most deep other find/o=0 find/x=1")
@@ -315,7 +352,8 @@ class Together(DeskTest):
     def test_do_all(self):
         desk = Desk()
         self.assertEqual(desk.do_all(), [])
-        self.assertEqual(desk.do_all("schema s kind a", "undo", "schema s kind b", "walk w s find x b one", "places w"), ["done", "done", "done", "done", "x"])
+        self.assertEqual(desk.do_all("schema s kind a", "undo", "schema s kind b", "walk w s find x b one", "places w"),
+                         ["done", "done", "done", "done", "x"])
         self.assertEqual(desk.log(), ["schema s kind b", "walk w s find x b one"])
 
     def test_do_all_that_fails(self):
@@ -324,7 +362,8 @@ class Together(DeskTest):
         for commands, position, cause, attributes in [
             (["must x"], 0, UnknownName, {"value": "x"}), (["drop deep", "drop deep"], 1, UnknownName, {"value": "deep"}),
             (["undo", "undo", "row st shop 7", "schema shop x"], 3, NameTaken, {"name": "shop"}), (["undo"] * 11, 10, NothingToUndo, {}),
-            (["word late place along", "drop shop", "row st order 1"], 2, InvalidRow, {"name": None}), (["must deep", None], 1, InvalidCommand, {"value": None}),
+            (["word late place along", "drop shop", "row st order 1"], 2, InvalidRow, {"name": None}),
+            (["must deep", None], 1, InvalidCommand, {"value": None}),
             (["plan x shop", "undo", "word x buyer late"], 2, UnknownName, {"value": "x"}),
         ]:
             found = self.raises(CommandFailed, {"position": position}, self.desk.do_all, *commands)
@@ -349,7 +388,8 @@ class Together(DeskTest):
             roots = chance_roots(chance, store, finds)
             desk = Desk()
             text = plan_text(plan)
-            commands = [f"schema s {in_command(schema_text(schema))}", f"walk one s {in_command(walk_text(one))}", f"walk other s {in_command(walk_text(other))}",
+            commands = [f"schema s {in_command(schema_text(schema))}", f"walk one s {in_command(walk_text(one))}",
+                        f"walk other s {in_command(walk_text(other))}",
                         "plan p s" + (" " + in_command(text) if text else ""), "store st s"]
             self.assertEqual(desk.do_all(*commands), ["done"] * 5)
             self.fill(chance, desk, store)

@@ -311,7 +311,8 @@ class Unbeaten(EarlyTest):
         body = turned("x", "yw", (outer,)) + (("go", "x", "c", "z", ()), ("go", "x", "d", "z", ())) + trimmed("x", "ab", 2)
         early = Plan.of(schema, c="along", d="along", n="along", q="along")
         for kind, many in (("e", 2000), ("a", 2003)):
-            finds = [("find", "x", "a", "one", body), ("find", "s", "e", "one", ()), ("find", "t", "e", "one", ()), ("find", "u", kind, "one", ())]
+            finds = [("find", "x", "a", "one", body), ("find", "s", "e", "one", ()), ("find", "t", "e", "one", ()),
+                     ("find", "u", kind, "one", ())]
             walk = Walk(schema, finds)
             if many == 2000:
                 self.assertEqual(len(kept_places(walk, early)), many)
@@ -349,7 +350,8 @@ class Unbeaten(EarlyTest):
             self.raises(OtherFinds, {"one": walk.finds(), "other": twin.finds()}, unbeaten, walk, Sizes(twin))
         body = tuple([("go", "x", name, "y", ()) for name in "fghpq"])
         great = rich_walk(*body, ("for", "x", "k", "y", ()), ("for", "x", "n", "y", ()))
-        self.raises(OtherFinds, {"one": great.finds(), "other": rich_walk(word="one").finds()}, unbeaten, great, Sizes(rich_walk(word="one")))
+        self.raises(OtherFinds, {"one": great.finds(), "other": rich_walk(word="one").finds()}, unbeaten, great,
+                    Sizes(rich_walk(word="one")))
 
 
 if __name__ == "__main__":

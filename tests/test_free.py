@@ -11,7 +11,6 @@ from fetchwalks.numbers import most, most_by_link, most_kept
 from fetchwalks.places import kept_places
 from fetchwalks.plans import Plan
 from fetchwalks.runs import touched
-from fetchwalks.schemas import Schema
 from fetchwalks.sessions import Session, questions
 from fetchwalks.sizes import Sizes
 from fetchwalks.stores import Store

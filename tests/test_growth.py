@@ -99,13 +99,16 @@ class Leading(GrowthTest):
     def test_multiples(self):
         self.assertEqual(leading(1 + n + m), [product(n=1), product(m=1)])
         self.assertEqual(leading(1 + 2 * n + n * m), [product(n=1, m=1)])
-        self.assertEqual(leading(n ** 2 + n * m + m + 5 * m ** 3 + k), sorted([product(n=2), product(n=1, m=1), product(m=3), product(k=1)]))
+        self.assertEqual(leading(n ** 2 + n * m + m + 5 * m ** 3 + k),
+                         sorted([product(n=2), product(n=1, m=1), product(m=3), product(k=1)]))
         self.assertEqual(leading(n ** 8 * m + n ** 8 + m), [product(n=8, m=1)])
 
     def test_terms_below_0(self):
         # n m - n is n (m - 2) + n; all leading products have coefficients above 0.
-        for total, wanted in ((n * m - n, [product(n=1, m=1)]), (n - 1 + m, [product(n=1), product(m=1)]), (n * (m - 1) * (k - 1), [product(n=1, m=1, k=1)]),
-                              (m * m - 2 * m + n, [product(m=2), product(n=1)]), ((m - 2) ** 3 + 1, [product(m=3)]), (n * (m - 2) * (k - 2), [product(n=1, m=1, k=1)])):
+        for total, wanted in ((n * m - n, [product(n=1, m=1)]), (n - 1 + m, [product(n=1), product(m=1)]),
+                              (n * (m - 1) * (k - 1), [product(n=1, m=1, k=1)]),
+                              (m * m - 2 * m + n, [product(m=2), product(n=1)]), ((m - 2) ** 3 + 1, [product(m=3)]),
+                              (n * (m - 2) * (k - 2), [product(n=1, m=1, k=1)])):
             self.assertEqual(leading(total), sorted(wanted))
 
     def test_no_positive_sums(self):
@@ -285,11 +288,15 @@ class Papers(GrowthTest):
         right = {product(n=1, m=1): halves, product(k=1): whole}
         self.assertTrue(are_shares(one, other, right))
         spoilt = ODD + [{}, {product(n=1, m=1): halves}, {product(k=1): whole}, {**right, product(n=1): whole}, list(right.items())]
-        spoilt += [{product(n=1, m=1): halves, value: whole} for value in (product(k=2), "k", 1, None, (("list", "k", True),), (("list", "k"),), ((1, "k", 1),))]
+        spoilt += [{product(n=1, m=1): halves, value: whole} for value in (product(k=2), "k", 1, None, (("list", "k", True),),
+                (("list", "k"),), ((1, "k", 1),))]
         rows = [[], halves[:1], whole, halves + whole, halves + [(product(k=2), 1, 10 ** 9)], [list(row) for row in halves], None, 1,
-                [(product(n=2), 2, 3), (product(m=2), 1, 3)], [(product(n=2), 1, 2), (product(m=2), 2, 4), (product(k=2), 1, 4)], dict(enumerate(halves)),
-                [(product(n=2), 1, 2), (product(n=1, m=1), 1, 2)], [(product(n=2), -1, 2), (product(m=2), 3, 2)], [(product(n=2), 1, -2), (product(m=2), 3, 2)],
-                [(product(n=2), 1, 2), (product(m=2), 1, 0)], [(product(n=2), True, 2), (product(m=2), 1, 2)], [(product(n=2), 1, 2), (product(m=2), 1)],
+                [(product(n=2), 2, 3), (product(m=2), 1, 3)], [(product(n=2), 1, 2), (product(m=2), 2, 4), (product(k=2), 1, 4)],
+                dict(enumerate(halves)),
+                [(product(n=2), 1, 2), (product(n=1, m=1), 1, 2)], [(product(n=2), -1, 2), (product(m=2), 3, 2)],
+                [(product(n=2), 1, -2), (product(m=2), 3, 2)],
+                [(product(n=2), 1, 2), (product(m=2), 1, 0)], [(product(n=2), True, 2), (product(m=2), 1, 2)],
+                [(product(n=2), 1, 2), (product(m=2), 1)],
                 [(product(n=2), 1, 2), (product(m=2), 1, 2, 1)], [(list(product(n=2)), 1, 2), halves[1]], [(([*N, 2],), 1, 2), halves[1]],
                 [None, halves[1]], [(None, 1, 2), halves[1]], [("x", 1, 2), halves[1]], "ab"]
         spoilt += [{**right, product(n=1, m=1): value} for value in rows]
@@ -313,10 +320,14 @@ class Papers(GrowthTest):
         one, other, lead = n * m + k, n ** 2 + k, product(n=1, m=1)
         right = {N: 0, M: 1, K: 0}
         self.assertTrue(is_direction(one, other, (lead, right)))
-        spoilt = ODD + [right, [lead, right], (lead,), (lead, right, 1), (lead, {}), (lead, {N: 0, M: 1}), (lead, {M: 1}), (product(k=1), right)]
-        spoilt += [(lead, {**right, ("list", "x"): 0}), (lead, {**right, N: 1}), (lead, {**right, N: -1}), (lead, {**right, M: True}), (lead, {**right, K: False})]
-        spoilt += [(lead, {**right, M: None}), (lead, {**right, K: 1}), (lead, list(right.items())), (lead, {N: 0, M: 1, "k": 0}), (lead, None), (lead, 1)]
-        spoilt += [(value, right) for value in ODD + [list(lead), (list(N) + [1], M + (1,)), product(n=2), product(m=1), (N + (True,), M + (1,)), (N, M), lead * 2]]
+        spoilt = ODD + [right, [lead, right], (lead,), (lead, right, 1), (lead, {}), (lead, {N: 0, M: 1}), (lead, {M: 1}),
+                        (product(k=1), right)]
+        spoilt += [(lead, {**right, ("list", "x"): 0}), (lead, {**right, N: 1}), (lead, {**right, N: -1}), (lead, {**right, M: True}),
+                   (lead, {**right, K: False})]
+        spoilt += [(lead, {**right, M: None}), (lead, {**right, K: 1}), (lead, list(right.items())), (lead, {N: 0, M: 1, "k": 0}),
+                   (lead, None), (lead, 1)]
+        spoilt += [(value, right) for value in ODD + [list(lead), (list(N) + [1], M + (1,)), product(n=2), product(m=1),
+                                                      (N + (True,), M + (1,)), (N, M), lead * 2]]
         for value in spoilt:
             self.assertIs(is_direction(one, other, value), False)
         # There is none.
@@ -346,7 +357,8 @@ class Papers(GrowthTest):
 
 class Errors(GrowthTest):
     def asks(self):
-        return [grows_no_faster, shares, direction, lambda one, other: are_shares(one, other, None), lambda one, other: is_direction(one, other, None)]
+        return [grows_no_faster, shares, direction, lambda one, other: are_shares(one, other, None),
+                lambda one, other: is_direction(one, other, None)]
 
     def test_no_sums(self):
         for ask in self.asks():

@@ -13,7 +13,7 @@ from fetchwalks.plans import Plan
 from fetchwalks.runs import looped_lists, touched
 from fetchwalks.schemas import Schema
 from fetchwalks.sizes import Sizes
-from fetchwalks.walkpairs import are_maps, is_parting, is_within, parting
+from fetchwalks.walkpairs import are_maps, is_parting, is_within
 from fetchwalks.walks import Walk
 from samples import ODD, layered_schema, layered_words, rich_schema, shop_schema, tree_body
 
@@ -61,7 +61,8 @@ class Claims(JudgeTest):
 
     def right(self):
         walk, late, sizes = self.walk, self.late, self.sizes
-        return [("most", walk, late, sizes, 19), ("most", walk, late, sizes, 0), ("keeps", walk, late, sizes, 10 ** 400), ("grows", walk, late),
+        return [("most", walk, late, sizes, 19), ("most", walk, late, sizes, 0), ("keeps", walk, late, sizes, 10 ** 400),
+                ("grows", walk, late),
                 ("bounded", walk, late, 0), ("bounded", walk, late, 5), ("within", walk, shop_walk()), ("apart", walk, walk)]
 
     def test_right_ones(self):
@@ -70,10 +71,13 @@ class Claims(JudgeTest):
             self.assertIs(is_claim(value=claim), True)
 
     def test_any_values(self):
-        values = ODD + list(KINDS) + [("most",), ("grows",), ("most", None), ("walk", self.walk, self.late), self.walk, ("Grows", self.walk, self.late)]
-        others = ODD + [self.walk, self.late, self.sizes, shop_schema(), -1, "19", b"1", 3, rich_walk(), Plan(rich_schema()), Sizes(rich_walk())]
+        values = ODD + list(KINDS) + [("most",), ("grows",), ("most", None), ("walk", self.walk, self.late), self.walk,
+                                      ("Grows", self.walk, self.late)]
+        others = ODD + [self.walk, self.late, self.sizes, shop_schema(), -1, "19", b"1", 3, rich_walk(), Plan(rich_schema()),
+                        Sizes(rich_walk())]
         for claim in self.right():
-            values += [list(claim), claim + (1,), claim + (self.walk,), claim[:-1], claim[1:], (claim[0].upper(),) + claim[1:], (None,) + claim[1:]]
+            values += [list(claim), claim + (1,), claim + (self.walk,), claim[:-1], claim[1:], (claim[0].upper(),) + claim[1:],
+                       (None,) + claim[1:]]
             for position in range(len(claim)):
                 for other in others:
                     if not self.fits(claim, position, other):
@@ -110,7 +114,8 @@ class Numbers(JudgeTest):
                 self.shown((word, self.walk, self.late, self.sizes, wrong), False)
 
     def test_bounded(self):
-        for words, number in (({"buyer": "along", "orders": "along", "place": "along"}, 1), ({"buyer": "ahead", "orders": "ahead", "place": "ahead"}, 5)):
+        for words, number in (({"buyer": "along", "orders": "along", "place": "along"}, 1),
+                              ({"buyer": "ahead", "orders": "ahead", "place": "ahead"}, 5)):
             plan = shop_plan(**words)
             self.shown(("bounded", self.walk, plan, number), True)
             self.shown(("bounded", self.walk, plan, number + 1), False)
@@ -131,7 +136,8 @@ class Numbers(JudgeTest):
         claim, table = ("most", self.walk, self.late, self.sizes, 19), place_table(self.walk)
         spoilt = [{}, list(table), list(table.items()), {spot: table[spot] for spot in list(table)[1:]}, {**table, (0, 1): []}]
         for spot in table:
-            for rows in (table[spot][1:], table[spot] * 2, table[spot] + [("o", "place", "x")], None, 1, {place: True for place in table[spot]}, [list(place) for place in table[spot]]):
+            for rows in (table[spot][1:], table[spot] * 2, table[spot] + [("o", "place", "x")], None, 1,
+                         {place: True for place in table[spot]}, [list(place) for place in table[spot]]):
                 spoilt.append({**table, spot: rows})
         spoilt.append({(False,) if spot == (0,) else spot: table[spot] for spot in table})
         spoilt.append({**{spot: table[spot] for spot in table if spot != (0, 0)}, (0, False): table[0, 0]})
@@ -163,8 +169,10 @@ class Growing(JudgeTest):
         head = walk.statement(spot)
         self.assertEqual([head[0] in ("go", "for"), plan[head[2]]], [True, "late"])
         self.assertTrue(is_certificate(claim, (spot, tuple(choices))))
-        for wrong in ((spot, choices + ["same"]), (spot, choices[1:] if choices else ["another"]), [spot, choices], (spot,), (spot, choices, 1), (spot, None), (None, choices),
-                      (list(spot), choices), (spot, [None] * len(choices) + [None]), (spot, {choice: 1 for choice in choices} or {1: 1}), ((9,), choices), (spot[:1], choices),
+        for wrong in ((spot, choices + ["same"]), (spot, choices[1:] if choices else ["another"]), [spot, choices], (spot,),
+                      (spot, choices, 1), (spot, None), (None, choices),
+                      (list(spot), choices), (spot, [None] * len(choices) + [None]), (spot, {choice: 1 for choice in choices} or {1: 1}),
+                      ((9,), choices), (spot[:1], choices),
                       ((False,) * len(spot), choices), (spot, "same"), (spot, [["same"]])):
             self.assertIs(is_certificate(claim, wrong), False)
         return told
@@ -216,7 +224,8 @@ class Growing(JudgeTest):
             self.assertTrue(is_certificate(claim, ((0, 0, 0, 0), choices)))
 
     def test_a_find_with_the_name_of_a_field(self):
-        walk = Walk(shop_schema(), [("find", "buyer", "customer", "many", (("for", "buyer", "orders", "p", (("go", "p", "buyer", "c", ()),)),))])
+        walk = Walk(shop_schema(), [("find", "buyer", "customer", "many",
+                                     (("for", "buyer", "orders", "p", (("go", "p", "buyer", "c", ()),)),))])
         self.assertFalse(is_certificate(("grows", walk, shop_plan(orders="along")), ((0, 0, 0), [])))
         self.assertIsNone(certificate_of(("grows", walk, shop_plan(orders="along"))))
 
@@ -272,8 +281,10 @@ class Pairs(JudgeTest):
         one, other = shop_walk(GO_PLACE), shop_walk()
         claim = ("apart", one, other)
         store, roots, thing = certificate_of(claim)
-        for value in [[store, roots, thing], (store, roots), (store, roots, thing, 1), (store, {}, thing), (None, roots, thing), (store, roots, ("object", "shop", True)),
-                      (store, roots, ("object", "order", 1)), (store, roots, ("list", "shop", 1)), (store, {"o": []}, thing), (store, roots, None)]:
+        for value in [[store, roots, thing], (store, roots), (store, roots, thing, 1), (store, {}, thing), (None, roots, thing),
+                      (store, roots, ("object", "shop", True)),
+                      (store, roots, ("object", "order", 1)), (store, roots, ("list", "shop", 1)), (store, {"o": []}, thing),
+                      (store, roots, None)]:
             self.assertIs(is_certificate(claim, value), False)
         claim = ("within", other, one)
         value = certificate_of(claim)
@@ -325,7 +336,8 @@ class Together(JudgeTest):
             classes = bound(walk, plan)
             self.shown(("bounded", walk, plan, asked), classes is not None)
             self.shown(("grows", walk, plan), classes is None)
-            self.assertIs(is_certificate(value=certificate_of(claim=("most", walk, plan, sizes, asked)), claim=("most", walk, plan, sizes, asked)), True)
+            self.assertIs(is_certificate(value=certificate_of(claim=("most", walk, plan, sizes, asked)),
+                                         claim=("most", walk, plan, sizes, asked)), True)
 
     def test_great_walks(self):
         walk = Walk(layered_schema(), [("find", "x", "a", "many", tree_body(100))])

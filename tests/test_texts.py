@@ -113,13 +113,16 @@ class ReadBack(TextTest):
         self.assertEqual(read_plan(rich_schema(), "f along\nh ahead\n"), Plan.of(rich_schema(), f="along", h="ahead"))
 
     def test_names_that_are_words_of_texts(self):
-        words = ["kind", "field", "list", "single", "flag", "block", "find", "go", "for", "if", "call", "one", "many", "late", "along", "ahead"]
+        words = ["kind", "field", "list", "single", "flag", "block", "find", "go", "for", "if", "call", "one", "many", "late", "along",
+                 "ahead"]
         fields = {name: ("kind", "field" if at % 2 else "kind", back, at % 3 == 0) for at, (name, back) in enumerate([
             ("kind", "field"), ("list", "single"), ("flag", None), ("block", "find"), ("go", "for"), ("if", "call"), ("one", None)])}
-        schema = Schema(["kind", "field", "list", "flag", "single", "find"], fields, {name: "kind" for name in ("many", "late", "along", "ahead")})
+        schema = Schema(["kind", "field", "list", "flag", "single", "find"], fields,
+                        {name: "kind" for name in ("many", "late", "along", "ahead")})
         self.assertEqual(read_schema(schema_text(schema)), schema)
         finds = [("find", name, "kind", "one", (("if", name, "many", (("call", "find", name),)),)) for name in ("find", "block", "call")]
-        blocks = [("block", "find", "kind", "if", (("go", "if", "go", "go", (("for", "go", "for", "for", ()),)),)), ("block", "block", "field", "block", ())]
+        blocks = [("block", "find", "kind", "if", (("go", "if", "go", "go", (("for", "go", "for", "for", ()),)),)),
+                  ("block", "block", "field", "block", ())]
         for walk in (Walk(schema, finds, blocks), Walk(schema, finds[:1] + [("find", "if", "list", "many", ())], blocks[:1])):
             self.assertEqual(read_walk(schema, walk_text(walk)), walk)
         for word in words:
@@ -170,7 +173,8 @@ class WrongSchemas(TextTest):
         self.wrong(1, "flag u a\n")
 
     def test_kinds(self):
-        for line in ["kind", "kind ", "kind a b", "Kind a", "kind A", " kind a", "kind a ", "kind  a", "kind abcdefghi", "kind a1", "kinda", "kinds a",
+        for line in ["kind", "kind ", "kind a b", "Kind a", "kind A", " kind a", "kind a ", "kind  a", "kind abcdefghi", "kind a1",
+                     "kinda", "kinds a",
                      "kind a_b", "kind 1", "kind a\tb", "KIND a", "kind a  ", "  kind a"]:
             self.wrong(1, line + "\n")
             self.wrong(2, "kind a\n" + line.replace("a", "b") + "\nfield f a a\n")
@@ -182,10 +186,14 @@ class WrongSchemas(TextTest):
 
     def test_fields(self):
         ahead = "kind a\nkind b\nfield f a b list l\n"
-        for line in ["field", "field g", "field g a", "field g a c", "field g c a", "field G a b", "field g a b list", "field g a b list m n", "field g a b m",
-                     "field g a b singles", "field g a b single list m", "field g a b single single", "field g a b list m single single", "field f a b",
-                     "field e a b", "field l a b", "field g a b list f", "field g a b list l", "field g a b list g", "field g a b list M", "field  g a b",
-                     "field g a b ", " field g a b", "field g a b list  m", "field g a b list abcdefghi", "Field g a b", "field g a b  single", "field g a b List m",
+        for line in ["field", "field g", "field g a", "field g a c", "field g c a", "field G a b", "field g a b list",
+                     "field g a b list m n", "field g a b m",
+                     "field g a b singles", "field g a b single list m", "field g a b single single", "field g a b list m single single",
+                     "field f a b",
+                     "field e a b", "field l a b", "field g a b list f", "field g a b list l", "field g a b list g", "field g a b list M",
+                     "field  g a b",
+                     "field g a b ", " field g a b", "field g a b list  m", "field g a b list abcdefghi", "Field g a b",
+                     "field g a b  single", "field g a b List m",
                      "field abcdefghi a b", "", "list m", "single", "field g a b list list list", "field g a b single m"]:
             self.wrong(4, ahead + line + "\n")
             self.wrong(4, ahead + line + "\nkind z\n")
@@ -197,7 +205,8 @@ class WrongSchemas(TextTest):
 
     def test_flags(self):
         ahead = "kind a\nkind b\nfield f a b list l\nflag u a\n"
-        for line in ["flag", "flag v", "flag v a b", "flag v c", "flag u b", "flag t a", "flag V a", "flag v A", "flag  v a", "flag v a ", " flag v a", "Flag v a",
+        for line in ["flag", "flag v", "flag v a b", "flag v c", "flag u b", "flag t a", "flag V a", "flag v A", "flag  v a", "flag v a ",
+                     " flag v a", "Flag v a",
                      "flags v a", "flag abcdefghi a", "flag f a", "flag l a", "flag v l", "", "kind c", "field g a b"]:
             self.wrong(5, ahead + line + "\n")
         self.wrong(4, "kind a\nfield w a a list v\nflag u a\nflag v a\n")
@@ -218,12 +227,15 @@ class WrongWalks(TextTest):
 
     def test_heads(self):
         schema = rich_schema()
-        for line in ["find", "find y", "find y a", "find y c many", "find y a two", "find y a Many", "find Y a one", "find y A one", "find y a one one", "find x a one",
-                     " find y a one", "find  y a one", "find y a one ", "Find y a one", "finds y a one", "find abcdefghi a one", "go x f y", "call t x", "if x u", "y a one",
+        for line in ["find", "find y", "find y a", "find y c many", "find y a two", "find y a Many", "find Y a one", "find y A one",
+                     "find y a one one", "find x a one",
+                     " find y a one", "find  y a one", "find y a one ", "Find y a one", "finds y a one", "find abcdefghi a one",
+                     "go x f y", "call t x", "if x u", "y a one",
                      "for x k y", "block r a x", ""]:
             self.wrong(4, "block t a x\nfind x a many\n  go x f y\n" + line + "\n", schema)
             self.wrong(4, "block t a x\nfind x a many\n  go x f y\n" + line + "\nfind\n", schema)
-        for line in ["block", "block s", "block s a", "block s c x", "block s a X", "block S a x", "block t a x", "block s a x x", " block s a x", "block  s a x",
+        for line in ["block", "block s", "block s a", "block s c x", "block s a X", "block S a x", "block t a x", "block s a x x",
+                     " block s a x", "block  s a x",
                      "block s a x ", "Block s a x", "block s a abcdefghi", "blocks s a x"]:
             self.wrong(3, "block t a x\n  go x f y\n" + line + "\nfind x a many\n", schema)
         # The names of blocks, finds and variables are independent.
@@ -235,7 +247,8 @@ class WrongWalks(TextTest):
         schema = rich_schema()
         self.wrong(1, "  find x a one\n", schema)
         self.wrong(1, "  go x f y\n", schema)
-        for line in [" go x f y", "   go x f y", "    go x f y", "      go x f y", "go x f y", "  find y a one", "  block s a x", "  go x f y ", "  go  x f y"]:
+        for line in [" go x f y", "   go x f y", "    go x f y", "      go x f y", "go x f y", "  find y a one", "  block s a x",
+                     "  go x f y ", "  go  x f y"]:
             self.wrong(2, "find x a many\n" + line + "\n", schema)
         self.wrong(4, "block t a x\nfind x a many\n  call t x\n    go x f y\n", schema)
         self.wrong(4, "find x a many\n  go x f y\n  go x f y\n      go x p z\n", schema)
@@ -244,9 +257,12 @@ class WrongWalks(TextTest):
     def test_statements(self):
         schema = rich_schema()
         ahead = "block t b x\nblock s a x\nfind x a many\n  go x p y\n    "
-        for line in ["go", "go y f", "go y f z w", "go z f w", "go y l w", "go y i w", "go y f x", "go y f y", "go y f Z", "go Y f z", "go y x z", "go y u z", "Go y f z", "go y f abcdefghi",
-                     "for y f z", "for y l z", "for y k x", "for y k", "For y k z", "for z k w", "if y", "if y w", "if y f", "if z u", "if y u u", "if Y u", "call t y", "call r y", "call s z",
-                     "call s", "call s y y", "call S y", "calls s y", "go y  f z", "go y f z ", "", "find z a one", "x", "block r a x", "while y k z"]:
+        for line in ["go", "go y f", "go y f z w", "go z f w", "go y l w", "go y i w", "go y f x", "go y f y", "go y f Z", "go Y f z",
+                     "go y x z", "go y u z", "Go y f z", "go y f abcdefghi",
+                     "for y f z", "for y l z", "for y k x", "for y k", "For y k z", "for z k w", "if y", "if y w", "if y f", "if z u",
+                     "if y u u", "if Y u", "call t y", "call r y", "call s z",
+                     "call s", "call s y y", "call S y", "calls s y", "go y  f z", "go y f z ", "", "find z a one", "x", "block r a x",
+                     "while y k z"]:
             self.wrong(5, ahead + line + "\n", schema)
             self.wrong(5, ahead + line + "\n    go y f z\n  go\n", schema)
         for line in ["go y f z", "for y k z", "if y u", "call s y", "call s x", "if x u", "go x f z"]:
@@ -276,10 +292,12 @@ class WrongWalks(TextTest):
         self.wrong(15, deep + "find y a one\n", schema)
         self.wrong(15, deep + "find y a one", schema)
         self.wrong(15, deep + "go\nfind y a one\n", schema)
-        loops = "find x a many\n" + "".join([f"{'  ' * depth}for {x} k {y}\n" for depth, (x, y) in enumerate(zip("xyzvw", "yzvwu"), start=1)])
+        loops = "find x a many\n" + "".join([f"{'  ' * depth}for {x} k {y}\n" for depth,
+                                             (x, y) in enumerate(zip("xyzvw", "yzvwu"), start=1)])
         self.wrong(6, loops, schema)
         read_walk(schema, "\n".join(loops.split("\n")[:-2]) + "\n")
-        blocks = "block a a x\n  go x f y\n" + "".join([f"block {name} a x\n" + f"  call {before} x\n" * 9 for before, name in zip("abcde", "bcdef")])
+        blocks = "block a a x\n  go x f y\n" + "".join([f"block {name} a x\n" + f"  call {before} x\n" * 9 for before,
+                                                        name in zip("abcde", "bcdef")])
         self.wrong(54, blocks + "find x a many\n  call f x\n", schema)
         self.wrong(52, blocks, schema)
         # Very deep, and still the last line.
@@ -299,7 +317,8 @@ class WrongWalks(TextTest):
 
 class WrongPlans(TextTest):
     def test_lines(self):
-        for line in ["f", "f late", "f Along", "F along", "f along along", " f along", "f  along", "f along ", "x along", "", "along f", "f ahea", "u along", "a along", "i"]:
+        for line in ["f", "f late", "f Along", "F along", "f along along", " f along", "f  along", "f along ", "x along", "", "along f",
+                     "f ahea", "u along", "a along", "i"]:
             self.wrong_plan(1, line + "\n")
             self.wrong_plan(2, "f along\n" + line.replace("f", "g") + "\nf\n")
         self.wrong_plan(2, "g along\nf along\n")
@@ -454,8 +473,10 @@ class Oracles(TextTest):
         told = set()
         for _ in range(800):
             schema = wide_schema(chance)
-            text = spoilt(chance, plan_text(chance_plan(chance, schema)), [f"{link} {word}" for link in schema.links() for word in Plan.WORDS])
-            told.add(self.check(text, lambda lines: begins_plan(schema, lines), lambda lines: read_plan(schema, lines), lambda lines: False))
+            text = spoilt(chance, plan_text(chance_plan(chance, schema)),
+                          [f"{link} {word}" for link in schema.links() for word in Plan.WORDS])
+            told.add(self.check(text, lambda lines: begins_plan(schema, lines), lambda lines: read_plan(schema, lines),
+                                lambda lines: False))
         self.assertGreater(len(told), 4)
 
 

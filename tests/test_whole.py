@@ -54,7 +54,8 @@ def shop_editor():
 
 def shop_desk():
     desk = Desk()
-    desk.do_all("schema s kind a | kind b | field f a b list g", "walk w s find x a many |   go x f y", "plan p s", "store t s", "row t b 1")
+    desk.do_all("schema s kind a | kind b | field f a b list g", "walk w s find x a many |   go x f y", "plan p s", "store t s",
+                "row t b 1")
     return desk
 
 
@@ -64,9 +65,11 @@ def things():
     sizes = Sizes.of(walk, ("find", "o", 3), ("list", "orders", 4))
     n, m = Sum.size("find", "o"), Sum.size("list", "orders")
     return {
-        "walk": walk, "one": less, "other": walk, "schema": shop_schema(), "store": shop_store(), "plan": Plan.of(shop_schema(), place="along"),
+        "walk": walk, "one": less, "other": walk, "schema": shop_schema(), "store": shop_store(),
+        "plan": Plan.of(shop_schema(), place="along"),
         "sizes": sizes, "roots": {"o": [1, 2]}, "total": n * m + n, "editor": shop_editor(), "spot": (0, 0, 0), "loop": (0, 0, 0),
-        "place": ("o", "place"), "route": ("o", "buyer", "orders", "place"), "link": "buyer", "links": ["buyer", "orders"], "words": [("buyer", "along")],
+        "place": ("o", "place"), "route": ("o", "buyer", "orders", "place"), "link": "buyer", "links": ["buyer", "orders"],
+        "words": [("buyer", "along")],
         "changes": [("order", 2, "buyer", None)], "ask": repr_of, "claim": ("most", walk, Plan(shop_schema()), sizes, 19), "path": (0, 0),
         "kind": "order", "number": 1, "text": "kind a\n", "name": "buyer", "value": None, "find": "o",
     }
@@ -78,7 +81,8 @@ def repr_of(thing):
 
 # What is passed where the names of the parameters do not tell it.
 SPECIAL = {
-    "read_route": {"text": "o.buyer.orders"}, "read_walk": {"text": "find o order many\n  go o buyer c\n"}, "read_plan": {"text": "buyer along\n"},
+    "read_route": {"text": "o.buyer.orders"}, "read_walk": {"text": "find o order many\n  go o buyer c\n"},
+    "read_plan": {"text": "buyer along\n"},
     "is_route": {"value": ("o", "buyer")}, "is_place": {"value": ("o", "buyer")}, "leads": {"place": ("o", "buyer"), "link": "orders"},
     "can_follow": {"one": "buyer", "other": "orders"}, "shows_place": {"value": ((0, 0, 0, 0), ["same"])},
     "grows_no_faster": "sums", "shares": "sums", "direction": "sums", "are_shares": "sums", "is_direction": "sums",
@@ -233,7 +237,8 @@ def methods():
     rows = [(shop_schema, name, {}) for name in ("kinds", "fields", "flags", "links")]
     rows += [(shop_schema, name, {"link": "orders"}) for name in ("kind_of", "target_of", "back_of", "is_list", "is_single")]
     rows += [(shop_schema, name, {"kind": "order"}) for name in ("links_from", "flags_of")]
-    rows += [(shop_store, "ids", {"kind": "order"}), (shop_store, "members", {"link": "orders", "number": 1}), (shop_store, "rows", {}), (shop_store, "copy", {})]
+    rows += [(shop_store, "ids", {"kind": "order"}), (shop_store, "members", {"link": "orders", "number": 1}), (shop_store, "rows", {}),
+             (shop_store, "copy", {})]
     rows += [(lambda: walk, name, {}) for name in ("finds", "written_out", "spots", "loops")]
     rows += [(lambda: walk, name, {"spot": (0, 0, 0)}) for name in ("kind_of", "route", "owner_of")]
     rows += [(lambda: walk, name, {"path": (0, 0, 0)}) for name in ("statement", "without")]
@@ -242,12 +247,16 @@ def methods():
     rows += [(shop_session, name, {}) for name in ("log", "objects", "lists", "by_label", "by_link", "copy")]
     rows += [(shop_session, "keeps", {"kind": "order", "number": 1}), (shop_session, "keeps_list", {"link": "orders", "number": 1})]
     rows += [(shop_session, "take_plan", {"plan": plan})]
-    rows += [(lambda: touched_places(walk), "rows", {}), (lambda: touched_places(walk), "of_find", {"name": "o"}), (lambda: touched_places(walk), "ending", {"link": "buyer"})]
-    rows += [(lambda: touched_places(walk), "below", {"place": ("o", "buyer")}), (lambda: touched_places(walk), "is_part_of", {"other": touched_places(walk)})]
+    rows += [(lambda: touched_places(walk), "rows", {}), (lambda: touched_places(walk), "of_find", {"name": "o"}),
+             (lambda: touched_places(walk), "ending", {"link": "buyer"})]
+    rows += [(lambda: touched_places(walk), "below", {"place": ("o", "buyer")}),
+             (lambda: touched_places(walk), "is_part_of", {"other": touched_places(walk)})]
     rows += [(sizes.copy, name, {}) for name in ("names", "copy")] + [(sizes.copy, "fault", {"store": store, "roots": {"o": [1]}})]
     rows += [(lambda: n * n - 1, name, {}) for name in ("products", "shifted")] + [(lambda: n - 1, "at_most", {"other": n})]
-    rows += [(shop_editor, "change", {"kind": "order", "number": 2, "name": "buyer", "value": None}), (shop_editor, "shown", {"kind": "order", "number": 1})]
-    rows += [(shop_editor, "members_shown", {"link": "orders", "number": 1})] + [(shop_editor, name, {}) for name in ("changed", "undo", "save", "copy")]
+    rows += [(shop_editor, "change", {"kind": "order", "number": 2, "name": "buyer", "value": None}),
+             (shop_editor, "shown", {"kind": "order", "number": 1})]
+    rows += [(shop_editor, "members_shown", {"link": "orders", "number": 1})] + [(shop_editor, name, {}) for name in ("changed", "undo",
+            "save", "copy")]
     rows += [(shop_desk, "do", {"command": "places w"}), (shop_desk, "do", {"command": "drop p"}), (shop_desk, "named", {"name": "t"})]
     rows += [(shop_desk, name, {}) for name in ("undo", "names", "log", "do_all")]
     return rows
@@ -295,9 +304,11 @@ class Comparisons(unittest.TestCase):
         log = questions(shop_store(), plan, walk, {"o": [1]})
         late = questions(shop_store(), Plan(shop_schema()), walk, {"o": [1]})
         rows = [
-            (shop_schema, Schema(["order", "customer", "shop"], {})), (shop_store, Store(shop_schema())), (lambda: shop_walk(DEEP), shop_walk(FLAT)),
+            (shop_schema, Schema(["order", "customer", "shop"], {})), (shop_store, Store(shop_schema())),
+            (lambda: shop_walk(DEEP), shop_walk(FLAT)),
             (lambda: Plan.of(shop_schema(), place="along"), Plan(shop_schema())), (lambda: touched_places(shop_walk(DEEP)), Places(walk)),
-            (lambda: Sizes(shop_walk(DEEP)), Sizes.of(walk, ("find", "o", 2))), (lambda: most(shop_walk(DEEP), Plan(shop_schema())), Sum(7)),
+            (lambda: Sizes(shop_walk(DEEP)), Sizes.of(walk, ("find", "o", 2))),
+            (lambda: most(shop_walk(DEEP), Plan(shop_schema())), Sum(7)),
             (lambda: answer_classes(shop_walk(DEEP), Plan(shop_schema()))[1], answer_classes(walk, Plan(shop_schema()))[2]),
         ]
         for told in (log, late):
@@ -380,7 +391,8 @@ class Program(unittest.TestCase):
     def test_no_store_asks_more(self):
         for chance, schema, walk, _ in self.given(102, 200):
             store, plan = chance_store(chance, schema), chance_plan(chance, schema)
-            roots = {name: chance.sample(store.ids(kind), 1 if word == "one" else len(store.ids(kind))) for name, kind, word in walk.finds()}
+            roots = {name: chance.sample(store.ids(kind), 1 if word == "one" else len(store.ids(kind))) for name, kind,
+                     word in walk.finds()}
             sizes = least_sizes(walk, store, roots)
             self.assertIsNone(sizes.fault(store, roots))
             asked, kept = asked_and_kept(walk, plan, store, roots)
@@ -415,10 +427,12 @@ class Program(unittest.TestCase):
             roots = {name: store.ids(kind)[:1 if word == "one" else 9] for name, kind, word in one.finds()}
             self.assertTrue(is_within(one, both) and covers(both, one) and covers(both, other))
             self.assertEqual(touched(both, store, roots), sorted(set(touched(one, store, roots) + touched(other, store, roots))))
-            self.assertEqual(looped_lists(both, store, roots), sorted(set(looped_lists(one, store, roots) + looped_lists(other, store, roots))))
+            self.assertEqual(looped_lists(both, store, roots), sorted(set(looped_lists(one, store, roots) + looped_lists(other, store,
+                    roots))))
             slim = lean(both)
             self.assertTrue(are_alike(slim, both) and needless(slim) == [])
-            self.assertEqual([touched(slim, store, roots), looped_lists(slim, store, roots)], [touched(both, store, roots), looped_lists(both, store, roots)])
+            self.assertEqual([touched(slim, store, roots), looped_lists(slim, store, roots)],
+                             [touched(both, store, roots), looped_lists(both, store, roots)])
             plan, late = chance_plan(chance, schema), Plan(schema)
             self.assertEqual(touched_places(both), touched_places(one) | touched_places(other))
             self.assertEqual(looped_places(both), sorted(set(looped_places(one) + looped_places(other))))
