@@ -7,8 +7,13 @@ MOST_PLANS = 20
 MOST_WALKS = 40
 
 
+class Mark:
+    """Stands for a walk where others remember something about it, so that these do not hold on to all it remembers."""
+
+
 class Memory:
     def __init__(self):
+        self.mark = Mark()
         self.known = {}
         # From the factors of weights to their terms.
         self.weights = {}
@@ -26,8 +31,8 @@ class Memory:
 
     def of_walk(self, other):
         """The dict of what is known about the walk beside the one with this other memory."""
-        if other not in self._by_walk:
+        if other.mark not in self._by_walk:
             if len(self._by_walk) >= MOST_WALKS:
                 self._by_walk = {}
-            self._by_walk[other] = {}
-        return self._by_walk[other]
+            self._by_walk[other.mark] = {}
+        return self._by_walk[other.mark]
